@@ -8,6 +8,7 @@ import (
 	"testing"
 
 	"ambit/api"
+	"ambit/oracle"
 )
 
 // 2.7: by the calls alone.
@@ -24,14 +25,14 @@ func TestNeighbours(t *testing.T) {
 			if !isUp || !isDown {
 				continue
 			}
-			v := o.real(exact(a), exact(b))
-			if exact(down).Cmp(v) > 0 || exact(up).Cmp(v) < 0 {
+			v := o.real(oracle.Exact(a), oracle.Exact(b))
+			if oracle.Exact(down).Cmp(v) > 0 || oracle.Exact(up).Cmp(v) < 0 {
 				t.Errorf("%s lies not from %x to %x", o.at(api.Near, a, b), down, up)
 			}
-			if same(up, down) != (exact(up).Cmp(v) == 0) {
+			if oracle.Same(up, down) != (oracle.Exact(up).Cmp(v) == 0) {
 				t.Errorf("%s is a number's value, or from %x to %x", o.at(api.Near, a, b), down, up)
 			}
-			if above, ok := Next(api.Up, down); up != down && !(ok && same(above, up)) {
+			if above, ok := Next(api.Up, down); up != down && !(ok && oracle.Same(above, up)) {
 				t.Errorf("%s: %x and %x are no neighbours", o.at(api.Near, a, b), down, up)
 			}
 		}
@@ -51,7 +52,7 @@ func rising(t *testing.T, name string, l []result) {
 		if l[i].told < l[i-1].told {
 			t.Errorf("%s falls from %x to %x", name, l[i-1].told, l[i].told)
 		}
-		if l[i].real.Cmp(l[i-1].real) == 0 && !same(l[i].told, l[i-1].told) {
+		if l[i].real.Cmp(l[i-1].real) == 0 && !oracle.Same(l[i].told, l[i-1].told) {
 			t.Errorf("%s tells %x and %x of one real", name, l[i-1].told, l[i].told)
 		}
 	}
@@ -60,21 +61,21 @@ func rising(t *testing.T, name string, l []result) {
 // 2.8
 func TestRising(t *testing.T) {
 	t.Parallel()
-	for _, d := range directions() {
+	for _, d := range oracle.Directions() {
 		for _, o := range operations() {
 			var l []result
 			for _, p := range pairs() {
 				if told, ok := o.call(d, p[0], p[1]); ok {
-					l = append(l, result{o.real(exact(p[0]), exact(p[1])), told})
+					l = append(l, result{o.real(oracle.Exact(p[0]), oracle.Exact(p[1])), told})
 				}
 			}
 			rising(t, fmt.Sprint(o.name, d), l)
 		}
 		var l []result
-		for _, a := range edges() {
+		for _, a := range oracle.Edges() {
 			for _, n := range powers(a) {
 				if told, ok := Scale(d, a, n); ok {
-					l = append(l, result{new(big.Rat).Mul(exact(a), power(n)), told})
+					l = append(l, result{new(big.Rat).Mul(oracle.Exact(a), oracle.Power(n)), told})
 				}
 			}
 		}
@@ -93,7 +94,7 @@ func turned(a float64) float64 {
 // 2.9
 func TestTurnedOver(t *testing.T) {
 	other := []api.Dir{api.Near: api.Near, api.Up: api.Down, api.Down: api.Up}
-	for _, d := range directions() {
+	for _, d := range oracle.Directions() {
 		for _, p := range pairs() {
 			a, b := p[0], p[1]
 			for _, o := range operations() {
@@ -117,7 +118,7 @@ func TestTurnedOver(t *testing.T) {
 
 // 2.9
 func TestOrder(t *testing.T) {
-	for _, d := range directions() {
+	for _, d := range oracle.Directions() {
 		for _, p := range pairs() {
 			got, ok := Add(d, p[0], p[1])
 			want, is := Add(d, p[1], p[0])
@@ -132,10 +133,10 @@ func TestOrder(t *testing.T) {
 // 2.10
 func TestScaleAndBack(t *testing.T) {
 	backs := 0
-	for _, a := range append(edges(), minusZero()) {
+	for _, a := range append(oracle.Edges(), oracle.MinusZero()) {
 		for _, n := range powers(a) {
 			r, ok := Scale(api.Near, a, n)
-			if !ok || exact(r).Cmp(new(big.Rat).Mul(exact(a), power(n))) != 0 {
+			if !ok || oracle.Exact(r).Cmp(new(big.Rat).Mul(oracle.Exact(a), oracle.Power(n))) != 0 {
 				continue
 			}
 			backs++
@@ -179,27 +180,27 @@ func plainNought(a float64) float64 {
 	return a
 }
 
-func identical(a, b []float64) bool { return slices.EqualFunc(a, b, same) }
+func identical(a, b []float64) bool { return slices.EqualFunc(a, b, oracle.Same) }
 
 // 2.11
 func TestAnyBits(t *testing.T) {
-	var m mixer
-	extremes := append(append(edges(), noNumbers()...), minusZero())
+	var m oracle.Mixer
+	extremes := append(append(oracle.Edges(), oracle.NoNumbers()...), oracle.MinusZero())
 	pick := func() float64 {
-		if m.word()%2 == 0 {
-			return extremes[m.word()%uint64(len(extremes))]
+		if m.Below(2) == 0 {
+			return extremes[m.Below(len(extremes))]
 		}
-		return math.Float64frombits(m.word())
+		return math.Float64frombits(m.Word())
 	}
 	for range 100000 {
-		d, n := api.Dir(m.word()%4), int(m.word())>>(m.word()%64)
-		if m.word()%16 == 0 {
-			d = api.Dir(m.word())
+		d, n := api.Dir(m.Below(4)), int(m.Word())>>m.Below(64)
+		if m.Below(16) == 0 {
+			d = api.Dir(m.Word())
 		}
 		a, b := pick(), pick()
 		l, is := answers(d, a, b, n)
 		for _, told := range l {
-			if !Number(told) || same(told, minusZero()) {
+			if !Number(told) || oracle.Same(told, oracle.MinusZero()) {
 				t.Fatalf("%v of %d %x %x %d", l, d, a, b, n)
 			}
 		}

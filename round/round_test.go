@@ -7,6 +7,7 @@ import (
 	"testing"
 
 	"ambit/api"
+	"ambit/oracle"
 )
 
 // An operation on two numbers, and the real that it is of (nil: there is none).
@@ -36,12 +37,12 @@ func (o operation) at(d api.Dir, a, b float64) string {
 
 // 2.1
 func TestNumber(t *testing.T) {
-	for _, a := range append(edges(), minusZero(), math.Pi) {
+	for _, a := range append(oracle.Edges(), oracle.MinusZero(), math.Pi) {
 		if !Number(a) {
 			t.Errorf("%x is a number", a)
 		}
 	}
-	for _, a := range noNumbers() {
+	for _, a := range oracle.NoNumbers() {
 		if Number(a) {
 			t.Errorf("%v is no number", a)
 		}
@@ -50,32 +51,32 @@ func TestNumber(t *testing.T) {
 
 // 2.2
 func TestNext(t *testing.T) {
-	var m mixer
-	places := []int{0, 1, 2, ends(), ends() - 1, int(math.Float64bits(1)), int(math.Float64bits(0x1p-1022))}
+	var m oracle.Mixer
+	places := []int{0, 1, 2, oracle.Ends(), oracle.Ends() - 1, int(math.Float64bits(1)), int(math.Float64bits(0x1p-1022))}
 	for range 1000 {
-		places = append(places, int(m.word()%uint64(ends())))
+		places = append(places, m.Below(oracle.Ends()))
 	}
 	for _, p := range places {
 		for _, place := range []int{p, -p, p - 1, 1 - p} {
-			a := numberAt(place)
-			var want rounded
-			want.tell(api.Near, place)
-			want.tell(api.Up, place+1)
-			want.tell(api.Down, place-1)
-			for _, d := range directions() {
+			a := oracle.NumberAt(place)
+			var want oracle.Rounded
+			want.Tell(api.Near, place)
+			want.Tell(api.Up, place+1)
+			want.Tell(api.Down, place-1)
+			for _, d := range oracle.Directions() {
 				got, ok := Next(d, a)
-				expect(t, fmt.Sprintf("Next(%d, %x)", d, a), got, ok, want.number[d], want.is[d])
+				expect(t, fmt.Sprintf("Next(%d, %x)", d, a), got, ok, want.Number[d], want.Is[d])
 			}
 		}
 	}
-	for _, d := range directions() {
-		for _, a := range noNumbers() {
+	for _, d := range oracle.Directions() {
+		for _, a := range oracle.NoNumbers() {
 			got, ok := Next(d, a)
 			expect(t, fmt.Sprintf("Next(%d, %v)", d, a), got, ok, 0, false)
 		}
 	}
-	for _, d := range noDirections() {
-		for _, a := range edges() {
+	for _, d := range oracle.NoDirections() {
+		for _, a := range oracle.Edges() {
 			got, ok := Next(d, a)
 			expect(t, fmt.Sprintf("Next(%d, %x)", d, a), got, ok, 0, false)
 		}
@@ -84,15 +85,15 @@ func TestNext(t *testing.T) {
 
 // 2.2: of noughts and the numbers next to them.
 func TestNextToNought(t *testing.T) {
-	for _, a := range []float64{0, minusZero()} {
-		for d, want := range []float64{0, least, -least} {
+	for _, a := range []float64{0, oracle.MinusZero()} {
+		for d, want := range []float64{0, oracle.Least, -oracle.Least} {
 			got, ok := Next(api.Dir(d), a)
 			expect(t, fmt.Sprintf("Next(%d, %v)", d, a), got, ok, want, true)
 		}
 	}
-	got, ok := Next(api.Up, -least)
+	got, ok := Next(api.Up, -oracle.Least)
 	expect(t, "up from -e", got, ok, 0, true)
-	got, ok = Next(api.Down, least)
+	got, ok = Next(api.Down, oracle.Least)
 	expect(t, "down from e", got, ok, 0, true)
 }
 
@@ -111,22 +112,22 @@ func TestOperations(t *testing.T) {
 // hold holds what the operation tells of a and b against the oracle.
 func (o operation) hold(t *testing.T, a, b float64) {
 	t.Helper()
-	var want rounded
-	if v := o.real(exact(a), exact(b)); v != nil {
-		want = roundings(v)
+	var want oracle.Rounded
+	if v := o.real(oracle.Exact(a), oracle.Exact(b)); v != nil {
+		want = oracle.Roundings(v)
 	}
-	for _, d := range directions() {
+	for _, d := range oracle.Directions() {
 		got, ok := o.call(d, a, b)
-		expect(t, o.at(d, a, b), got, ok, want.number[d], want.is[d])
+		expect(t, o.at(d, a, b), got, ok, want.Number[d], want.Is[d])
 	}
 }
 
 // 2.3, 2.4: what is no number, and what is no direction.
 func TestOperationsRefuse(t *testing.T) {
 	for _, o := range operations() {
-		for _, a := range edges() {
-			for _, bad := range noNumbers() {
-				for _, d := range directions() {
+		for _, a := range oracle.Edges() {
+			for _, bad := range oracle.NoNumbers() {
+				for _, d := range oracle.Directions() {
 					got, ok := o.call(d, a, bad)
 					expect(t, o.at(d, a, bad), got, ok, 0, false)
 					got, ok = o.call(d, bad, a)
@@ -135,7 +136,7 @@ func TestOperationsRefuse(t *testing.T) {
 					expect(t, o.at(d, bad, bad), got, ok, 0, false)
 				}
 			}
-			for _, d := range noDirections() {
+			for _, d := range oracle.NoDirections() {
 				got, ok := o.call(d, a, 1)
 				expect(t, o.at(d, a, 1), got, ok, 0, false)
 			}
@@ -145,9 +146,9 @@ func TestOperationsRefuse(t *testing.T) {
 
 // 2.4: nothing is divided by a nought of either sign.
 func TestDivByNought(t *testing.T) {
-	for _, a := range append(edges(), minusZero()) {
-		for _, b := range []float64{0, minusZero()} {
-			for _, d := range directions() {
+	for _, a := range append(oracle.Edges(), oracle.MinusZero()) {
+		for _, b := range []float64{0, oracle.MinusZero()} {
+			for _, d := range oracle.Directions() {
 				got, ok := Div(d, a, b)
 				expect(t, fmt.Sprintf("Div(%d, %x, %v)", d, a, b), got, ok, 0, false)
 			}
@@ -169,17 +170,17 @@ func scaling(d api.Dir, a float64, n int) string { return fmt.Sprintf("Scale(%d,
 
 // 2.5, 2.7
 func TestScale(t *testing.T) {
-	var m mixer
-	l := append(edges(), minusZero())
+	var m oracle.Mixer
+	l := append(oracle.Edges(), oracle.MinusZero())
 	for range 30 {
-		l = append(l, m.number(int(m.word()%2000)-1000))
+		l = append(l, m.Number(m.Below(2000)-1000))
 	}
 	for _, a := range l {
 		for _, n := range powers(a) {
-			want := roundings(new(big.Rat).Mul(exact(a), power(n)))
-			for _, d := range directions() {
+			want := oracle.Roundings(new(big.Rat).Mul(oracle.Exact(a), oracle.Power(n)))
+			for _, d := range oracle.Directions() {
 				got, ok := Scale(d, a, n)
-				expect(t, scaling(d, a, n), got, ok, want.number[d], want.is[d])
+				expect(t, scaling(d, a, n), got, ok, want.Number[d], want.Is[d])
 			}
 		}
 	}
@@ -187,15 +188,15 @@ func TestScale(t *testing.T) {
 
 // 2.5: powers that an exponent can't hold go as far as any.
 func TestScaleFar(t *testing.T) {
-	for _, a := range append(edges(), minusZero()) {
-		for _, d := range directions() {
+	for _, a := range append(oracle.Edges(), oracle.MinusZero()) {
+		for _, d := range oracle.Directions() {
 			for _, n := range []int{5000, 1 << 31, 1 << 32, math.MaxInt - 1074, math.MaxInt} {
 				want, is := 0.0, a == 0
 				if a > 0 && d == api.Down {
-					want, is = top, true
+					want, is = oracle.Max, true
 				}
 				if a < 0 && d == api.Up {
-					want, is = -top, true
+					want, is = -oracle.Max, true
 				}
 				got, ok := Scale(d, a, n)
 				expect(t, scaling(d, a, n), got, ok, want, is)
@@ -203,10 +204,10 @@ func TestScaleFar(t *testing.T) {
 			for _, n := range []int{-5000, -1 << 31, -1 << 32, math.MinInt + 1074, math.MinInt} {
 				want := 0.0
 				if a > 0 && d == api.Up {
-					want = least
+					want = oracle.Least
 				}
 				if a < 0 && d == api.Down {
-					want = -least
+					want = -oracle.Least
 				}
 				got, ok := Scale(d, a, n)
 				expect(t, scaling(d, a, n), got, ok, want, true)
@@ -218,13 +219,13 @@ func TestScaleFar(t *testing.T) {
 // 2.5: what is no number, and what is no direction.
 func TestScaleRefuses(t *testing.T) {
 	for _, n := range []int{0, 1, -1, 5000, -5000, math.MaxInt, math.MinInt} {
-		for _, a := range noNumbers() {
-			for _, d := range directions() {
+		for _, a := range oracle.NoNumbers() {
+			for _, d := range oracle.Directions() {
 				got, ok := Scale(d, a, n)
 				expect(t, scaling(d, a, n), got, ok, 0, false)
 			}
 		}
-		for _, d := range noDirections() {
+		for _, d := range oracle.NoDirections() {
 			got, ok := Scale(d, 1, n)
 			expect(t, scaling(d, 1, n), got, ok, 0, false)
 		}
@@ -233,16 +234,16 @@ func TestScaleRefuses(t *testing.T) {
 
 // twoParts are near(v) and the number that is v less it, if there are both.
 func twoParts(v *big.Rat) (float64, float64, bool) {
-	r := roundings(v)
-	if !r.is[api.Near] {
+	r := oracle.Roundings(v)
+	if !r.Is[api.Near] {
 		return 0, 0, false
 	}
-	left := new(big.Rat).Sub(v, exact(r.number[api.Near]))
-	rest := roundings(left).number[api.Near]
-	if exact(rest).Cmp(left) != 0 {
+	left := new(big.Rat).Sub(v, oracle.Exact(r.Number[api.Near]))
+	rest := oracle.Roundings(left).Number[api.Near]
+	if oracle.Exact(rest).Cmp(left) != 0 {
 		return 0, 0, false
 	}
-	return r.number[api.Near], rest, true
+	return r.Number[api.Near], rest, true
 }
 
 // 2.6
@@ -251,12 +252,12 @@ func TestTwoParts(t *testing.T) {
 	none := 0
 	for _, p := range append(pairs(), smallProducts()...) {
 		a, b := p[0], p[1]
-		first, rest, is := twoParts(new(big.Rat).Add(exact(a), exact(b)))
+		first, rest, is := twoParts(new(big.Rat).Add(oracle.Exact(a), oracle.Exact(b)))
 		s, e, ok := Sum2(a, b)
 		expect(t, fmt.Sprintf("Sum2(%x, %x)", a, b), s, ok, first, is)
 		expect(t, fmt.Sprintf("what Sum2(%x, %x) leaves", a, b), e, ok, rest, is)
 
-		first, rest, is = twoParts(new(big.Rat).Mul(exact(a), exact(b)))
+		first, rest, is = twoParts(new(big.Rat).Mul(oracle.Exact(a), oracle.Exact(b)))
 		s, e, ok = Prod2(a, b)
 		expect(t, fmt.Sprintf("Prod2(%x, %x)", a, b), s, ok, first, is)
 		expect(t, fmt.Sprintf("what Prod2(%x, %x) leaves", a, b), e, ok, rest, is)
@@ -284,8 +285,8 @@ func smallProducts() [][2]float64 {
 
 // 2.6: there is always something left of a sum, and nothing beside no number.
 func TestTwoPartsOfNoNumbers(t *testing.T) {
-	for _, bad := range noNumbers() {
-		for _, a := range append(edges(), noNumbers()...) {
+	for _, bad := range oracle.NoNumbers() {
+		for _, a := range append(oracle.Edges(), oracle.NoNumbers()...) {
 			for _, p := range [][2]float64{{a, bad}, {bad, a}} {
 				s, e, ok := Sum2(p[0], p[1])
 				expect(t, "a sum of no number", s, ok, 0, false)
