@@ -27,7 +27,7 @@ func window(l api.Layer, in api.Shape, told place) (first, behind place) {
 	first = place{told[0], told[1]*l.SH - l.PH, told[2]*l.SW - l.PW}
 	channels := 1
 	if l.Kind == api.KConv {
-		// A filter is over all channels, and what it tells is its number, not one of theirs.
+		// told[0] is a filter's number here, no channel of the input: a filter goes over all of them.
 		first[0], channels = 0, in.C
 	}
 	return first, place{first[0] + channels, first[1] + l.KH, first[2] + l.KW}
