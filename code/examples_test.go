@@ -5,6 +5,7 @@ import (
 
 	"ambit/api"
 	"ambit/oracle"
+	"ambit/samples"
 )
 
 // noughts are n bytes 0.
@@ -13,12 +14,12 @@ func noughts(n int) []byte { return make([]byte, n) }
 // 8.1, 8.2
 func TestExamplesOfNetworks(t *testing.T) {
 	first := sealed('A', 'M', 'B', 'N', 1, 1, 1, 2, 0, 0)
-	expectNetBytes(t, api.Net{In: line(2)}, first)
-	expectNetBytes(t, api.Net{In: line(1), Layers: []api.Layer{{Kind: api.KLeaky, A: 0.5}}, Names: []string{"é"}},
+	expectNetBytes(t, api.Net{In: samples.Line(2)}, first)
+	expectNetBytes(t, api.Net{In: samples.Line(1), Layers: []api.Layer{{Kind: api.KLeaky, A: 0.5}}, Names: []string{"é"}},
 		sealed('A', 'M', 'B', 'N', 1, 1, 1, 1, 1, 8, 0, 0, 0, 0, 0, 0, 0xe0, 0x3f, 1, 2, 0xc3, 0xa9))
-	expectNetBytes(t, api.Net{In: line(1), Layers: []api.Layer{{Kind: api.KDense, Out: 1, W: []float64{2}, B: []float64{oracle.MinusZero()}}}},
+	expectNetBytes(t, api.Net{In: samples.Line(1), Layers: []api.Layer{{Kind: api.KDense, Out: 1, W: []float64{2}, B: []float64{oracle.MinusZero()}}}},
 		sealed('A', 'M', 'B', 'N', 1, 1, 1, 1, 1, 1, 1, 0, 0, 0, 0, 0, 0, 0, 0x40, 0, 0, 0, 0, 0, 0, 0, 0x80, 0))
-	expectNoNetBytes(t, api.Net{In: shape(0, 1, 1)}, api.ErrShape, 0)
+	expectNoNetBytes(t, api.Net{In: samples.Shape(0, 1, 1)}, api.ErrShape, 0)
 
 	expectNoNet(t, nil, api.ErrMagic, 0)
 	expectNoNet(t, []byte("AMBN"), api.ErrVersion, 4)

@@ -11,13 +11,14 @@ import (
 	"ambit/api"
 	"ambit/model"
 	"ambit/oracle"
+	"ambit/samples"
 )
 
 // 8.1, 8.4, 8.6: back, bit for bit.
 func TestBack(t *testing.T) {
 	var m oracle.Mixer
 	for range 20000 {
-		n, p := mixedNet(&m), mixedProp(&m)
+		n, p := samples.MixedNet(&m), samples.MixedProp(&m)
 		expectNetBytes(t, n, layNet(n).b)
 		expectPropBytes(t, p, layProp(p).b)
 		if t.Failed() {
@@ -28,9 +29,9 @@ func TestBack(t *testing.T) {
 
 // greatNet is a network of as many bytes as any has: numbers, layers and names up to their limits.
 func greatNet() api.Net {
-	n := network(shape(255, 1, 1), dense(256))
+	n := samples.Network(samples.Shape(255, 1, 1), samples.Dense(256))
 	for range 63 {
-		n.Layers = append(n.Layers, windowed(api.KMean, 1, 1, 1, 1, 0, 0))
+		n.Layers = append(n.Layers, samples.Windowed(api.KMean, 1, 1, 1, 1, 0, 0))
 	}
 	for i := range 256 {
 		n.Names = append(n.Names, strings.Repeat("𝄞", 31)+string(rune(0x10000+i)))
@@ -42,13 +43,13 @@ func greatNet() api.Net {
 func TestGreatest(t *testing.T) {
 	n := greatNet()
 	expectNetBytes(t, n, layNet(n).b)
-	p := api.Prop{C: counted(256), Target: 255, K: 8, Depth: 8, Looks: 1024}
+	p := api.Prop{C: samples.Counted(256), Target: 255, K: 8, Depth: 8, Looks: 1024}
 	for k := range 256 {
-		p.G = append(p.G, counted(257)[1:])
+		p.G = append(p.G, samples.Counted(257)[1:])
 		p.G[k][0] = float64(k)
 	}
 	for i := range 64 {
-		p.Claims = append(p.Claims, counted(257))
+		p.Claims = append(p.Claims, samples.Counted(257))
 		p.Claims[i][256] = float64(i)
 	}
 	expectPropBytes(t, p, layProp(p).b)
@@ -90,7 +91,7 @@ func TestOneForm(t *testing.T) {
 	var m oracle.Mixer
 	read := 0
 	for range 20000 {
-		for _, o := range []layout{layNet(mixedNet(&m)), layProp(mixedProp(&m))} {
+		for _, o := range []layout{layNet(samples.MixedNet(&m)), layProp(samples.MixedProp(&m))} {
 			if expectOneForm(t, spoilt(&m, o)) {
 				read++
 			}
@@ -107,10 +108,10 @@ func TestOneForm(t *testing.T) {
 // forms are the bytes of all ordinary networks and questions.
 func forms() [][]byte {
 	var all [][]byte
-	for _, n := range nets() {
+	for _, n := range samples.Nets() {
 		all = append(all, layNet(n).b)
 	}
-	for _, p := range props() {
+	for _, p := range samples.Props() {
 		all = append(all, layProp(p).b)
 	}
 	return all
@@ -144,14 +145,14 @@ func TestTurnedBitsWithTheSumMadeRight(t *testing.T) {
 // 8.7: two unlike networks have unlike bytes, and so have two unlike questions.
 func TestUnlikeBytes(t *testing.T) {
 	seen := map[string]int{}
-	for i, n := range nets() {
+	for i, n := range samples.Nets() {
 		b, _, _ := EncodeNet(n)
 		if k, twice := seen[string(b)]; twice {
 			t.Errorf("the networks %d and %d have the same bytes", k, i)
 		}
 		seen[string(b)] = i
 	}
-	a, b := network(line(1), leaky(0)), network(line(1), leaky(oracle.MinusZero()))
+	a, b := samples.Network(samples.Line(1), samples.Leaky(0)), samples.Network(samples.Line(1), samples.Leaky(oracle.MinusZero()))
 	x, _, _ := EncodeNet(a)
 	y, _, _ := EncodeNet(b)
 	if bytes.Equal(x, y) || len(x) != len(y) {
@@ -163,14 +164,14 @@ func TestUnlikeBytes(t *testing.T) {
 func expectSpoilt(t *testing.T, b []byte, how string) {
 	n, e, _ := DecodeNet(b)
 	p, f, _ := DecodeProp(b)
-	if e == api.OK || f == api.OK || !sameNet(n, api.Net{}) || !sameProp(p, api.Prop{}) {
+	if e == api.OK || f == api.OK || !samples.SameNet(n, api.Net{}) || !samples.SameProp(p, api.Prop{}) {
 		t.Fatalf("%s: %s: %v and %v", how, shown(b), e, f)
 	}
 }
 
 // 8.8: of the smallest forms, every one to three bits.
 func TestThreeBitsOfSmallForms(t *testing.T) {
-	for _, b := range [][]byte{layNet(nets()[0]).b, layNet(nets()[1]).b, layProp(props()[0]).b} {
+	for _, b := range [][]byte{layNet(samples.Nets()[0]).b, layNet(samples.Nets()[1]).b, layProp(samples.Props()[0]).b} {
 		turn := func(i int) { b[i/8] ^= 1 << (i % 8) }
 		for i := range 8 * len(b) {
 			turn(i)
@@ -253,10 +254,10 @@ func expectCut(t *testing.T, o layout, expect func(t *testing.T, b []byte, e api
 
 // 8.2, 8.5, 8.8: a cut at every byte is told where the thing begins that is cut.
 func TestCuts(t *testing.T) {
-	for _, n := range nets() {
+	for _, n := range samples.Nets() {
 		expectCut(t, layNet(n), expectNoNet)
 	}
-	for _, p := range props() {
+	for _, p := range samples.Props() {
 		expectCut(t, layProp(p), expectNoProp)
 	}
 }
@@ -264,7 +265,7 @@ func TestCuts(t *testing.T) {
 // 8.8: with any bytes behind they are refused.
 func TestBytesBehind(t *testing.T) {
 	var m oracle.Mixer
-	for _, n := range nets() {
+	for _, n := range samples.Nets() {
 		b := layNet(n).b
 		for range 300 {
 			more := slices.Clone(b)
@@ -276,7 +277,7 @@ func TestBytesBehind(t *testing.T) {
 		}
 		expectNoNet(t, append(slices.Clone(b), b...), api.ErrRest, len(b))
 	}
-	for _, p := range props() {
+	for _, p := range samples.Props() {
 		b := layProp(p).b
 		for range 300 {
 			more := append(slices.Clone(b), byte(m.Word()))
@@ -289,10 +290,10 @@ func TestBytesBehind(t *testing.T) {
 
 // 8.2, 8.5: a network is no question, and a question no network.
 func TestOthersForms(t *testing.T) {
-	for _, n := range nets() {
+	for _, n := range samples.Nets() {
 		expectNoProp(t, layNet(n).b, api.ErrMagic, 0)
 	}
-	for _, p := range props() {
+	for _, p := range samples.Props() {
 		expectNoNet(t, layProp(p).b, api.ErrMagic, 0)
 	}
 }
@@ -314,58 +315,23 @@ func anyBytes(m *oracle.Mixer) []byte {
 	return b
 }
 
-// anyWhole is a whole number that is often small, and often great.
-func anyWhole(m *oracle.Mixer) int {
-	if m.Below(12) == 0 {
-		return []int{math.MaxInt, math.MinInt, 1 << 62, -1 << 62, 1 << 32, 255, 256, 257, -1, -2}[m.Below(10)]
-	}
-	return m.Below(4)
-}
-
-// anyNet is a network with anything in it.
-func anyNet(m *oracle.Mixer) api.Net {
-	n := mixedNet(m)
-	if m.Below(2) == 0 {
-		n.In = shape(anyWhole(m), anyWhole(m), anyWhole(m))
-	}
-	for i := range n.Layers {
-		l := &n.Layers[i]
-		switch m.Below(8) {
-		case 0:
-			l.Kind = anyWhole(m)
-		case 1:
-			*fieldNamed(l, []string{"Out", "KH", "KW", "SH", "SW", "PH", "PW", "From"}[m.Below(8)]) = anyWhole(m)
-		case 2:
-			l.A = api.Float(m.Word())
-		case 3:
-			l.W = append(l.W, math.NaN())
-		case 4:
-			l.Z = nil
-		}
-	}
-	if m.Below(3) == 0 {
-		n.Names = []string{"a", string([]byte{byte(m.Word())})}
-	}
-	return n
-}
-
 // 8.9: whatever is handed in, every call ends, and tells nothing beside an error.
 func TestAnyInputs(t *testing.T) {
 	var m oracle.Mixer
 	for range 60000 {
 		b := anyBytes(&m)
-		if n, e, at := DecodeNet(b); e != api.OK && !sameNet(n, api.Net{}) || e == api.OK && at != 0 || at < 0 || at > len(b) {
+		if n, e, at := DecodeNet(b); e != api.OK && !samples.SameNet(n, api.Net{}) || e == api.OK && at != 0 || at < 0 || at > len(b) {
 			t.Fatalf("DecodeNet(%x): %+v %v %d", b, n, e, at)
 		}
-		if p, e, at := DecodeProp(b); e != api.OK && !sameProp(p, api.Prop{}) || e == api.OK && at != 0 || at < 0 || at > len(b) {
+		if p, e, at := DecodeProp(b); e != api.OK && !samples.SameProp(p, api.Prop{}) || e == api.OK && at != 0 || at < 0 || at > len(b) {
 			t.Fatalf("DecodeProp(%x): %+v %v %d", b, p, e, at)
 		}
-		n := anyNet(&m)
+		n := samples.AnyNet(&m)
 		e, at := model.Check(n)
 		if c, f, place := EncodeNet(n); f != e || place != at || (f == api.OK) != (len(c) > 0) {
 			t.Fatalf("EncodeNet(%+v): %x %v %d, not %v %d", n, c, f, place, e, at)
 		}
-		p := anyProp(&m)
+		p := samples.AnyProp(&m)
 		e, at = CheckForm(p)
 		if c, f, place := EncodeProp(p); f != e || place != at || (f == api.OK) != (len(c) > 0) {
 			t.Fatalf("EncodeProp(%+v): %x %v %d, not %v %d", p, c, f, place, e, at)
@@ -373,66 +339,10 @@ func TestAnyInputs(t *testing.T) {
 	}
 }
 
-// roomy is a list with more behind its end.
-func roomy[T any](l []T, behind T) []T {
-	return append(slices.Clone(l), behind, behind, behind)[:len(l)]
-}
-
-// whole tells all of a list, with the room behind its end.
-func whole[T any](l []T) []T { return l[:cap(l)] }
-
-// scribble writes all over a list, behind its end too.
-func scribble[T any](l []T, what T) {
-	for i := range whole(l) {
-		whole(l)[i] = what
-	}
-}
-
-func roomyNet() api.Net {
-	n := chain()
-	for i, l := range n.Layers {
-		l.W, l.B = roomy(l.W, 7), roomy(l.B, 8)
-		l.Z, l.ZB = roomy(l.Z, 9i), roomy(l.ZB, 10i)
-		n.Layers[i] = l
-	}
-	n.Layers, n.Names = roomy(n.Layers, relu()), roomy(n.Names, "behind")
-	return n
-}
-
-func roomyProp() api.Prop {
-	p := question()
-	p.C = roomy(p.C, 7)
-	for i, g := range p.G {
-		p.G[i] = roomy(g, 8)
-	}
-	for i, c := range p.Claims {
-		p.Claims[i] = roomy(c, 9)
-	}
-	p.G, p.Claims = roomy(p.G, []float64{1}), roomy(p.Claims, []float64{2})
-	return p
-}
-
-// netText tells a network, and the room behind its lists.
-func netText(n api.Net) string {
-	s := fmt.Sprintf("%v %q\n", n.In, whole(n.Names))
-	for _, l := range whole(n.Layers) {
-		s += fmt.Sprintf("%+v %v %v %v %v\n", l, whole(l.W), whole(l.B), whole(l.Z), whole(l.ZB))
-	}
-	return s
-}
-
-func propText(p api.Prop) string {
-	s := fmt.Sprintf("%+v %v\n", p, whole(p.C))
-	for _, l := range slices.Concat(whole(p.G), whole(p.Claims)) {
-		s += fmt.Sprintln(whole(l))
-	}
-	return s
-}
-
 // 8.9: what is handed in stays as it was, and the room behind it too; the bytes that are told are memory of their own.
 func TestWritersChangeNothing(t *testing.T) {
-	n, p := roomyNet(), roomyProp()
-	before := netText(n) + propText(p)
+	n, p := samples.RoomyNet(), samples.RoomyProp()
+	before, asked := samples.WholeNet(n), samples.WholeProp(p)
 	for range 2 {
 		b, _, _ := EncodeNet(n)
 		c, _, _ := EncodeProp(p)
@@ -440,17 +350,17 @@ func TestWritersChangeNothing(t *testing.T) {
 			t.Error("other bytes")
 		}
 		d, _, _ := EncodeNet(n)
-		scribble(b, 9)
-		scribble(c, 9)
-		if !bytes.Equal(d, layNet(n).b) || netText(n)+propText(p) != before {
+		samples.Scribble(b, 9)
+		samples.Scribble(c, 9)
+		if !bytes.Equal(d, layNet(n).b) || !samples.SameNet(samples.WholeNet(n), before) || !samples.SameProp(samples.WholeProp(p), asked) {
 			t.Error("an answer was written into, and something else changed")
 		}
 	}
 	n.Names[2], p.K = n.Names[0], 9
-	before = netText(n) + propText(p)
+	before, asked = samples.WholeNet(n), samples.WholeProp(p)
 	expectNoNetBytes(t, n, api.ErrName, 0)
 	expectForm(t, p, api.ErrBudget, 0)
-	if netText(n)+propText(p) != before {
+	if !samples.SameNet(samples.WholeNet(n), before) || !samples.SameProp(samples.WholeProp(p), asked) {
 		t.Error("what is refused was changed")
 	}
 }
@@ -458,17 +368,17 @@ func TestWritersChangeNothing(t *testing.T) {
 // 8.9: bytes stay as they were, the room behind them too, and what was read does not go with them.
 func TestReadersChangeAndKeepNothing(t *testing.T) {
 	for _, form := range forms() {
-		b := roomy(form, 0x77)
+		b := samples.Roomy(form, 0x77)
 		for cut := range len(form) + 1 {
-			before := slices.Clone(whole(b[:cut]))
+			before := slices.Clone(samples.Whole(b[:cut]))
 			n, _, _ := DecodeNet(b[:cut])
 			p, _, _ := DecodeProp(b[:cut])
-			if !bytes.Equal(whole(b[:cut]), before) {
+			if !bytes.Equal(samples.Whole(b[:cut]), before) {
 				t.Fatalf("%s was changed", shown(form))
 			}
 			if cut == len(form) {
 				told := fmt.Sprintf("%+v %+v", n, p)
-				scribble(b, 0x55)
+				samples.Scribble(b, 0x55)
 				if fmt.Sprintf("%+v %+v", n, p) != told {
 					t.Errorf("what was read went with the bytes %s", shown(form))
 				}
@@ -477,38 +387,29 @@ func TestReadersChangeAndKeepNothing(t *testing.T) {
 	}
 }
 
-// lists are all lists of numbers of a network.
-func lists(n api.Net) (numbers [][]float64, pairs [][]complex128) {
-	for _, l := range n.Layers {
-		numbers = append(numbers, l.W, l.B)
-		pairs = append(pairs, l.Z, l.ZB)
-	}
-	return numbers, pairs
-}
-
 // 8.9: no two lists of an answer share any, and none shares with another answer's.
 func TestListsOfNetworksAreApart(t *testing.T) {
-	b := layNet(chain()).b
+	b := layNet(samples.Chain()).b
 	read := func() api.Net {
 		n, _, _ := DecodeNet(b)
 		return n
 	}
-	numbers, pairs := lists(read())
+	numbers, pairs := samples.Lists(read())
 	for i := range numbers {
 		first, second := read(), read()
-		numbers, pairs = lists(first)
-		scribble(numbers[i], -99)
-		scribble(pairs[i], -99i)
-		want := chain()
-		wantNumbers, wantPairs := lists(want)
+		numbers, pairs = samples.Lists(first)
+		samples.Scribble(numbers[i], -99)
+		samples.Scribble(pairs[i], -99i)
+		want := samples.Chain()
+		wantNumbers, wantPairs := samples.Lists(want)
 		for k := range numbers {
-			if k != i && (!sameNumbers(numbers[k], wantNumbers[k]) || !slices.EqualFunc(pairs[k], wantPairs[k], sameComplex)) {
+			if k != i && (!samples.SameNumbers(numbers[k], wantNumbers[k]) || !slices.EqualFunc(pairs[k], wantPairs[k], samples.SameComplex)) {
 				t.Errorf("the list %d was written into, and %d changed", i, k)
 			}
 		}
-		scribble(first.Names, "-")
-		scribble(first.Layers, api.Layer{})
-		if !sameNet(second, want) || !sameNet(read(), want) {
+		samples.Scribble(first.Names, "-")
+		samples.Scribble(first.Layers, api.Layer{})
+		if !samples.SameNet(second, want) || !samples.SameNet(read(), want) {
 			t.Error("an answer was written into, and another changed")
 		}
 	}
@@ -516,7 +417,7 @@ func TestListsOfNetworksAreApart(t *testing.T) {
 
 // 8.9
 func TestListsOfQuestionsAreApart(t *testing.T) {
-	b := layProp(question()).b
+	b := layProp(samples.Question()).b
 	read := func() api.Prop {
 		p, _, _ := DecodeProp(b)
 		return p
@@ -524,18 +425,18 @@ func TestListsOfQuestionsAreApart(t *testing.T) {
 	all := func(p api.Prop) [][]float64 { return slices.Concat([][]float64{p.C}, p.G, p.Claims) }
 	for i := range all(read()) {
 		first, second := read(), read()
-		scribble(all(first)[i], -99)
+		samples.Scribble(all(first)[i], -99)
 		for k, l := range all(first) {
-			if k != i && !sameNumbers(l, all(question())[k]) {
+			if k != i && !samples.SameNumbers(l, all(samples.Question())[k]) {
 				t.Errorf("the list %d was written into, and %d changed", i, k)
 			}
 		}
-		scribble(first.G, nil)
-		if !sameLists(first.Claims, second.Claims) && i < 6 {
+		samples.Scribble(first.G, nil)
+		if !samples.SameLists(first.Claims, second.Claims) && i < 6 {
 			t.Error("the columns were written into, and the claims changed")
 		}
-		scribble(first.Claims, nil)
-		if !sameProp(second, question()) || !sameProp(read(), question()) {
+		samples.Scribble(first.Claims, nil)
+		if !samples.SameProp(second, samples.Question()) || !samples.SameProp(read(), samples.Question()) {
 			t.Error("an answer was written into, and another changed")
 		}
 	}

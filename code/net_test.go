@@ -10,12 +10,13 @@ import (
 	"ambit/api"
 	"ambit/model"
 	"ambit/oracle"
+	"ambit/samples"
 )
 
 // 8.1, 8.2, 8.6: each kind with the fields and lists that it has.
 func TestBytesOfNetworks(t *testing.T) {
 	seen := map[int]bool{}
-	for _, n := range nets() {
+	for _, n := range samples.Nets() {
 		expectNetBytes(t, n, layNet(n).b)
 		for _, l := range n.Layers {
 			seen[l.Kind] = true
@@ -35,24 +36,24 @@ func TestOrderOfNumbers(t *testing.T) {
 		}
 		return b
 	}
-	n := api.Net{In: line(2), Layers: []api.Layer{{Kind: api.KTurn, Out: 2, Z: []complex128{1 + 2i, 3 + 4i}, ZB: []complex128{5 + 6i, 7 + 8i}}}}
+	n := api.Net{In: samples.Line(2), Layers: []api.Layer{{Kind: api.KTurn, Out: 2, Z: []complex128{1 + 2i, 3 + 4i}, ZB: []complex128{5 + 6i, 7 + 8i}}}}
 	expectNetBytes(t, n, sealed(netBytes([]byte{1, 1, 2, 1, 6, 2}, of(1, 2, 3, 4, 5, 6, 7, 8), []byte{0})...))
-	n = api.Net{In: line(2), Layers: []api.Layer{{Kind: api.KDense, Out: 2, W: []float64{1, 2, 3, 4}, B: []float64{5, 6}}}}
+	n = api.Net{In: samples.Line(2), Layers: []api.Layer{{Kind: api.KDense, Out: 2, W: []float64{1, 2, 3, 4}, B: []float64{5, 6}}}}
 	expectNetBytes(t, n, sealed(netBytes([]byte{1, 1, 2, 1, 1, 2}, of(1, 2, 3, 4, 5, 6), []byte{0})...))
 	conv := api.Layer{Kind: api.KConv, Out: 1, KH: 3, KW: 2, SH: 4, SW: 5, PH: 2, PW: 1, W: []float64{1, 2, 3, 4, 5, 6}, B: []float64{7}}
-	n = api.Net{In: shape(1, 6, 7), Layers: []api.Layer{conv}}
+	n = api.Net{In: samples.Shape(1, 6, 7), Layers: []api.Layer{conv}}
 	expectNetBytes(t, n, sealed(netBytes([]byte{1, 6, 7, 1, 2, 1, 3, 2, 4, 5, 2, 1}, of(1, 2, 3, 4, 5, 6, 7), []byte{0})...))
-	n = api.Net{In: shape(1, 6, 7), Layers: []api.Layer{{Kind: api.KMean, KH: 3, KW: 2, SH: 4, SW: 5, PH: 2, PW: 1, A: -2}}}
+	n = api.Net{In: samples.Shape(1, 6, 7), Layers: []api.Layer{{Kind: api.KMean, KH: 3, KW: 2, SH: 4, SW: 5, PH: 2, PW: 1, A: -2}}}
 	expectNetBytes(t, n, sealed(netBytes([]byte{1, 6, 7, 1, 4, 3, 2, 4, 5, 2, 1}, of(-2), []byte{0})...))
 }
 
 // 8.1, 8.2, 8.6: numbers are carried, bit for bit.
 func TestNumbersOfNetworksAreCarried(t *testing.T) {
 	for _, a := range oracle.Edges() {
-		n := network(line(2), dense(1), windowed(api.KMean, 1, 1, 1, 1, 0, 0))
+		n := samples.Network(samples.Line(2), samples.Dense(1), samples.Windowed(api.KMean, 1, 1, 1, 1, 0, 0))
 		n.Layers[0].W[1], n.Layers[0].B[0], n.Layers[1].A = a, -a, a
 		expectNetBytes(t, n, layNet(n).b)
-		n = network(line(2), turn(1))
+		n = samples.Network(samples.Line(2), samples.Turn(1))
 		n.Layers[0].Z[0], n.Layers[0].ZB[0] = complex(a, -a), complex(-a, a)
 		expectNetBytes(t, n, layNet(n).b)
 	}
@@ -60,21 +61,21 @@ func TestNumbersOfNetworksAreCarried(t *testing.T) {
 
 // 8.2: nil and an empty list are the same.
 func TestEmptyListsOfNetworks(t *testing.T) {
-	n := api.Net{In: line(2), Layers: []api.Layer{{Kind: api.KRelu, W: []float64{}, B: []float64{}, Z: []complex128{}, ZB: []complex128{}}}, Names: []string{}}
-	expectNetBytes(t, n, layNet(network(line(2), relu())).b)
-	expectNetBytes(t, api.Net{In: line(2), Layers: []api.Layer{}}, layNet(api.Net{In: line(2)}).b)
+	n := api.Net{In: samples.Line(2), Layers: []api.Layer{{Kind: api.KRelu, W: []float64{}, B: []float64{}, Z: []complex128{}, ZB: []complex128{}}}, Names: []string{}}
+	expectNetBytes(t, n, layNet(samples.Network(samples.Line(2), samples.Relu())).b)
+	expectNetBytes(t, api.Net{In: samples.Line(2), Layers: []api.Layer{}}, layNet(api.Net{In: samples.Line(2)}).b)
 	expectNoNet(t, []byte{}, api.ErrMagic, 0)
 }
 
 // 8.1: what may not be is what model.Check says of it.
 func TestNetworksThatMayNotBe(t *testing.T) {
-	unlike := network(line(2), dense(1))
-	unlike.Layers[0].W = ones(3)
-	none := network(line(2), relu(), turn(1))
+	unlike := samples.Network(samples.Line(2), samples.Dense(1))
+	unlike.Layers[0].W = samples.Ones(3)
+	none := samples.Network(samples.Line(2), samples.Relu(), samples.Turn(1))
 	none.Layers[1].ZB[0] = complex(0, math.Inf(1))
-	idle := network(line(2), relu())
-	idle.Layers[0].B = ones(1)
-	signed := network(line(2), relu())
+	idle := samples.Network(samples.Line(2), samples.Relu())
+	idle.Layers[0].B = samples.Ones(1)
+	signed := samples.Network(samples.Line(2), samples.Relu())
 	signed.Layers[0].A = oracle.MinusZero()
 	for _, x := range []struct {
 		n  api.Net
@@ -82,25 +83,25 @@ func TestNetworksThatMayNotBe(t *testing.T) {
 		at int
 	}{
 		{api.Net{}, api.ErrShape, 0},
-		{api.Net{In: line(257)}, api.ErrShape, 0},
-		{api.Net{In: shape(math.MaxInt, 2, 1)}, api.ErrShape, 0},
-		{network(line(1), slices.Repeat([]api.Layer{relu()}, 65)...), api.ErrSize, 0},
-		{network(line(1), relu(), api.Layer{Kind: 13}), api.ErrKind, 2},
-		{network(line(1), leaky(1.5)), api.ErrField, 1},
-		{network(line(1), leaky(math.NaN())), api.ErrNumber, 1},
+		{api.Net{In: samples.Line(257)}, api.ErrShape, 0},
+		{api.Net{In: samples.Shape(math.MaxInt, 2, 1)}, api.ErrShape, 0},
+		{samples.Network(samples.Line(1), slices.Repeat([]api.Layer{samples.Relu()}, 65)...), api.ErrSize, 0},
+		{samples.Network(samples.Line(1), samples.Relu(), api.Layer{Kind: 13}), api.ErrKind, 2},
+		{samples.Network(samples.Line(1), samples.Leaky(1.5)), api.ErrField, 1},
+		{samples.Network(samples.Line(1), samples.Leaky(math.NaN())), api.ErrNumber, 1},
 		{signed, api.ErrField, 1},
 		{unlike, api.ErrCount, 1},
 		{idle, api.ErrCount, 1},
 		{none, api.ErrNumber, 2},
-		{network(line(1), add(1)), api.ErrFrom, 1},
-		{network(line(3), dense(2), add(0)), api.ErrFrom, 2},
-		{network(line(256), api.Layer{Kind: api.KScale}, dense(255)), api.ErrSize, 2},
-		{named(api.Net{In: line(2)}, "a"), api.ErrCount, 0},
-		{named(api.Net{In: line(2)}, "a", "b", "c"), api.ErrCount, 0},
-		{named(api.Net{In: line(2)}, "a", "a"), api.ErrName, 0},
-		{named(api.Net{In: line(2)}, "a", "b c"), api.ErrName, 0},
-		{named(api.Net{In: line(1)}, ""), api.ErrName, 0},
-		{named(api.Net{In: line(1)}, "\xff"), api.ErrName, 0},
+		{samples.Network(samples.Line(1), samples.Add(1)), api.ErrFrom, 1},
+		{samples.Network(samples.Line(3), samples.Dense(2), samples.Add(0)), api.ErrFrom, 2},
+		{samples.Network(samples.Line(256), api.Layer{Kind: api.KScale}, samples.Dense(255)), api.ErrSize, 2},
+		{samples.Named(api.Net{In: samples.Line(2)}, "a"), api.ErrCount, 0},
+		{samples.Named(api.Net{In: samples.Line(2)}, "a", "b", "c"), api.ErrCount, 0},
+		{samples.Named(api.Net{In: samples.Line(2)}, "a", "a"), api.ErrName, 0},
+		{samples.Named(api.Net{In: samples.Line(2)}, "a", "b c"), api.ErrName, 0},
+		{samples.Named(api.Net{In: samples.Line(1)}, ""), api.ErrName, 0},
+		{samples.Named(api.Net{In: samples.Line(1)}, "\xff"), api.ErrName, 0},
 	} {
 		expectNoNetBytes(t, x.n, x.e, x.at)
 	}
@@ -111,7 +112,7 @@ func TestLongNetworks(t *testing.T) {
 	expectNoNet(t, noughts(api.MaxFile), api.ErrMagic, 0)
 	expectNoNet(t, noughts(api.MaxFile+1), api.ErrLong, api.MaxFile)
 	expectNoNet(t, noughts(2*api.MaxFile), api.ErrLong, api.MaxFile)
-	good := layNet(chain()).b
+	good := layNet(samples.Chain()).b
 	expectNoNet(t, append(good, noughts(api.MaxFile-len(good))...), api.ErrRest, len(good))
 	expectNoNet(t, append(good, noughts(api.MaxFile+1-len(good))...), api.ErrLong, api.MaxFile)
 }
@@ -236,11 +237,11 @@ func TestSumsOfNetworks(t *testing.T) {
 		expectNoNet(t, netBytes(narrow, []byte{5, byte(from)}), api.ErrFrom, at)
 	}
 	expectNoNet(t, netBytes(narrow, []byte{5, 4}), api.ErrFrom, at)
-	expectNetBytes(t, network(line(2), relu(), relu(), dense(1), add(3)), layNet(network(line(2), relu(), relu(), dense(1), add(3))).b)
+	expectNetBytes(t, samples.Network(samples.Line(2), samples.Relu(), samples.Relu(), samples.Dense(1), samples.Add(3)), layNet(samples.Network(samples.Line(2), samples.Relu(), samples.Relu(), samples.Dense(1), samples.Add(3))).b)
 	// As many coordinates, but not as they lie.
 	expectNoNet(t, netBytes([]byte{1, 1, 2, 2, 1, 2}, one, one, one, one, one, one, []byte{5, 0}), api.ErrFrom, 59)
 	for from := range 5 {
-		n := network(line(2), relu(), relu(), relu(), relu(), add(from))
+		n := samples.Network(samples.Line(2), samples.Relu(), samples.Relu(), samples.Relu(), samples.Relu(), samples.Add(from))
 		expectNetBytes(t, n, layNet(n).b)
 	}
 }
@@ -248,12 +249,12 @@ func TestSumsOfNetworks(t *testing.T) {
 // heavy is a network of 65,536 numbers, complex ones counted twice; with a further KScale it has two more.
 func heavy(scales int) api.Net {
 	layers := slices.Repeat([]api.Layer{{Kind: api.KScale}}, scales)
-	return network(line(256), append(layers, turn(127), turn(128))...)
+	return samples.Network(samples.Line(256), append(layers, samples.Turn(127), samples.Turn(128))...)
 }
 
 // 8.2: more than MaxWeights numbers, with the lists of a layer that are not looked at yet.
 func TestWeightsOfNetworks(t *testing.T) {
-	full := network(line(255), dense(256))
+	full := samples.Network(samples.Line(255), samples.Dense(256))
 	for _, n := range []api.Net{full, heavy(0), heavy(1)} {
 		expectNetBytes(t, n, layNet(n).b)
 	}
@@ -266,7 +267,7 @@ func TestWeightsOfNetworks(t *testing.T) {
 	expectNoNet(t, past.b[:second+3], api.ErrSize, second)
 	expectNoNet(t, past.b[:second+2], api.ErrShort, second+1)
 	expectNoNetBytes(t, heavy(2), api.ErrSize, 4)
-	one := layNet(network(line(256), api.Layer{Kind: api.KScale}, dense(255))).b // 65,537
+	one := layNet(samples.Network(samples.Line(256), api.Layer{Kind: api.KScale}, samples.Dense(255))).b // 65,537
 	expectNoNet(t, one, api.ErrSize, 27)
 	expectNoNet(t, netBytes(wholeBytes(256), []byte{1, 1, 1, 2, 1, 16, 16, 1, 1, 15, 15}), api.ErrSize, 10)  // 65,537
 	expectNoNet(t, netBytes(wholeBytes(256), []byte{1, 1, 1, 2, 2, 16, 16, 1, 1, 15, 15}), api.ErrShape, 10) // the shape goes ahead
@@ -292,9 +293,9 @@ func TestNumberOfNames(t *testing.T) {
 	for i := range 256 {
 		all = append(all, fmt.Sprint("n", i))
 	}
-	expectNetBytes(t, named(api.Net{In: shape(4, 8, 8)}, all...), layNet(named(api.Net{In: shape(4, 8, 8)}, all...)).b)
+	expectNetBytes(t, samples.Named(api.Net{In: samples.Shape(4, 8, 8)}, all...), layNet(samples.Named(api.Net{In: samples.Shape(4, 8, 8)}, all...)).b)
 	all[255] = all[0]
-	twice := layNet(named(api.Net{In: shape(4, 8, 8)}, all...))
+	twice := layNet(samples.Named(api.Net{In: samples.Shape(4, 8, 8)}, all...))
 	expectNoNet(t, twice.b, api.ErrName, twice.begins[len(twice.begins)-2])
 }
 
@@ -311,7 +312,7 @@ func withNames(names ...string) []byte {
 func TestNamesOfNetworks(t *testing.T) {
 	long := strings.Repeat("𝄞", 32)
 	for _, s := range []string{"a", "!", "~", "\u00a1", "\U0010ffff", "a\"b", long, strings.Repeat("a", 32), strings.Repeat("é", 32)} {
-		n := named(api.Net{In: line(2)}, "x", s)
+		n := samples.Named(api.Net{In: samples.Line(2)}, "x", s)
 		expectNetBytes(t, n, layNet(n).b)
 		expectNetBytes(t, n, sealed(withNames("x", s)...))
 	}
@@ -339,7 +340,7 @@ func TestNamesOfNetworks(t *testing.T) {
 
 // 8.2: the sum, and what is behind it.
 func TestEndOfNetworks(t *testing.T) {
-	for _, n := range nets() {
+	for _, n := range samples.Nets() {
 		b := layNet(n).b
 		end := len(b) - 4
 		for left := range 4 {
@@ -364,12 +365,12 @@ func TestEndOfNetworks(t *testing.T) {
 // 8.2: up to 64 layers.
 func TestManyLayers(t *testing.T) {
 	for _, k := range []int{1, 2, 63, 64} {
-		n := network(line(2), slices.Repeat([]api.Layer{relu()}, k)...)
+		n := samples.Network(samples.Line(2), slices.Repeat([]api.Layer{samples.Relu()}, k)...)
 		expectNetBytes(t, n, layNet(n).b)
 	}
-	past := network(line(2), slices.Repeat([]api.Layer{relu()}, 65)...)
+	past := samples.Network(samples.Line(2), slices.Repeat([]api.Layer{samples.Relu()}, 65)...)
 	expectNoNet(t, layNet(past).b, api.ErrSize, 8)
-	n := network(line(2), slices.Repeat([]api.Layer{add(0)}, 64)...)
+	n := samples.Network(samples.Line(2), slices.Repeat([]api.Layer{samples.Add(0)}, 64)...)
 	n.Layers[63].From = 63
 	expectNetBytes(t, n, layNet(n).b)
 	n.Layers[63].From = 64

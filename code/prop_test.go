@@ -8,14 +8,15 @@ import (
 	"ambit/api"
 	"ambit/model"
 	"ambit/oracle"
+	"ambit/samples"
 )
 
 // 8.4, 8.5, 8.6
 func TestBytesOfQuestions(t *testing.T) {
-	for _, p := range props() {
+	for _, p := range samples.Props() {
 		expectPropBytes(t, p, layProp(p).b)
 	}
-	p := question()
+	p := samples.Question()
 	p.G = [][]float64{}
 	expectPropBytes(t, p, layProp(p).b)
 	p.Claims = [][]float64{}
@@ -34,7 +35,7 @@ func TestOrderInQuestions(t *testing.T) {
 // 8.4, 8.5: numbers are carried, bit for bit.
 func TestNumbersOfQuestionsAreCarried(t *testing.T) {
 	for _, a := range oracle.Edges() {
-		p := question()
+		p := samples.Question()
 		p.C[1], p.G[4][2], p.Claims[1][4] = a, -a, a
 		expectPropBytes(t, p, layProp(p).b)
 	}
@@ -43,14 +44,14 @@ func TestNumbersOfQuestionsAreCarried(t *testing.T) {
 // 8.3: C has 1 to 256 numbers; that goes ahead of all else.
 func TestCentreOfForms(t *testing.T) {
 	for _, n := range []int{0, 257, 258, 1000} {
-		expectForm(t, api.Prop{C: ones(n), K: 1, Looks: 1}, api.ErrSize, 0)
-		expectForm(t, api.Prop{C: ones(n), Target: 999, Claims: columns(1, 0), K: 99}, api.ErrSize, 0)
+		expectForm(t, api.Prop{C: samples.Ones(n), K: 1, Looks: 1}, api.ErrSize, 0)
+		expectForm(t, api.Prop{C: samples.Ones(n), Target: 999, Claims: samples.Columns(1, 0), K: 99}, api.ErrSize, 0)
 	}
 	for _, n := range []int{1, 2, 255, 256} {
-		expectForm(t, api.Prop{C: ones(n), K: 1, Looks: 1}, api.OK, 0)
+		expectForm(t, api.Prop{C: samples.Ones(n), K: 1, Looks: 1}, api.OK, 0)
 	}
 	for _, none := range oracle.NoNumbers() {
-		expectForm(t, api.Prop{C: []float64{0, none}, G: columns(257, 1), K: 1, Looks: 1}, api.ErrNumber, 0)
+		expectForm(t, api.Prop{C: []float64{0, none}, G: samples.Columns(257, 1), K: 1, Looks: 1}, api.ErrNumber, 0)
 	}
 }
 
@@ -64,7 +65,7 @@ func TestTargetOfForms(t *testing.T) {
 		{-1, api.ErrTarget}, {-2, api.ErrTarget}, {math.MinInt, api.ErrTarget}, {math.MinInt + 1, api.ErrTarget},
 		{256, api.ErrArg}, {257, api.ErrArg}, {1 << 32, api.ErrArg}, {math.MaxInt - 1, api.ErrArg}, {math.MaxInt, api.ErrArg},
 	} {
-		expectForm(t, api.Prop{C: ones(3), Target: x.target, K: 1, Looks: 1}, x.e, 0)
+		expectForm(t, api.Prop{C: samples.Ones(3), Target: x.target, K: 1, Looks: 1}, x.e, 0)
 		if x.e == api.ErrArg { // ahead of the numbers
 			expectForm(t, api.Prop{C: []float64{math.NaN()}, Target: x.target}, api.ErrArg, 0)
 		}
@@ -82,7 +83,7 @@ func TestClaimsOfForms(t *testing.T) {
 		{5, 3, api.OK}, {5, 4, api.ErrTarget}, {5, math.MaxInt, api.ErrTarget},
 		{257, -1, api.OK}, {257, 255, api.OK}, {257, 256, api.ErrTarget},
 	} {
-		p := api.Prop{C: ones(3), Target: x.target, Claims: columns(2, x.length), K: 1, Looks: 1}
+		p := api.Prop{C: samples.Ones(3), Target: x.target, Claims: samples.Columns(2, x.length), K: 1, Looks: 1}
 		expectForm(t, p, x.e, 0)
 		if x.e == api.ErrArg { // ahead of the numbers
 			p.C[0] = math.NaN()
@@ -91,16 +92,16 @@ func TestClaimsOfForms(t *testing.T) {
 	}
 	for i := range 2 {
 		for _, length := range []int{0, 1, 4, 6, 258} {
-			p := question()
-			p.Claims[i+1] = ones(length)
+			p := samples.Question()
+			p.Claims[i+1] = samples.Ones(length)
 			expectForm(t, p, api.ErrCount, 1+5+i+1)
 		}
 	}
-	p := question()
-	p.Claims[0] = ones(4)
+	p := samples.Question()
+	p.Claims[0] = samples.Ones(4)
 	expectForm(t, p, api.ErrCount, 1+5+1) // it is the first by which the others are measured
 	for i := range 3 {
-		p := question()
+		p := samples.Question()
 		p.Claims[i][3] = math.Inf(1)
 		p.K = 0
 		expectForm(t, p, api.ErrNumber, 1+5+i)
@@ -115,13 +116,13 @@ func TestRestOfForms(t *testing.T) {
 		at    int
 	}{
 		{func(p *api.Prop) {}, api.OK, 0},
-		{func(p *api.Prop) { p.G = columns(256, 3) }, api.OK, 0},
-		{func(p *api.Prop) { p.G = columns(257, 3) }, api.ErrSize, 0},
-		{func(p *api.Prop) { p.G[0] = ones(2) }, api.ErrCount, 1},
-		{func(p *api.Prop) { p.G[4] = ones(4) }, api.ErrCount, 5},
+		{func(p *api.Prop) { p.G = samples.Columns(256, 3) }, api.OK, 0},
+		{func(p *api.Prop) { p.G = samples.Columns(257, 3) }, api.ErrSize, 0},
+		{func(p *api.Prop) { p.G[0] = samples.Ones(2) }, api.ErrCount, 1},
+		{func(p *api.Prop) { p.G[4] = samples.Ones(4) }, api.ErrCount, 5},
 		{func(p *api.Prop) { p.G[3][2] = math.NaN() }, api.ErrNumber, 4},
-		{func(p *api.Prop) { p.Claims = columns(64, 5) }, api.OK, 0},
-		{func(p *api.Prop) { p.Claims = columns(65, 5) }, api.ErrSize, 0},
+		{func(p *api.Prop) { p.Claims = samples.Columns(64, 5) }, api.OK, 0},
+		{func(p *api.Prop) { p.Claims = samples.Columns(65, 5) }, api.ErrSize, 0},
 		{func(p *api.Prop) { p.Claims, p.Target = nil, -1 }, api.ErrTarget, 0},
 		{func(p *api.Prop) { p.K = 0 }, api.ErrBudget, 0},
 		{func(p *api.Prop) { p.K = 9 }, api.ErrBudget, 0},
@@ -132,7 +133,7 @@ func TestRestOfForms(t *testing.T) {
 		{func(p *api.Prop) { p.K, p.Depth, p.Looks = 8, 8, 1024 }, api.OK, 0},
 		{func(p *api.Prop) { p.K, p.Depth, p.Looks = 1, 0, 1 }, api.OK, 0},
 	} {
-		p := question()
+		p := samples.Question()
 		x.spoil(&p)
 		expectForm(t, p, x.e, x.at)
 	}
@@ -143,7 +144,7 @@ func TestFormsAreForSomeNetwork(t *testing.T) {
 	var m oracle.Mixer
 	seen := map[bool]int{}
 	for range 3000 {
-		p := anyProp(&m)
+		p := samples.AnyProp(&m)
 		e, _ := CheckForm(p)
 		some := false
 		for out := 1; out <= api.MaxWidth; out++ {
@@ -164,7 +165,7 @@ func TestFormsAreForSomeNetwork(t *testing.T) {
 func TestHeadOfQuestions(t *testing.T) {
 	expectNoProp(t, noughts(api.MaxFile), api.ErrMagic, 0)
 	expectNoProp(t, noughts(api.MaxFile+1), api.ErrLong, api.MaxFile)
-	good := layProp(question()).b
+	good := layProp(samples.Question()).b
 	expectNoProp(t, append(slices.Clone(good), noughts(api.MaxFile-len(good))...), api.ErrRest, len(good))
 	expectNoProp(t, append(slices.Clone(good), noughts(api.MaxFile+1-len(good))...), api.ErrLong, api.MaxFile)
 	for _, s := range []string{"", "A", "AM", "AMB", "AMBN\x01", "ambp\x01", " AMBP\x01", "AMBp\x01", "BMBP\x01"} {
@@ -206,11 +207,11 @@ func TestListsOfQuestions(t *testing.T) {
 	} {
 		expectNoProp(t, x.b, x.e, x.at)
 	}
-	wideOne := api.Prop{C: ones(256), G: columns(256, 256), K: 1, Looks: 1}
+	wideOne := api.Prop{C: samples.Ones(256), G: samples.Columns(256, 256), K: 1, Looks: 1}
 	expectPropBytes(t, wideOne, layProp(wideOne).b)
-	past := layProp(api.Prop{C: ones(257), K: 1, Looks: 1})
+	past := layProp(api.Prop{C: samples.Ones(257), K: 1, Looks: 1})
 	expectNoProp(t, past.b, api.ErrSize, 5)
-	past = layProp(api.Prop{C: ones(1), G: columns(257, 1), K: 1, Looks: 1})
+	past = layProp(api.Prop{C: samples.Ones(1), G: samples.Columns(257, 1), K: 1, Looks: 1})
 	expectNoProp(t, past.b, api.ErrSize, 14)
 }
 
@@ -241,9 +242,9 @@ func TestClaimsOfQuestions(t *testing.T) {
 	} {
 		expectNoProp(t, x.b, x.e, x.at)
 	}
-	many := api.Prop{C: ones(1), Target: -1, Claims: columns(64, 257), K: 1, Looks: 1}
+	many := api.Prop{C: samples.Ones(1), Target: -1, Claims: samples.Columns(64, 257), K: 1, Looks: 1}
 	expectPropBytes(t, many, layProp(many).b)
-	many.Claims = columns(65, 2)
+	many.Claims = samples.Columns(65, 2)
 	expectNoProp(t, layProp(many).b, api.ErrSize, 16)
 }
 
@@ -283,13 +284,13 @@ func TestFormOfQuestions(t *testing.T) {
 		}
 	}
 	for target := range 256 {
-		expectPropBytes(t, api.Prop{C: ones(1), Target: target, K: 1, Looks: 1}, sealed(propBytes(front, wholeBytes(target+1), []byte{0}, good)...))
+		expectPropBytes(t, api.Prop{C: samples.Ones(1), Target: target, K: 1, Looks: 1}, sealed(propBytes(front, wholeBytes(target+1), []byte{0}, good)...))
 	}
 }
 
 // 8.5: the sum, and what is behind it.
 func TestEndOfQuestions(t *testing.T) {
-	for _, p := range props() {
+	for _, p := range samples.Props() {
 		b := layProp(p).b
 		end := len(b) - 4
 		for left := range 4 {

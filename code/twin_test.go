@@ -10,6 +10,7 @@ import (
 	"ambit/api"
 	"ambit/model"
 	"ambit/oracle"
+	"ambit/samples"
 )
 
 // A twin reads bytes by the document's words once more, without wire: it keeps the first error, and reads nothing behind it.
@@ -223,128 +224,6 @@ func twinProp(b []byte) (api.Prop, api.Errno, int) {
 	return p, api.OK, 0
 }
 
-// mixedNumber is a number of any size; often one whose sign is all that it has.
-func mixedNumber(m *oracle.Mixer) float64 {
-	switch m.Below(6) {
-	case 0:
-		return 0
-	case 1:
-		return oracle.MinusZero()
-	case 2:
-		return oracle.Edges()[m.Below(len(oracle.Edges()))]
-	}
-	return m.Number(m.Below(2000) - 1000)
-}
-
-func mixedNumbers(m *oracle.Mixer, n int) []float64 {
-	var l []float64
-	for range n {
-		l = append(l, mixedNumber(m))
-	}
-	return l
-}
-
-func mixedLists(m *oracle.Mixer, k, n int) [][]float64 {
-	var l [][]float64
-	for range k {
-		l = append(l, mixedNumbers(m, n))
-	}
-	return l
-}
-
-// mixedLayer is a layer that may be over a shape, but for From; its lists are of mixed numbers.
-func mixedLayer(m *oracle.Mixer, in api.Shape) api.Layer {
-	for {
-		l := api.Layer{Kind: 1 + m.Below(12)}
-		switch l.Kind {
-		case api.KDense, api.KTurn:
-			l.Out = 1 + m.Below(4)
-		case api.KConv, api.KMean, api.KMax:
-			l.KH, l.KW, l.SH, l.SW = 1+m.Below(4), 1+m.Below(4), 1+m.Below(4), 1+m.Below(4)
-			l.PH, l.PW = m.Below(l.KH), m.Below(l.KW)
-			if l.Kind == api.KConv {
-				l.Out = 1 + m.Below(2)
-			}
-			if l.Kind == api.KMean {
-				l.A = mixedNumber(m)
-			}
-		case api.KLeaky:
-			l.A = []float64{0, oracle.MinusZero(), oracle.Least, 0.1, 1}[m.Below(5)]
-		}
-		w, b, z, zb, e := model.Lists(l, in)
-		if e != api.OK {
-			continue
-		}
-		l.W, l.B = mixedNumbers(m, w), mixedNumbers(m, b)
-		for i := range z + zb {
-			if c := complex(mixedNumber(m), mixedNumber(m)); i < z {
-				l.Z = append(l.Z, c)
-			} else {
-				l.ZB = append(l.ZB, c)
-			}
-		}
-		return l
-	}
-}
-
-// mixedName is a name that tells its number.
-func mixedName(m *oracle.Mixer, i int) string {
-	return strings.Repeat("aé€𝄞"[:[]int{1, 3, 6, 10}[m.Below(4)]], m.Below(8)) + string(rune('!'+7*i+0x100))
-}
-
-// mixedNet is a network that may be.
-func mixedNet(m *oracle.Mixer) api.Net {
-	n := api.Net{In: shape(1+m.Below(3), 1+m.Below(4), 1+m.Below(4))}
-	shapes := []api.Shape{n.In}
-	for range m.Below(6) {
-		l := mixedLayer(m, shapes[len(shapes)-1])
-		if l.Kind == api.KAdd {
-			for l.From = m.Below(len(shapes)); shapes[l.From] != shapes[len(shapes)-1]; {
-				l.From++
-			}
-		}
-		n.Layers = append(n.Layers, l)
-		out, _ := model.Out(l, shapes[len(shapes)-1])
-		shapes = append(shapes, out)
-	}
-	if size, _ := model.Size(shapes[len(shapes)-1]); m.Below(2) == 0 {
-		for i := range size {
-			n.Names = append(n.Names, mixedName(m, i))
-		}
-	}
-	return n
-}
-
-// mixedProp is a question that may be.
-func mixedProp(m *oracle.Mixer) api.Prop {
-	width, out := 1+m.Below(4), 1+m.Below(4)
-	p := api.Prop{C: mixedNumbers(m, width), G: mixedLists(m, m.Below(4), width), K: 1 + m.Below(8), Depth: m.Below(9), Looks: 1 + m.Below(1024)}
-	p.Target, p.Claims = m.Below(out+1)-1, mixedLists(m, 1+m.Below(3), out+1)
-	if m.Below(3) == 0 {
-		p.Target, p.Claims = m.Below(256), nil
-	}
-	return p
-}
-
-// anyProp is a question that may be, or one in which something or other is wrong.
-func anyProp(m *oracle.Mixer) api.Prop {
-	p := mixedProp(m)
-	wholes := []*int{&p.Target, &p.K, &p.Depth, &p.Looks}
-	switch m.Below(7) {
-	case 0:
-		*wholes[m.Below(4)] = []int{math.MaxInt, math.MinInt, -1, -2, 0, 255, 256, 257, 1024, 1025}[m.Below(10)]
-	case 1:
-		p.C = mixedNumbers(m, m.Below(3))
-	case 2:
-		p.C[0] = oracle.NoNumbers()[m.Below(6)]
-	case 3:
-		p.G = append(p.G, mixedNumbers(m, m.Below(4)))
-	case 4:
-		p.Claims = append(p.Claims, mixedNumbers(m, []int{0, 1, 2, 3, 256, 257, 258}[m.Below(7)]))
-	}
-	return p
-}
-
 // spoilt is a layout in which something was changed, mostly where a thing begins; mostly its sum is made right.
 func spoilt(m *oracle.Mixer, o layout) []byte {
 	b := slices.Clone(o.b)
@@ -390,10 +269,10 @@ func TestTwinOfNetworks(t *testing.T) {
 	var m oracle.Mixer
 	seen := map[api.Errno]int{}
 	for range 60000 {
-		b := spoilt(&m, layNet(mixedNet(&m)))
+		b := spoilt(&m, layNet(samples.MixedNet(&m)))
 		want, e, at := twinNet(b)
 		got, f, place := DecodeNet(b)
-		if f != e || place != at || !sameNet(got, want) {
+		if f != e || place != at || !samples.SameNet(got, want) {
 			t.Fatalf("DecodeNet(%x): %+v %v %d, not %+v %v %d", b, got, f, place, want, e, at)
 		}
 		seen[e]++
@@ -410,10 +289,10 @@ func TestTwinOfQuestions(t *testing.T) {
 	var m oracle.Mixer
 	seen := map[api.Errno]int{}
 	for range 60000 {
-		b := spoilt(&m, layProp(mixedProp(&m)))
+		b := spoilt(&m, layProp(samples.MixedProp(&m)))
 		want, e, at := twinProp(b)
 		got, f, place := DecodeProp(b)
-		if f != e || place != at || !sameProp(got, want) {
+		if f != e || place != at || !samples.SameProp(got, want) {
 			t.Fatalf("DecodeProp(%x): %+v %v %d, not %+v %v %d", b, got, f, place, want, e, at)
 		}
 		seen[e]++

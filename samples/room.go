@@ -1,0 +1,77 @@
+package samples
+
+import (
+	"slices"
+
+	"ambit/api"
+)
+
+// Roomy is a list with more behind its end.
+func Roomy[T any](l []T, behind T) []T {
+	return append(slices.Clone(l), behind, behind, behind)[:len(l)]
+}
+
+// Whole tells all of a list, with the room behind its end.
+func Whole[T any](l []T) []T { return l[:cap(l)] }
+
+// Scribble writes all over a list, behind its end too.
+func Scribble[T any](l []T, what T) {
+	for i := range Whole(l) {
+		Whole(l)[i] = what
+	}
+}
+
+func RoomyNet() api.Net {
+	n := Chain()
+	for i, l := range n.Layers {
+		l.W, l.B = Roomy(l.W, 7), Roomy(l.B, 8)
+		l.Z, l.ZB = Roomy(l.Z, 9i), Roomy(l.ZB, 10i)
+		n.Layers[i] = l
+	}
+	n.Layers, n.Names = Roomy(n.Layers, Relu()), Roomy(n.Names, "behind")
+	return n
+}
+
+func RoomyProp() api.Prop {
+	p := Question()
+	p.C = Roomy(p.C, 7)
+	for i, g := range p.G {
+		p.G[i] = Roomy(g, 8)
+	}
+	for i, c := range p.Claims {
+		p.Claims[i] = Roomy(c, 9)
+	}
+	p.G, p.Claims = Roomy(p.G, []float64{1}), Roomy(p.Claims, []float64{2})
+	return p
+}
+
+// Lists are all lists of numbers of a network.
+func Lists(n api.Net) (numbers [][]float64, pairs [][]complex128) {
+	for _, l := range n.Layers {
+		numbers = append(numbers, l.W, l.B)
+		pairs = append(pairs, l.Z, l.ZB)
+	}
+	return numbers, pairs
+}
+
+// WholeNet is a copy of a network in which the room behind each list counts as a part of it: so SameNet looks at that too.
+func WholeNet(n api.Net) api.Net {
+	n.Layers, n.Names = slices.Clone(Whole(n.Layers)), slices.Clone(Whole(n.Names))
+	for i, l := range n.Layers {
+		l.W, l.B = slices.Clone(Whole(l.W)), slices.Clone(Whole(l.B))
+		l.Z, l.ZB = slices.Clone(Whole(l.Z)), slices.Clone(Whole(l.ZB))
+		n.Layers[i] = l
+	}
+	return n
+}
+
+// WholeProp is such a copy of a question.
+func WholeProp(p api.Prop) api.Prop {
+	p.C, p.G, p.Claims = slices.Clone(Whole(p.C)), slices.Clone(Whole(p.G)), slices.Clone(Whole(p.Claims))
+	for _, lists := range [][][]float64{p.G, p.Claims} {
+		for i, l := range lists {
+			lists[i] = slices.Clone(Whole(l))
+		}
+	}
+	return p
+}

@@ -1,0 +1,104 @@
+package samples
+
+import (
+	"testing"
+
+	"ambit/api"
+	"ambit/model"
+	"ambit/oracle"
+)
+
+// outputs is how many coordinates a question's network may have.
+func outputs(p api.Prop) int {
+	if len(p.Claims) > 0 {
+		return len(p.Claims[0]) - 1
+	}
+	return max(2, p.Target+1)
+}
+
+func TestAllMayBe(t *testing.T) {
+	var m oracle.Mixer
+	nets, props := append(Nets(), RoomyNet()), append(Props(), RoomyProp())
+	for range 2000 {
+		nets, props = append(nets, MixedNet(&m)), append(props, MixedProp(&m))
+	}
+	for _, n := range nets {
+		if e, at := model.Check(n); e != api.OK {
+			t.Errorf("%+v: %v at %d", n, e, at)
+		}
+	}
+	for _, p := range props {
+		if e, at := model.CheckProp(p, len(p.C), outputs(p)); e != api.OK {
+			t.Errorf("%+v: %v at %d", p, e, at)
+		}
+	}
+}
+
+// changes are all ways to change one thing in a network.
+func changes() []func(n *api.Net) {
+	all := []func(n *api.Net){
+		func(n *api.Net) { n.In.H++ },
+		func(n *api.Net) { n.Names[1] += "x" },
+		func(n *api.Net) { n.Names = n.Names[1:] },
+		func(n *api.Net) { n.Layers = n.Layers[1:] },
+		func(n *api.Net) { n.Layers[0].Kind++ },
+		func(n *api.Net) { n.Layers[7].A = oracle.MinusZero() },
+		func(n *api.Net) { n.Layers[0].W[4] = 0 },
+		func(n *api.Net) { n.Layers[1].B = n.Layers[1].B[1:] },
+		func(n *api.Net) { n.Layers[6].Z[1] = 0 },
+		func(n *api.Net) { n.Layers[6].ZB[0] *= 1i },
+	}
+	for i := range wholesIn(&api.Layer{}) {
+		all = append(all, func(n *api.Net) { *wholesIn(&n.Layers[5])[i]++ })
+	}
+	return all
+}
+
+func TestSameNetTellsChanges(t *testing.T) {
+	if !SameNet(Chain(), Chain()) || !SameNet(api.Net{Names: []string{}}, api.Net{}) {
+		t.Error("a network is another than itself")
+	}
+	for i, change := range changes() {
+		n := Chain()
+		change(&n)
+		if SameNet(n, Chain()) || SameNet(Chain(), n) {
+			t.Errorf("the change %d is not told", i)
+		}
+	}
+}
+
+func TestSamePropTellsChanges(t *testing.T) {
+	if !SameProp(Question(), Question()) || !SameProp(api.Prop{G: [][]float64{{}}}, api.Prop{G: [][]float64{nil}}) {
+		t.Error("a question is another than itself")
+	}
+	for i, change := range []func(p *api.Prop){
+		func(p *api.Prop) { p.C[0] = 9 },
+		func(p *api.Prop) { p.G[1][2] = 9 },
+		func(p *api.Prop) { p.G = p.G[1:] },
+		func(p *api.Prop) { p.Claims[2][4] = oracle.MinusZero() },
+		func(p *api.Prop) { p.Claims[2] = nil },
+		func(p *api.Prop) { p.Target++ },
+		func(p *api.Prop) { p.K++ },
+		func(p *api.Prop) { p.Depth++ },
+		func(p *api.Prop) { p.Looks++ },
+	} {
+		p := Question()
+		change(&p)
+		if SameProp(p, Question()) {
+			t.Errorf("the change %d is not told", i)
+		}
+	}
+}
+
+func TestRoomCounts(t *testing.T) {
+	n, p := RoomyNet(), RoomyProp()
+	before, asked := WholeNet(n), WholeProp(p)
+	Whole(n.Layers[0].W)[len(n.Layers[0].W)] = 1
+	Whole(p.Claims[1])[len(p.Claims[1])] = 1
+	if SameNet(WholeNet(n), before) || SameProp(WholeProp(p), asked) {
+		t.Error("what was written into the room behind a list is not told")
+	}
+	if !SameNet(n, Chain()) || !SameProp(p, Question()) {
+		t.Error("the room behind a list is a part of it")
+	}
+}
