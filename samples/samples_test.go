@@ -6,6 +6,7 @@ import (
 	"ambit/api"
 	"ambit/model"
 	"ambit/oracle"
+	"ambit/zono"
 )
 
 // outputs is how many coordinates a question's network may have.
@@ -100,5 +101,51 @@ func TestRoomCounts(t *testing.T) {
 	}
 	if !SameNet(n, Chain()) || !SameProp(p, Question()) {
 		t.Error("the room behind a list is a part of it")
+	}
+}
+
+func TestZonotopesMayBe(t *testing.T) {
+	var m oracle.Mixer
+	all := []api.Zono{RoomyZono(), WideZono(1, 0), WideZono(256, 300), BadZono(0), BadZono(256)}
+	for n := range 2000 {
+		all = append(all, MixedZono(&m, 1+n%4))
+	}
+	for _, z := range all {
+		if e := zono.Check(z); e != api.OK {
+			t.Errorf("%+v: %v", z, e)
+		}
+	}
+	for _, z := range SpoiltZonos() {
+		if zono.Check(z) == api.OK {
+			t.Errorf("%+v may be", z)
+		}
+	}
+}
+
+func TestSameZonoTellsChanges(t *testing.T) {
+	if !SameZono(WideZono(3, 4), WideZono(3, 4)) || !SameZono(api.Zono{Ids: []int{}}, api.Zono{}) {
+		t.Error("a zonotope is another than itself")
+	}
+	for i, change := range []func(z *api.Zono){
+		func(z *api.Zono) { z.N++ },
+		func(z *api.Zono) { z.Bad = true },
+		func(z *api.Zono) { z.C[1] = 9 },
+		func(z *api.Zono) { z.C = z.C[1:] },
+		func(z *api.Zono) { z.Ids[3]++ },
+		func(z *api.Zono) { z.G[1][2] = -z.G[1][2] },
+		func(z *api.Zono) { z.G = z.G[1:] },
+		func(z *api.Zono) { z.R[2] = -z.R[2] },
+	} {
+		z := WideZono(3, 4)
+		change(&z)
+		if SameZono(z, WideZono(3, 4)) {
+			t.Errorf("the change %d is not told", i)
+		}
+	}
+	z := RoomyZono()
+	before := WholeZono(z)
+	Whole(z.G[1])[len(z.G[1])] = 1
+	if SameZono(WholeZono(z), before) || !SameZono(z, WideZono(3, 4)) {
+		t.Error("the room behind a list is not told, or a part of it")
 	}
 }
