@@ -17,27 +17,14 @@ type term struct {
 	w     float64
 }
 
-// coordinates are the places of a shape, in their order, each as its channel, row and column.
-func coordinates(s api.Shape) [][3]int {
-	var all [][3]int
-	for c := range s.C {
-		for y := range s.H {
-			for x := range s.W {
-				all = append(all, [3]int{c, y, x})
-			}
-		}
-	}
-	return all
-}
-
 // find is where a place stands among the coordinates; -1, if it lies outside.
-func find(s api.Shape, c, y, x int) int { return slices.Index(coordinates(s), [3]int{c, y, x}) }
+func find(s api.Shape, c, y, x int) int { return slices.Index(oracle.Coordinates(s), [3]int{c, y, x}) }
 
 // laid is the whole row of the i-th coordinate, and what stands beside.
 func laid(l api.Layer, in, out api.Shape, i int) ([]term, float64) {
-	n := len(coordinates(in))
+	n := len(oracle.Coordinates(in))
 	whole := make([]term, n)
-	at := coordinates(out)[i]
+	at := oracle.Coordinates(out)[i]
 	switch l.Kind {
 	case api.KDense:
 		for j := range n {
@@ -107,7 +94,7 @@ func expectTwin(t *testing.T, l api.Layer, in api.Shape) {
 	if e != api.OK {
 		t.Fatalf("%+v over %v: %v", l, in, e)
 	}
-	n := len(coordinates(out))
+	n := len(oracle.Coordinates(out))
 	expectCount(t, l, in, n, api.OK)
 	for i := range n {
 		if !hasRows(l.Kind) {

@@ -38,38 +38,49 @@ func MixedLists(m *oracle.Mixer, k, n int) [][]float64 {
 	return l
 }
 
+// LayerOf is a layer of a kind over a shape, but for From, with numbers that are made one by one; false, if what came up may not be.
+func LayerOf(m *oracle.Mixer, kind int, in api.Shape, number func() float64) (api.Layer, bool) {
+	l := api.Layer{Kind: kind}
+	switch kind {
+	case api.KDense, api.KTurn:
+		l.Out = 1 + m.Below(4)
+	case api.KConv, api.KMean, api.KMax:
+		l.KH, l.KW, l.SH, l.SW = 1+m.Below(4), 1+m.Below(4), 1+m.Below(4), 1+m.Below(4)
+		l.PH, l.PW = m.Below(l.KH), m.Below(l.KW)
+		if kind == api.KConv {
+			l.Out = 1 + m.Below(2)
+		}
+		if kind == api.KMean {
+			l.A = number()
+		}
+	case api.KLeaky:
+		l.A = []float64{0, oracle.MinusZero(), oracle.Least, 0.1, 1}[m.Below(5)]
+	}
+	w, b, z, zb, e := model.Lists(l, in)
+	if e != api.OK {
+		return api.Layer{}, false
+	}
+	for range w {
+		l.W = append(l.W, number())
+	}
+	for range b {
+		l.B = append(l.B, number())
+	}
+	for range z {
+		l.Z = append(l.Z, complex(number(), number()))
+	}
+	for range zb {
+		l.ZB = append(l.ZB, complex(number(), number()))
+	}
+	return l, true
+}
+
 // mixedLayer is a layer that may be over a shape, but for From; its lists are of mixed numbers.
 func mixedLayer(m *oracle.Mixer, in api.Shape) api.Layer {
 	for {
-		l := api.Layer{Kind: 1 + m.Below(12)}
-		switch l.Kind {
-		case api.KDense, api.KTurn:
-			l.Out = 1 + m.Below(4)
-		case api.KConv, api.KMean, api.KMax:
-			l.KH, l.KW, l.SH, l.SW = 1+m.Below(4), 1+m.Below(4), 1+m.Below(4), 1+m.Below(4)
-			l.PH, l.PW = m.Below(l.KH), m.Below(l.KW)
-			if l.Kind == api.KConv {
-				l.Out = 1 + m.Below(2)
-			}
-			if l.Kind == api.KMean {
-				l.A = MixedNumber(m)
-			}
-		case api.KLeaky:
-			l.A = []float64{0, oracle.MinusZero(), oracle.Least, 0.1, 1}[m.Below(5)]
+		if l, ok := LayerOf(m, 1+m.Below(12), in, func() float64 { return MixedNumber(m) }); ok {
+			return l
 		}
-		w, b, z, zb, e := model.Lists(l, in)
-		if e != api.OK {
-			continue
-		}
-		l.W, l.B = MixedNumbers(m, w), MixedNumbers(m, b)
-		for i := range z + zb {
-			if c := complex(MixedNumber(m), MixedNumber(m)); i < z {
-				l.Z = append(l.Z, c)
-			} else {
-				l.ZB = append(l.ZB, c)
-			}
-		}
-		return l
 	}
 }
 

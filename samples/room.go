@@ -21,12 +21,17 @@ func Scribble[T any](l []T, what T) {
 	}
 }
 
+// RoomyLayer is a layer with more behind the end of each of its lists.
+func RoomyLayer(l api.Layer) api.Layer {
+	l.W, l.B = Roomy(l.W, 7), Roomy(l.B, 8)
+	l.Z, l.ZB = Roomy(l.Z, 9i), Roomy(l.ZB, 10i)
+	return l
+}
+
 func RoomyNet() api.Net {
 	n := Chain()
 	for i, l := range n.Layers {
-		l.W, l.B = Roomy(l.W, 7), Roomy(l.B, 8)
-		l.Z, l.ZB = Roomy(l.Z, 9i), Roomy(l.ZB, 10i)
-		n.Layers[i] = l
+		n.Layers[i] = RoomyLayer(l)
 	}
 	n.Layers, n.Names = Roomy(n.Layers, Relu()), Roomy(n.Names, "behind")
 	return n

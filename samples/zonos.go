@@ -34,9 +34,12 @@ func WideZono(n, k int) api.Zono {
 	return z
 }
 
-// RoomyZono is one with more behind the end of each of its lists.
-func RoomyZono() api.Zono {
-	z := WideZono(3, 4)
+// RoomyZono is one of three coordinates and four columns with more behind the end of each of its lists.
+func RoomyZono() api.Zono { return RoomyWideZono(3, 4) }
+
+// RoomyWideZono is WideZono's with more behind the end of each of its lists.
+func RoomyWideZono(n, k int) api.Zono {
+	z := WideZono(n, k)
 	z.C, z.R, z.Ids = Roomy(z.C, 7), Roomy(z.R, 8), Roomy(z.Ids, 9)
 	for k, g := range z.G {
 		z.G[k] = Roomy(g, 10)
@@ -126,8 +129,8 @@ func unlikeZonos() []api.Zono {
 	return all
 }
 
-// mixedKind makes numbers that are alike in something: of any size, of nearly one size, small whole ones, least ones, or greatest ones.
-func mixedKind(m *oracle.Mixer) func() float64 {
+// MixedKind makes numbers that are alike in something: of any size, of nearly one size, small whole ones, least ones, or greatest ones.
+func MixedKind(m *oracle.Mixer) func() float64 {
 	exponent := m.Below(2000) - 1000
 	return [...]func() float64{
 		func() float64 { return MixedNumber(m) },
@@ -141,7 +144,7 @@ func mixedKind(m *oracle.Mixer) func() float64 {
 
 // MixedZono is a zonotope of n coordinates, with at most five columns; the Ids of two have often something in common.
 func MixedZono(m *oracle.Mixer, n int) api.Zono {
-	number := mixedKind(m)
+	number := MixedKind(m)
 	list := func() []float64 {
 		l := make([]float64, n)
 		for i := range l {

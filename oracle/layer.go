@@ -1,0 +1,106 @@
+package oracle
+
+import (
+	"math/big"
+
+	"ambit/api"
+)
+
+// Coordinates are the places of a shape, in their order, each as its channel, row and column.
+func Coordinates(s api.Shape) [][3]int {
+	var all [][3]int
+	for c := range s.C {
+		for y := range s.H {
+			for x := range s.W {
+				all = append(all, [3]int{c, y, x})
+			}
+		}
+	}
+	return all
+}
+
+// Tells is what a linear layer but KAdd tells of exact reals, by the table of DOC.md, Networks: coordinates are read and written by channel, row and column. The layer must be one that may be, and out the shape that it tells.
+func Tells(l api.Layer, in, out api.Shape, v []*big.Rat) []*big.Rat {
+	if l.Kind == api.KTurn {
+		return turns(l, v)
+	}
+	var all []*big.Rat
+	for i, at := range Coordinates(out) {
+		sum := new(big.Rat)
+		switch l.Kind {
+		case api.KDense:
+			sum.Set(Exact(l.B[i]))
+			for j, x := range v {
+				sum.Add(sum, times(Exact(l.W[i*len(v)+j]), x))
+			}
+		case api.KConv:
+			sum.Set(Exact(l.B[at[0]]))
+			for c := range in.C {
+				sum.Add(sum, filtered(l, in, at, c, v))
+			}
+		case api.KScale:
+			sum.Add(times(Exact(l.W[at[0]]), v[i]), Exact(l.B[at[0]]))
+		case api.KMean:
+			for p := range l.KH {
+				for q := range l.KW {
+					sum.Add(sum, valueAt(in, v, at[0], at[1]*l.SH-l.PH+p, at[2]*l.SW-l.PW+q))
+				}
+			}
+			sum.Mul(sum, Exact(l.A))
+		}
+		all = append(all, sum)
+	}
+	return all
+}
+
+// valueAt is a coordinate's value; outside the shape it is 0.
+func valueAt(s api.Shape, v []*big.Rat, c, y, x int) *big.Rat {
+	if y < 0 || x < 0 || y >= s.H || x >= s.W {
+		return new(big.Rat)
+	}
+	return v[(c*s.H+y)*s.W+x]
+}
+
+// filtered is what a filter sums up in one channel.
+func filtered(l api.Layer, in api.Shape, at [3]int, c int, v []*big.Rat) *big.Rat {
+	sum := new(big.Rat)
+	for p := range l.KH {
+		for q := range l.KW {
+			w := Exact(l.W[((at[0]*in.C+c)*l.KH+p)*l.KW+q])
+			sum.Add(sum, times(w, valueAt(in, v, c, at[1]*l.SH-l.PH+p, at[2]*l.SW-l.PW+q)))
+		}
+	}
+	return sum
+}
+
+// turns is complex multiplication.
+func turns(l api.Layer, v []*big.Rat) []*big.Rat {
+	var all []*big.Rat
+	half := len(v) / 2
+	for i := range l.Out {
+		sum := pairOf(l.ZB[i])
+		for j := range half {
+			sum = sum.plus(pairOf(l.Z[i*half+j]).times(pair{v[2*j], v[2*j+1]}))
+		}
+		all = append(all, sum.re, sum.im)
+	}
+	return all
+}
+
+// A pair is a complex number of two exact reals.
+type pair struct{ re, im *big.Rat }
+
+func pairOf(z complex128) pair { return pair{Exact(real(z)), Exact(imag(z))} }
+
+func times(a, b *big.Rat) *big.Rat { return new(big.Rat).Mul(a, b) }
+
+func (p pair) times(q pair) pair {
+	return pair{
+		new(big.Rat).Sub(times(p.re, q.re), times(p.im, q.im)),
+		new(big.Rat).Add(times(p.re, q.im), times(p.im, q.re)),
+	}
+}
+
+func (p pair) plus(q pair) pair {
+	return pair{new(big.Rat).Add(p.re, q.re), new(big.Rat).Add(p.im, q.im)}
+}
