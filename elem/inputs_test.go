@@ -47,8 +47,8 @@ type function struct {
 func functions() []function {
 	return []function{
 		{"Exp", Exp, twinExp, realExp},
-		{"Sigmoid", Sigmoid, twinSigmoid, realSigmoid},
-		{"Tanh", Tanh, twinTanh, realTanh},
+		{"Sigmoid", Sigmoid, twinSigmoid, oracle.Sigmoid},
+		{"Tanh", Tanh, twinTanh, oracle.Tanh},
 		{"SigmoidSlope", SigmoidSlope, twinSigmoidSlope, realSigmoidSlope},
 		{"TanhSlope", TanhSlope, twinTanhSlope, realTanhSlope},
 	}

@@ -53,9 +53,52 @@ func Tells(l api.Layer, in, out api.Shape, v []*big.Rat) []*big.Rat {
 	return all
 }
 
+// Bends are bounds of what a bent layer tells of exact reals, by the same table: of KTanh and KSigmoid two that are nearly the same, of all others the real itself twice.
+func Bends(l api.Layer, in, out api.Shape, v []*big.Rat) (low, high []*big.Rat) {
+	for i, at := range Coordinates(out) {
+		var down, up *big.Rat
+		switch l.Kind {
+		case api.KRelu, api.KLeaky:
+			if down = v[i]; down.Sign() <= 0 {
+				down = times(Exact(l.A), down)
+			}
+			up = down
+		case api.KTanh:
+			down, up = Tanh(v[i])
+		case api.KSigmoid:
+			down, up = Sigmoid(v[i])
+		case api.KSquare:
+			down = times(v[i], v[i])
+			up = down
+		case api.KMax:
+			down = greatest(l, in, at, v)
+			up = down
+		}
+		low, high = append(low, down), append(high, up)
+	}
+	return low, high
+}
+
+// greatest is the greatest value of those that lie within a window.
+func greatest(l api.Layer, in api.Shape, at [3]int, v []*big.Rat) *big.Rat {
+	var most *big.Rat
+	for p := range l.KH {
+		for q := range l.KW {
+			y, x := at[1]*l.SH-l.PH+p, at[2]*l.SW-l.PW+q
+			if within(in, y, x) && (most == nil || valueAt(in, v, at[0], y, x).Cmp(most) > 0) {
+				most = valueAt(in, v, at[0], y, x)
+			}
+		}
+	}
+	return most
+}
+
+// within tells whether a row and a column lie in the shape.
+func within(s api.Shape, y, x int) bool { return y >= 0 && x >= 0 && y < s.H && x < s.W }
+
 // valueAt is a coordinate's value; outside the shape it is 0.
 func valueAt(s api.Shape, v []*big.Rat, c, y, x int) *big.Rat {
-	if y < 0 || x < 0 || y >= s.H || x >= s.W {
+	if !within(s, y, x) {
 		return new(big.Rat)
 	}
 	return v[(c*s.H+y)*s.W+x]

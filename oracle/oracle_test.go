@@ -84,3 +84,70 @@ func TestTells(t *testing.T) {
 		}
 	}
 }
+
+// Known bent layers, reckoned by hand.
+func TestBends(t *testing.T) {
+	window := api.Layer{Kind: api.KMax, KH: 1, KW: 2, SH: 1, SW: 1, PW: 1}
+	for i, c := range []struct {
+		l       api.Layer
+		in, out api.Shape
+		v, want []*big.Rat
+	}{
+		{api.Layer{Kind: api.KRelu}, api.Shape{C: 1, H: 1, W: 3}, api.Shape{C: 1, H: 1, W: 3}, []*big.Rat{sum(-2), sum(), sum(0.5)}, []*big.Rat{sum(), sum(), sum(0.5)}},
+		{api.Layer{Kind: api.KLeaky, A: 0.25}, api.Shape{C: 3, H: 1, W: 1}, api.Shape{C: 3, H: 1, W: 1}, []*big.Rat{sum(-2), sum(), sum(3)}, []*big.Rat{sum(-0.5), sum(), sum(3)}},
+		{api.Layer{Kind: api.KSquare}, api.Shape{C: 1, H: 2, W: 1}, api.Shape{C: 1, H: 2, W: 1}, []*big.Rat{sum(-1.5), sum(2)}, []*big.Rat{sum(2.25), sum(4)}},
+		{window, api.Shape{C: 2, H: 1, W: 2}, api.Shape{C: 2, H: 1, W: 3}, []*big.Rat{sum(-5), sum(-7), sum(1), sum(2)}, []*big.Rat{sum(-5), sum(-5), sum(-7), sum(1), sum(2), sum(2)}},
+	} {
+		low, high := Bends(c.l, c.in, c.out, c.v)
+		if len(low) != len(c.want) || len(high) != len(c.want) {
+			t.Fatalf("%d: %v %v, not %v", i, low, high, c.want)
+		}
+		for k, v := range c.want {
+			if low[k].Cmp(v) != 0 || high[k].Cmp(v) != 0 {
+				t.Errorf("%d: %v %v, not %v", i, low, high, c.want)
+			}
+		}
+	}
+	for _, kind := range []int{api.KSigmoid, api.KTanh} {
+		of := map[int]func(v *big.Rat) (*big.Rat, *big.Rat){api.KSigmoid: Sigmoid, api.KTanh: Tanh}[kind]
+		low, high := Bends(api.Layer{Kind: kind}, api.Shape{C: 1, H: 1, W: 1}, api.Shape{C: 1, H: 1, W: 1}, []*big.Rat{sum(0.75)})
+		if a, b := of(sum(0.75)); low[0].Cmp(a) != 0 || high[0].Cmp(b) != 0 {
+			t.Errorf("the kind %d tells something else", kind)
+		}
+	}
+}
+
+// Known bounds: at 0 they are the value itself, elsewhere they agree to many more places than are written here, and far off they are still some.
+func TestRealFunctions(t *testing.T) {
+	for i, c := range []struct {
+		of    func(v *big.Rat) (low, high *big.Rat)
+		v     *big.Rat
+		digit string
+	}{
+		{Falling, sum(1), "0.3678794411714423215955237701614608674458"},
+		{Falling, sum(0.5), "0.6065306597126334236037995349911804534419"},
+		{Sigmoid, sum(1), "0.7310585786300048792511592418218362743651"},
+		{Sigmoid, sum(-1), "0.2689414213699951207488407581781637256348"},
+		{Tanh, sum(0.5), "0.4621171572600097585023184836436725487302"},
+		{Tanh, sum(-0.5), "-0.4621171572600097585023184836436725487302"},
+	} {
+		low, high := c.of(c.v)
+		if low.Cmp(high) > 0 || new(big.Rat).Sub(high, low).Cmp(Power(-4000)) > 0 || low.FloatString(60)[:len(c.digit)] != c.digit {
+			t.Errorf("%d: from %s to %s", i, low.FloatString(50), high.FloatString(50))
+		}
+	}
+	for i, of := range []func(v *big.Rat) (low, high *big.Rat){Falling, Sigmoid, Tanh} {
+		low, high := of(sum())
+		if want := []*big.Rat{sum(1), sum(0.5), sum()}[i]; low.Cmp(want) != 0 || high.Cmp(want) != 0 {
+			t.Errorf("%d at 0: from %v to %v", i, low, high)
+		}
+	}
+	low, high := Tanh(sum(-Max))
+	if low.Cmp(sum(-1)) != 0 || high.Cmp(sum(-1)) <= 0 || high.Cmp(sum(-1, 0x1p-1000)) > 0 {
+		t.Errorf("tanh of -Max: from %v to %v", low, high)
+	}
+	low, high = Sigmoid(sum(5000))
+	if high.Cmp(sum(1)) != 0 || low.Cmp(sum(1)) >= 0 || low.Cmp(sum(1, -0x1p-1000)) < 0 {
+		t.Errorf("sigmoid of 5000: from %v to %v", low, high)
+	}
+}
