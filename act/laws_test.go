@@ -219,7 +219,7 @@ func expectCopied(t *testing.T, z api.Zono, k int, slope float64, y api.Zono, i 
 
 // 13.5: a KRelu over spans on one side of 0: R' is R, or 0, and nothing else is changed.
 func TestReluOnOneSideLosesNothing(t *testing.T) {
-	seen := tally{}
+	seen := oracle.Tally{}
 	var m oracle.Mixer
 	for range 3000 {
 		n := 1 + m.Below(4)
@@ -239,12 +239,12 @@ func TestReluOnOneSideLosesNothing(t *testing.T) {
 			}
 		}
 	}
-	seen.expect(t, 300, "below", "above")
+	seen.Expect(t, 300, "below", "above")
 }
 
 // 13.5: a KLeaky likewise: where the products are numbers R' is the slope's part of R, and where they are not it is more by at most what the roundings lose.
 func TestLeakyOnOneSideLosesNoMore(t *testing.T) {
-	seen := tally{}
+	seen := oracle.Tally{}
 	var m oracle.Mixer
 	for range 3000 {
 		n := 1 + m.Below(4)
@@ -271,13 +271,13 @@ func TestLeakyOnOneSideLosesNoMore(t *testing.T) {
 			}
 		}
 	}
-	seen.expect(t, 200, "exactly", "nearly", "above")
+	seen.Expect(t, 200, "exactly", "nearly", "above")
 }
 
 // 13.5: a KMax with a greatest input is a copy of it.
 func TestMaxWithAGreatestLosesNothing(t *testing.T) {
 	t.Parallel()
-	seen := tally{}
+	seen := oracle.Tally{}
 	laws(8000, func(m *oracle.Mixer, z api.Zono, s sample, y api.Zono) {
 		if s.l.Kind != api.KMax {
 			return
@@ -290,14 +290,14 @@ func TestMaxWithAGreatestLosesNothing(t *testing.T) {
 			})
 			if first >= 0 {
 				expectCopied(t, z, places[first], 1, y, i)
-				seen.note("of several", len(places) > 1)
-				seen.note("of one", len(places) == 1)
+				seen.Note("of several", len(places) > 1)
+				seen.Note("of one", len(places) == 1)
 			} else {
 				seen["none"]++
 			}
 		}
 	})
-	seen.expect(t, 200, "of several", "of one", "none")
+	seen.Expect(t, 200, "of several", "of one", "none")
 }
 
 // 13.2: a step is a bend of each coordinate, and no coordinate looks at another.
@@ -322,7 +322,7 @@ func TestCoordinatesStandAlone(t *testing.T) {
 // 13.6: whatever is handed in, a call ends, and answers what may be answered, twice the same.
 func TestAnythingEnds(t *testing.T) {
 	var m oracle.Mixer
-	seen := tally{}
+	seen := oracle.Tally{}
 	for range 8000 {
 		z, n := samples.AnyZono(&m), samples.AnyNet(&m)
 		l, in := samples.Relu(), n.In
@@ -348,17 +348,17 @@ func TestAnythingEnds(t *testing.T) {
 				t.Fatalf("%s tells a nought with a sign", text(y))
 			}
 		}
-		seen.note("bad of none", y.Bad && y.N == 0)
-		seen.note("bad of some", y.Bad && y.N > 0)
-		seen.note("good", !y.Bad)
+		seen.Note("bad of none", y.Bad && y.N == 0)
+		seen.Note("bad of some", y.Bad && y.N > 0)
+		seen.Note("good", !y.Bad)
 	}
-	seen.expect(t, 500, "bad of none", "bad of some", "good")
+	seen.Expect(t, 500, "bad of none", "bad of some", "good")
 }
 
 // 13.6: likewise of Bend.
 func TestAnyBendEnds(t *testing.T) {
 	var m oracle.Mixer
-	seen := tally{}
+	seen := oracle.Tally{}
 	for range 20000 {
 		l := api.Layer{Kind: samples.AnyWhole(&m), A: api.Float(m.Word())}
 		if m.Below(2) == 0 {
@@ -375,9 +375,9 @@ func TestAnyBendEnds(t *testing.T) {
 				t.Fatalf("Bend of %s over %v: %v %v %v", text(l), s, slope, rest, ok)
 			}
 		}
-		seen.note(fmt.Sprint(ok), true)
+		seen.Note(fmt.Sprint(ok), true)
 	}
-	seen.expect(t, 1000, "true", "false")
+	seen.Expect(t, 1000, "true", "false")
 }
 
 // 13.1, 13.2, Numbers: the sign of a nought turns nothing.

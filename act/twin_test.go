@@ -237,24 +237,6 @@ func wantStep(z api.Zono, s sample) api.Zono {
 	return y
 }
 
-// A tally counts what came up.
-type tally map[string]int
-
-func (seen tally) note(name string, is bool) {
-	if is {
-		seen[name]++
-	}
-}
-
-func (seen tally) expect(t *testing.T, least int, names ...string) {
-	t.Helper()
-	for _, name := range names {
-		if seen[name] < least {
-			t.Errorf("%s came up %d times only", name, seen[name])
-		}
-	}
-}
-
 // anyLayer is a layer of any kind, or of none; A is often not what it must be.
 func anyLayer(m *oracle.Mixer) api.Layer {
 	l := api.Layer{Kind: curves()[m.Below(5)], A: someSlope(m)}
@@ -271,7 +253,7 @@ func anyLayer(m *oracle.Mixer) api.Layer {
 func TestTwinOfBends(t *testing.T) {
 	t.Parallel()
 	var m oracle.Mixer
-	seen := tally{}
+	seen := oracle.Tally{}
 	for range 12000 {
 		l, s := anyLayer(&m), someSpan(&m)
 		if m.Below(30) == 0 {
@@ -280,8 +262,8 @@ func TestTwinOfBends(t *testing.T) {
 		slope, rest, ok := wantBend(l, s)
 		if !ok {
 			expectNoBend(t, l, s)
-			seen.note("not ok", true)
-			seen.note("no number", !s.Bad && l.Kind == api.KSquare)
+			seen.Note("not ok", true)
+			seen.Note("no number", !s.Bad && l.Kind == api.KSquare)
 			continue
 		}
 		expectBend(t, l, s, slope, rest)
@@ -289,15 +271,15 @@ func TestTwinOfBends(t *testing.T) {
 			return
 		}
 		name := fmt.Sprintf("kind %d ", l.Kind)
-		seen.note(name+"below", s.Hi <= 0)
-		seen.note(name+"above", s.Lo >= 0 && s.Hi > 0)
-		seen.note(name+"across", s.Lo < 0 && s.Hi > 0)
-		seen.note(name+"at a point", s.Lo == s.Hi)
+		seen.Note(name+"below", s.Hi <= 0)
+		seen.Note(name+"above", s.Lo >= 0 && s.Hi > 0)
+		seen.Note(name+"across", s.Lo < 0 && s.Hi > 0)
+		seen.Note(name+"at a point", s.Lo == s.Hi)
 	}
-	seen.expect(t, 100, "not ok", "no number")
+	seen.Expect(t, 100, "not ok", "no number")
 	for _, k := range curves() {
 		for _, where := range []string{"below", "above", "across", "at a point"} {
-			seen.expect(t, 60, fmt.Sprintf("kind %d %s", k, where))
+			seen.Expect(t, 60, fmt.Sprintf("kind %d %s", k, where))
 		}
 	}
 }
@@ -338,7 +320,7 @@ func someBox(z api.Zono) bool {
 func TestTwinOfSteps(t *testing.T) {
 	t.Parallel()
 	var m oracle.Mixer
-	seen := tally{}
+	seen := oracle.Tally{}
 	for range 2500 {
 		s := someLayer(&m)
 		z := someZono(&m, s.size())
@@ -351,21 +333,21 @@ func TestTwinOfSteps(t *testing.T) {
 			return
 		}
 		is := isOne(z, s.size())
-		seen.note("no zonotope, or of other coordinates", !is)
-		seen.note("no number", is && want.Bad)
+		seen.Note("no zonotope, or of other coordinates", !is)
+		seen.Note("no number", is && want.Bad)
 		good := is && !want.Bad
-		seen.note("fewer columns", good && len(want.Ids) < len(z.Ids))
-		seen.note("as many columns", good && len(want.Ids) == len(z.Ids) && len(z.Ids) > 0)
-		seen.note("no columns ahead", good && len(z.Ids) == 0)
-		seen.note("a box of its own", good && !someBox(z) && someBox(want))
-		seen.note("no box", good && !someBox(z) && !someBox(want))
-		seen.note(fmt.Sprintf("kind %d", s.l.Kind), good)
-		seen.note("windows", good && s.l.Kind == api.KMax && s.l.KH*s.l.KW > 1)
-		seen.note("padding", good && s.l.Kind == api.KMax && s.l.PH+s.l.PW > 0)
+		seen.Note("fewer columns", good && len(want.Ids) < len(z.Ids))
+		seen.Note("as many columns", good && len(want.Ids) == len(z.Ids) && len(z.Ids) > 0)
+		seen.Note("no columns ahead", good && len(z.Ids) == 0)
+		seen.Note("a box of its own", good && !someBox(z) && someBox(want))
+		seen.Note("no box", good && !someBox(z) && !someBox(want))
+		seen.Note(fmt.Sprintf("kind %d", s.l.Kind), good)
+		seen.Note("windows", good && s.l.Kind == api.KMax && s.l.KH*s.l.KW > 1)
+		seen.Note("padding", good && s.l.Kind == api.KMax && s.l.PH+s.l.PW > 0)
 	}
-	seen.expect(t, 60, "no zonotope, or of other coordinates", "no number", "fewer columns", "as many columns", "no columns ahead", "a box of its own", "no box", "windows", "padding")
+	seen.Expect(t, 60, "no zonotope, or of other coordinates", "no number", "fewer columns", "as many columns", "no columns ahead", "a box of its own", "no box", "windows", "padding")
 	for _, k := range bends() {
-		seen.expect(t, 100, fmt.Sprintf("kind %d", k))
+		seen.Expect(t, 100, fmt.Sprintf("kind %d", k))
 	}
 }
 

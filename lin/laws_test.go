@@ -283,7 +283,7 @@ func TestEveryCrewTellsTheSame(t *testing.T) {
 // 12.6: whatever is handed in, a call ends, and answers what may be answered, twice the same.
 func TestAnythingEnds(t *testing.T) {
 	var m oracle.Mixer
-	seen := tally{}
+	seen := oracle.Tally{}
 	for range 6000 {
 		z := samples.AnyZono(&m)
 		n := samples.AnyNet(&m)
@@ -309,11 +309,11 @@ func TestAnythingEnds(t *testing.T) {
 				t.Fatalf("%s tells a nought with a sign", text(y))
 			}
 		}
-		seen.note(fmt.Sprint(e), true)
-		seen.note("bad", y.Bad)
-		seen.note("good", e == api.OK && !y.Bad)
+		seen.Note(fmt.Sprint(e), true)
+		seen.Note("bad", y.Bad)
+		seen.Note("good", e == api.OK && !y.Bad)
 	}
-	seen.expect(t, 100, "bad", "good", fmt.Sprint(api.ErrArg), fmt.Sprint(api.ErrKind), fmt.Sprint(api.ErrField), fmt.Sprint(api.ErrShape), fmt.Sprint(api.ErrCount))
+	seen.Expect(t, 100, "bad", "good", fmt.Sprint(api.ErrArg), fmt.Sprint(api.ErrKind), fmt.Sprint(api.ErrField), fmt.Sprint(api.ErrShape), fmt.Sprint(api.ErrCount))
 }
 
 // 12.1, 12.2, Numbers: the sign of a nought turns nothing.

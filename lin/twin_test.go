@@ -111,24 +111,6 @@ func wantStep(z api.Zono, s sample) api.Zono {
 	return y
 }
 
-// A tally counts what came up.
-type tally map[string]int
-
-func (seen tally) note(name string, is bool) {
-	if is {
-		seen[name]++
-	}
-}
-
-func (seen tally) expect(t *testing.T, least int, names ...string) {
-	t.Helper()
-	for _, name := range names {
-		if seen[name] < least {
-			t.Errorf("%s came up %d times only", name, seen[name])
-		}
-	}
-}
-
 // someBox tells whether z has a box.
 func someBox(z api.Zono) bool {
 	for _, r := range z.R {
@@ -142,7 +124,7 @@ func someBox(z api.Zono) bool {
 // 12.1: the same answers, and each kind of answer comes up.
 func TestTwinOfImages(t *testing.T) {
 	var m oracle.Mixer
-	seen := tally{}
+	seen := oracle.Tally{}
 	for range 4000 {
 		z := samples.AnyZono(&m)
 		if m.Below(2) == 0 {
@@ -159,7 +141,7 @@ func TestTwinOfImages(t *testing.T) {
 		is := isOne(z, len(w)) && isNumber(b)
 		if !is {
 			expectNoImage(t, z, w, b)
-			seen.note("no zonotope, or no row of it", true)
+			seen.Note("no zonotope, or no row of it", true)
 			continue
 		}
 		c, g, r, ok := wantImage(z, exacts(w), oracle.Exact(b))
@@ -171,19 +153,19 @@ func TestTwinOfImages(t *testing.T) {
 		if t.Failed() {
 			return
 		}
-		seen.note("no number", !ok)
-		seen.note("a box", ok && someBox(z))
-		seen.note("a loss", ok && !someBox(z) && r > 0)
-		seen.note("no loss", ok && !someBox(z) && r == 0)
-		seen.note("several columns", ok && len(g) > 2)
+		seen.Note("no number", !ok)
+		seen.Note("a box", ok && someBox(z))
+		seen.Note("a loss", ok && !someBox(z) && r > 0)
+		seen.Note("no loss", ok && !someBox(z) && r == 0)
+		seen.Note("several columns", ok && len(g) > 2)
 	}
-	seen.expect(t, 150, "no zonotope, or no row of it", "no number", "a box", "a loss", "no loss", "several columns")
+	seen.Expect(t, 150, "no zonotope, or no row of it", "no number", "a box", "a loss", "no loss", "several columns")
 }
 
 // 12.2: likewise, of each kind.
 func TestTwinOfSteps(t *testing.T) {
 	var m oracle.Mixer
-	seen, kinds := tally{}, map[int]int{}
+	seen, kinds := oracle.Tally{}, map[int]int{}
 	for range 1500 {
 		s := someLayer(&m)
 		z := someZono(&m, s.size())
@@ -196,17 +178,17 @@ func TestTwinOfSteps(t *testing.T) {
 			t.Fatalf("Step of %s by %s over %v: %s %v, not %s", text(z), text(s.l), s.in, text(got), e, text(want))
 		}
 		one := isOne(z, s.size())
-		seen.note("no zonotope, or of other coordinates", !one)
-		seen.note("no number", one && want.Bad)
-		seen.note("fewer columns", one && !want.Bad && len(want.Ids) < len(z.Ids))
-		seen.note("as many columns", one && !want.Bad && len(want.Ids) == len(z.Ids) && len(z.Ids) > 0)
-		seen.note("a loss", one && !want.Bad && !someBox(z) && someBox(want))
-		seen.note("no loss", one && !want.Bad && !someBox(z) && !someBox(want))
+		seen.Note("no zonotope, or of other coordinates", !one)
+		seen.Note("no number", one && want.Bad)
+		seen.Note("fewer columns", one && !want.Bad && len(want.Ids) < len(z.Ids))
+		seen.Note("as many columns", one && !want.Bad && len(want.Ids) == len(z.Ids) && len(z.Ids) > 0)
+		seen.Note("a loss", one && !want.Bad && !someBox(z) && someBox(want))
+		seen.Note("no loss", one && !want.Bad && !someBox(z) && !someBox(want))
 		if one && !want.Bad {
 			kinds[s.l.Kind]++
 		}
 	}
-	seen.expect(t, 40, "no zonotope, or of other coordinates", "no number", "fewer columns", "as many columns", "a loss", "no loss")
+	seen.Expect(t, 40, "no zonotope, or of other coordinates", "no number", "fewer columns", "as many columns", "a loss", "no loss")
 	for _, kind := range matrices() {
 		if kinds[kind] < 80 {
 			t.Errorf("the kind %d came up %d times only", kind, kinds[kind])

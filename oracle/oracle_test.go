@@ -1,6 +1,7 @@
 package oracle
 
 import (
+	"fmt"
 	"math/big"
 	"testing"
 
@@ -149,5 +150,32 @@ func TestRealFunctions(t *testing.T) {
 	low, high = Sigmoid(sum(5000))
 	if high.Cmp(sum(1)) != 0 || low.Cmp(sum(1)) >= 0 || low.Cmp(sum(1, -0x1p-1000)) < 0 {
 		t.Errorf("sigmoid of 5000: from %v to %v", low, high)
+	}
+}
+
+// complaints keeps what it is told.
+type complaints []string
+
+func (c *complaints) Helper() {}
+
+func (c *complaints) Errorf(format string, args ...any) {
+	*c = append(*c, fmt.Sprintf(format, args...))
+}
+
+func TestTallyComplains(t *testing.T) {
+	seen := Tally{}
+	for i := range 5 {
+		seen.Note("all", true)
+		seen.Note("some", i > 2)
+		seen.Note("none", false)
+	}
+	var told complaints
+	seen.Expect(&told, 2, "all", "some")
+	if len(told) != 0 {
+		t.Errorf("%q", told)
+	}
+	seen.Expect(&told, 3, "all", "some", "none")
+	if len(told) != 2 || told[0] != "some came up 2 times only" || told[1] != "none came up 0 times only" {
+		t.Errorf("%q", told)
 	}
 }
