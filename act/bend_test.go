@@ -188,7 +188,7 @@ func TestOtherFieldsAreNotLookedAt(t *testing.T) {
 // 13.1: other kinds, and what is none.
 func TestNoCurves(t *testing.T) {
 	for _, k := range noCurves() {
-		for _, s := range append(noSpans(), between(0, 0), between(-1, 1), between(1, 2), between(-2, -1)) {
+		for _, s := range append(samples.NoSpans(), between(0, 0), between(-1, 1), between(1, 2), between(-2, -1)) {
 			expectNoBend(t, api.Layer{Kind: k}, s)
 			expectNoBend(t, api.Layer{Kind: k, KH: 1, KW: 1, SH: 1, SW: 1, A: 1}, s)
 		}
@@ -198,7 +198,7 @@ func TestNoCurves(t *testing.T) {
 // 13.1: spans that may not be, of each kind.
 func TestNoSpans(t *testing.T) {
 	for _, k := range curves() {
-		for _, s := range noSpans() {
+		for _, s := range samples.NoSpans() {
 			expectNoBend(t, api.Layer{Kind: k, A: 0.5}, s)
 		}
 	}
@@ -207,7 +207,7 @@ func TestNoSpans(t *testing.T) {
 // 13.1: A that is no number from 0 to 1, also where it would not be asked for.
 func TestNoSlopes(t *testing.T) {
 	for _, a := range noSlopes() {
-		for _, s := range append(noSpans(), between(-1, 1), between(-2, -1), between(1, 2), between(0, 0)) {
+		for _, s := range append(samples.NoSpans(), between(-1, 1), between(-2, -1), between(1, 2), between(0, 0)) {
 			expectNoBend(t, samples.Leaky(a), s)
 		}
 	}

@@ -33,7 +33,7 @@ func boxed(c, r []float64) api.Zono { return of(c, nil, nil, r) }
 func one(c, g float64) api.Zono { return of(numbers(c), ids(0), lists(numbers(g)), numbers(0)) }
 
 // between is a span as it is written.
-func between(lo, hi float64) api.Span { return api.Span{Lo: lo, Hi: hi} }
+func between(lo, hi float64) api.Span { return samples.Between(lo, hi) }
 
 // kind is a layer that has nothing but its kind.
 func kind(k int) api.Layer { return api.Layer{Kind: k} }
@@ -49,14 +49,10 @@ func text(what any) string {
 	return s[:min(len(s), 1000)]
 }
 
-func sameSpan(a, b api.Span) bool {
-	return oracle.Same(a.Lo, b.Lo) && oracle.Same(a.Hi, b.Hi) && a.Bad == b.Bad
-}
-
 func expectBend(t *testing.T, l api.Layer, s api.Span, slope float64, rest api.Span) {
 	t.Helper()
 	gotSlope, gotRest, ok := Bend(l, s)
-	if !ok || !oracle.Same(gotSlope, slope) || !sameSpan(gotRest, rest) {
+	if !ok || !oracle.Same(gotSlope, slope) || !samples.SameSpan(gotRest, rest) {
 		t.Errorf("Bend of %s over [%x, %x]: %x [%x, %x] %v %v, not %x [%x, %x]", text(l), s.Lo, s.Hi, gotSlope, gotRest.Lo, gotRest.Hi, gotRest.Bad, ok, slope, rest.Lo, rest.Hi)
 	}
 }
@@ -64,7 +60,7 @@ func expectBend(t *testing.T, l api.Layer, s api.Span, slope float64, rest api.S
 func expectNoBend(t *testing.T, l api.Layer, s api.Span) {
 	t.Helper()
 	slope, rest, ok := Bend(l, s)
-	if ok || !oracle.Same(slope, 0) || !sameSpan(rest, api.Span{}) {
+	if ok || !oracle.Same(slope, 0) || !samples.SameSpan(rest, api.Span{}) {
 		t.Errorf("Bend of %s over [%x, %x] %v: %x [%x, %x] %v %v, not noughts and false", text(l), s.Lo, s.Hi, s.Bad, slope, rest.Lo, rest.Hi, rest.Bad, ok)
 	}
 }
@@ -90,19 +86,6 @@ func bends() []int { return append(curves(), api.KMax) }
 // noCurves are kinds that Bend takes not: a KMax, the linear ones, and what is none.
 func noCurves() []int {
 	return []int{api.KMax, api.KDense, api.KConv, api.KScale, api.KMean, api.KAdd, api.KTurn, 0, 13, 14, -1, -api.KRelu, 256 + api.KRelu, math.MaxInt, math.MinInt}
-}
-
-// noSpans are spans that may not be, each in another way.
-func noSpans() []api.Span {
-	l := []api.Span{
-		{Bad: true}, {Lo: 1, Hi: 2, Bad: true}, {Lo: -2, Hi: -1, Bad: true}, {Lo: -1, Hi: 1, Bad: true}, {Lo: 2, Hi: 1, Bad: true},
-		between(2, 1), between(oracle.Least, 0), between(0, -oracle.Least), between(oracle.Max, -oracle.Max), between(1+0x1p-52, 1), between(1, -1), between(-1, -2),
-		between(math.Inf(-1), math.Inf(1)), between(math.Inf(1), math.Inf(-1)),
-	}
-	for _, a := range oracle.NoNumbers() {
-		l = append(l, between(a, 1), between(a, 0), between(-1, a), between(0, a), between(a, a))
-	}
-	return l
 }
 
 // noSlopes are what A of a KLeaky may not be.
@@ -210,9 +193,5 @@ func someSpan(m *oracle.Mixer) api.Span {
 		exponent := m.Below(12) - 4
 		number = func() float64 { return m.Number(exponent) }
 	}
-	a, b := number(), number()
-	if m.Below(8) == 0 {
-		b = a
-	}
-	return between(min(a, b), max(a, b))
+	return samples.MixedSpan(m, number)
 }

@@ -367,7 +367,7 @@ func TestAnyBendEnds(t *testing.T) {
 		s := api.Span{Lo: api.Float(m.Word()), Hi: api.Float(m.Word()), Bad: m.Below(9) == 0}
 		slope, rest, ok := Bend(l, s)
 		again, more, is := Bend(l, s)
-		if !oracle.Same(slope, again) || !sameSpan(rest, more) || ok != is || rest.Bad || !isNumber(slope) || !isNumber(rest.Lo) || !isNumber(rest.Hi) {
+		if !oracle.Same(slope, again) || !samples.SameSpan(rest, more) || ok != is || rest.Bad || !isNumber(slope) || !isNumber(rest.Lo) || !isNumber(rest.Hi) {
 			t.Fatalf("Bend of %s over %v: %v %v %v and %v %v %v", text(l), s, slope, rest, ok, again, more, is)
 		}
 		for _, a := range numbers(slope, rest.Lo, rest.Hi) {

@@ -133,7 +133,7 @@ func TestMaxWithSeveralGreatest(t *testing.T) {
 		places []int
 		want   int
 	}{{ids(0, 1, 2, 3, 4), 1}, {ids(2, 3, 4), 3}, {ids(3, 4), 3}, {ids(4), 4}, {ids(0, 2, 4), 4}, {ids(0), 0}, {ids(2), 2}, {ids(0, 1, 4), 1}} {
-		if h := greatest(s, c.places); h.place != c.want || h.slope != 1 || !sameSpan(h.rest, between(0, 0)) {
+		if h := greatest(s, c.places); h.place != c.want || h.slope != 1 || !samples.SameSpan(h.rest, between(0, 0)) {
 			t.Errorf("of %v: %+v, not %d", c.places, h, c.want)
 		}
 	}

@@ -257,7 +257,7 @@ func TestTwinOfBends(t *testing.T) {
 	for range 12000 {
 		l, s := anyLayer(&m), someSpan(&m)
 		if m.Below(30) == 0 {
-			s = noSpans()[m.Below(len(noSpans()))]
+			s = samples.NoSpans()[m.Below(len(samples.NoSpans()))]
 		}
 		slope, rest, ok := wantBend(l, s)
 		if !ok {

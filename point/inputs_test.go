@@ -10,7 +10,6 @@ import (
 	"testing"
 
 	"ambit/api"
-	"ambit/model"
 	"ambit/oracle"
 	"ambit/samples"
 )
@@ -223,31 +222,6 @@ func allowed() []int {
 
 func straight() []int {
 	return []int{api.KDense, api.KConv, api.KScale, api.KMean, api.KAdd, api.KTurn}
-}
-
-// someNet is a network of layers of some kinds, with at least so many of them and at most five more.
-func someNet(m *oracle.Mixer, kinds []int, least int) api.Net {
-	number := samples.MixedKind(m)
-	if m.Below(3) > 0 {
-		number = func() float64 { return m.Number(m.Below(6) - 3) }
-	}
-	n := api.Net{In: samples.Shape(1+m.Below(2), 1+m.Below(3), 1+m.Below(3))}
-	shapes := []api.Shape{n.In}
-	for len(n.Layers) < least || m.Below(3) > 0 && len(n.Layers) < least+5 {
-		ahead := shapes[len(shapes)-1]
-		l, ok := samples.LayerOf(m, kinds[m.Below(len(kinds))], ahead, number)
-		if !ok {
-			continue
-		}
-		if l.Kind == api.KAdd {
-			for l.From = m.Below(len(shapes)); shapes[l.From] != ahead; {
-				l.From++
-			}
-		}
-		out, _ := model.Out(l, ahead)
-		n.Layers, shapes = append(n.Layers, l), append(shapes, out)
-	}
-	return n
 }
 
 // width is how many coordinates a network's input has.

@@ -114,7 +114,7 @@ func TestEvalGoesLayerByLayer(t *testing.T) {
 	var m oracle.Mixer
 	seen := oracle.Tally{}
 	for range 1500 {
-		n := someNet(&m, []int{api.KDense, api.KConv, api.KScale, api.KMean, api.KTurn, api.KRelu, api.KLeaky, api.KSquare, api.KMax}, 1)
+		n := samples.NetOfKinds(&m, []int{api.KDense, api.KConv, api.KScale, api.KMean, api.KTurn, api.KRelu, api.KLeaky, api.KSquare, api.KMax}, 1)
 		x := farDyads(&m, width(n))
 		shapes, _, _ := model.Shapes(n)
 		last := len(n.Layers) - 1
@@ -153,7 +153,7 @@ func TestEvalIsLinear(t *testing.T) {
 	var m oracle.Mixer
 	seen := map[int]int{}
 	for range 800 {
-		n := someNet(&m, straight(), 1)
+		n := samples.NetOfKinds(&m, straight(), 1)
 		x, y := someDyads(&m, width(n)), someDyads(&m, width(n))
 		a, e, _ := Eval(n, x)
 		b, f, _ := Eval(n, y)

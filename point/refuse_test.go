@@ -6,44 +6,15 @@ import (
 	"testing"
 
 	"ambit/api"
-	"ambit/model"
 	"ambit/oracle"
 	"ambit/samples"
 )
 
-// refusedNets are networks that model refuses, each for another reason, with the error and the place.
-func refusedNets() []struct {
-	n  api.Net
-	e  api.Errno
-	at int
-} {
-	type row = struct {
-		n  api.Net
-		e  api.Errno
-		at int
-	}
-	one := samples.Line(1)
-	relu, nan := samples.Relu(), math.NaN()
-	heavy := samples.Filled(samples.Dense(256), samples.Line(256))
-	return []row{
-		{netOf(api.Shape{}), api.ErrShape, 0}, {netOf(samples.Shape(1, 1, 257)), api.ErrShape, 0}, {netOf(samples.Shape(-1, 1, -1), relu), api.ErrShape, 0},
-		{netOf(one, slices.Repeat([]api.Layer{relu}, 65)...), api.ErrSize, 0},
-		{netOf(one, relu, kind(0)), api.ErrKind, 2}, {netOf(one, kind(13)), api.ErrKind, 1},
-		{netOf(one, relu, relu, samples.Leaky(1.5)), api.ErrField, 3}, {netOf(one, api.Layer{Kind: api.KRelu, A: oracle.MinusZero()}), api.ErrField, 1},
-		{netOf(one, samples.Turn(1)), api.ErrShape, 1}, {netOf(one, dense(1, 2, 3)), api.ErrCount, 1}, {netOf(one, relu, dense(1, nan)), api.ErrNumber, 2}, {netOf(one, samples.Leaky(nan)), api.ErrNumber, 1},
-		{netOf(one, relu, samples.Add(2)), api.ErrFrom, 2}, {netOf(samples.Line(256), heavy, heavy), api.ErrSize, 1},
-		{samples.Named(netOf(one, relu), "a", "b"), api.ErrCount, 0}, {samples.Named(netOf(one, relu), ""), api.ErrName, 0}, {samples.Named(netOf(samples.Line(2)), "a", "a"), api.ErrName, 0},
-	}
-}
-
 // 14.6: what model refuses is told first, with its place, whatever the point is.
 func TestEvalRefusesNetworks(t *testing.T) {
-	for _, c := range refusedNets() {
-		if e, at := model.Check(c.n); e != c.e || at != c.at {
-			t.Fatalf("Check(%s): %v at %d", text(c.n), e, at)
-		}
+	for _, c := range samples.RefusedNets() {
 		for _, x := range [][]api.Dyad{nil, wholes(1), wholes(1, 2), nones()[:1], nones()} {
-			expectNoEval(t, c.n, x, c.e, c.at)
+			expectNoEval(t, c.Net, x, c.Err, c.At)
 		}
 	}
 	n := netOf(samples.Line(1), kind(api.KTanh), dense(0, math.NaN()))

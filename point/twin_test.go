@@ -106,7 +106,7 @@ func TestTwinOfEval(t *testing.T) {
 	var m oracle.Mixer
 	seen := oracle.Tally{}
 	for range 1500 {
-		n := someNet(&m, allowed(), 0)
+		n := samples.NetOfKinds(&m, allowed(), 0)
 		e := expectTwin(t, n, farDyads(&m, width(n)))
 		if t.Failed() {
 			return
@@ -134,7 +134,7 @@ func TestTwinOfAnyEval(t *testing.T) {
 	for range 4000 {
 		n := samples.AnyNet(&m)
 		if m.Below(2) == 0 {
-			n = someNet(&m, append(allowed(), api.KTanh, api.KSigmoid), 0)
+			n = samples.NetOfKinds(&m, append(allowed(), api.KTanh, api.KSigmoid), 0)
 		}
 		size, _ := model.Size(n.In)
 		if m.Below(10) == 0 {

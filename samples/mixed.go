@@ -112,6 +112,31 @@ func MixedNet(m *oracle.Mixer) api.Net {
 	return n
 }
 
+// NetOfKinds is a network of layers of some kinds, with at least so many of them and at most five more.
+func NetOfKinds(m *oracle.Mixer, kinds []int, least int) api.Net {
+	number := MixedKind(m)
+	if m.Below(3) > 0 {
+		number = func() float64 { return m.Number(m.Below(6) - 3) }
+	}
+	n := api.Net{In: Shape(1+m.Below(2), 1+m.Below(3), 1+m.Below(3))}
+	shapes := []api.Shape{n.In}
+	for len(n.Layers) < least || m.Below(3) > 0 && len(n.Layers) < least+5 {
+		ahead := shapes[len(shapes)-1]
+		l, ok := LayerOf(m, kinds[m.Below(len(kinds))], ahead, number)
+		if !ok {
+			continue
+		}
+		if l.Kind == api.KAdd {
+			for l.From = m.Below(len(shapes)); shapes[l.From] != ahead; {
+				l.From++
+			}
+		}
+		out, _ := model.Out(l, ahead)
+		n.Layers, shapes = append(n.Layers, l), append(shapes, out)
+	}
+	return n
+}
+
 // MixedProp is a question that may be.
 func MixedProp(m *oracle.Mixer) api.Prop {
 	width, out := 1+m.Below(4), 1+m.Below(4)

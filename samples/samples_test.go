@@ -6,6 +6,7 @@ import (
 	"ambit/api"
 	"ambit/model"
 	"ambit/oracle"
+	"ambit/span"
 	"ambit/zono"
 )
 
@@ -21,7 +22,7 @@ func TestAllMayBe(t *testing.T) {
 	var m oracle.Mixer
 	nets, props := append(Nets(), RoomyNet()), append(Props(), RoomyProp())
 	for range 2000 {
-		nets, props = append(nets, MixedNet(&m)), append(props, MixedProp(&m))
+		nets, props = append(nets, MixedNet(&m), NetOfKinds(&m, []int{1 + m.Below(12), api.KAdd, api.KRelu}, 1)), append(props, MixedProp(&m))
 	}
 	for _, n := range nets {
 		if e, at := model.Check(n); e != api.OK {
@@ -31,6 +32,14 @@ func TestAllMayBe(t *testing.T) {
 	for _, p := range props {
 		if e, at := model.CheckProp(p, len(p.C), outputs(p)); e != api.OK {
 			t.Errorf("%+v: %v at %d", p, e, at)
+		}
+	}
+}
+
+func TestRefusedNetsAreRefused(t *testing.T) {
+	for _, r := range RefusedNets() {
+		if e, at := model.Check(r.Net); e != r.Err || at != r.At {
+			t.Errorf("%v at %d, not %v at %d", e, at, r.Err, r.At)
 		}
 	}
 }
@@ -101,6 +110,35 @@ func TestRoomCounts(t *testing.T) {
 	}
 	if !SameNet(n, Chain()) || !SameProp(p, Question()) {
 		t.Error("the room behind a list is a part of it")
+	}
+}
+
+func TestSpansMayBe(t *testing.T) {
+	var m oracle.Mixer
+	for range 2000 {
+		if s := MixedSpan(&m, MixedKind(&m)); !span.Inside(s, s) {
+			t.Errorf("%v may not be", s)
+		}
+	}
+	for _, s := range NoSpans() {
+		if span.Inside(s, s) {
+			t.Errorf("%v may be", s)
+		}
+	}
+}
+
+func TestSameSpanTellsChanges(t *testing.T) {
+	minus := oracle.MinusZero()
+	all := []api.Span{Between(0, 0), Between(minus, 0), Between(0, minus), BadSpan(), Between(0, 1), Between(-1, 0)}
+	for i, a := range all {
+		for j, b := range all {
+			if SameSpan(a, b) != (i == j) || SameSpans([]api.Span{a, a}, []api.Span{a, b}) != (i == j) {
+				t.Errorf("%v and %v", a, b)
+			}
+		}
+	}
+	if !SameSpans(nil, []api.Span{}) || SameSpans(all, all[1:]) {
+		t.Error("lists of other lengths are alike, or empty ones are not")
 	}
 }
 

@@ -2,7 +2,6 @@ package zono
 
 import (
 	"fmt"
-	"slices"
 	"testing"
 
 	"ambit/api"
@@ -52,13 +51,9 @@ func expectCheck(t *testing.T, z api.Zono, want api.Errno) {
 	}
 }
 
-func sameSpan(a, b api.Span) bool {
-	return oracle.Same(a.Lo, b.Lo) && oracle.Same(a.Hi, b.Hi) && a.Bad == b.Bad
-}
-
 func expectSpans(t *testing.T, name string, got, want []api.Span) {
 	t.Helper()
-	if !slices.EqualFunc(got, want, sameSpan) {
+	if !samples.SameSpans(got, want) {
 		t.Errorf("%s: %v, not %v", name, got, want)
 	}
 }
