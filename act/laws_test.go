@@ -135,23 +135,6 @@ func laws(rounds int, law func(m *oracle.Mixer, z api.Zono, s sample, y api.Zono
 	return good
 }
 
-// someShare is a real from -1 to 1, often one of the ends.
-func someShare(m *oracle.Mixer) *big.Rat {
-	return big.NewRat([]int64{-7, -7, -2, 0, 1, 3, 7, 7}[m.Below(8)], 7)
-}
-
-// spread is C and the sum of the columns, at values of their Ids.
-func spread(z api.Zono, e map[int]*big.Rat) []*big.Rat {
-	all := make([]*big.Rat, z.N)
-	for i, c := range z.C {
-		all[i] = oracle.Exact(c)
-		for k, id := range z.Ids {
-			all[i] = plus(all[i], times(e[id], oracle.Exact(z.G[k][i])))
-		}
-	}
-	return all
-}
-
 // 13.4: with the same values for all Ids, what the layer tells exactly lies no farther than R' from where the answer's columns put it.
 func TestStepHoldsPoints(t *testing.T) {
 	t.Parallel()
@@ -163,13 +146,13 @@ func TestStepHoldsPoints(t *testing.T) {
 		for range points {
 			e := map[int]*big.Rat{}
 			for _, id := range z.Ids {
-				e[id] = someShare(m)
+				e[id] = m.Share()
 			}
-			x := spread(z, e)
+			x := oracle.Spread(z, e)
 			for j, r := range z.R {
-				x[j] = plus(x[j], times(someShare(m), oracle.Exact(r)))
+				x[j] = plus(x[j], times(m.Share(), oracle.Exact(r)))
 			}
-			put := spread(y, e)
+			put := oracle.Spread(y, e)
 			low, high := oracle.Bends(s.l, s.in, s.told(), x)
 			for i, r := range y.R {
 				if minus(put[i], low[i]).Cmp(oracle.Exact(r)) > 0 || minus(high[i], put[i]).Cmp(oracle.Exact(r)) > 0 {

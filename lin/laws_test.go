@@ -28,34 +28,18 @@ func laws(rounds int, law func(m *oracle.Mixer, z api.Zono, s sample, y api.Zono
 	return good
 }
 
-// someShare is a real from -1 to 1, often one of the ends.
-func someShare(m *oracle.Mixer) *big.Rat {
-	return big.NewRat([]int64{-7, -7, -2, 0, 1, 3, 7, 7}[m.Below(8)], 7)
-}
-
-// spread is C and the sum of the columns, at values of their Ids.
-func spread(z api.Zono, e map[int]*big.Rat) []*big.Rat {
-	all := exacts(z.C)
-	for k, id := range z.Ids {
-		for i, a := range z.G[k] {
-			all[i] = plus(all[i], times(e[id], oracle.Exact(a)))
-		}
-	}
-	return all
-}
-
 // 12.3: with the same values for all Ids, what the layer tells exactly lies no farther than R from where the answer's columns put it.
 func TestStepHoldsPoints(t *testing.T) {
 	good := laws(2500, func(m *oracle.Mixer, z api.Zono, s sample, y api.Zono) {
 		e := map[int]*big.Rat{}
 		for _, id := range z.Ids {
-			e[id] = someShare(m)
+			e[id] = m.Share()
 		}
-		x := spread(z, e)
+		x := oracle.Spread(z, e)
 		for j, r := range z.R {
-			x[j] = plus(x[j], times(someShare(m), oracle.Exact(r)))
+			x[j] = plus(x[j], times(m.Share(), oracle.Exact(r)))
 		}
-		put := spread(y, e)
+		put := oracle.Spread(y, e)
 		for i, v := range oracle.Tells(s.l, s.in, s.told(), x) {
 			if off := size(minus(v, put[i])); off.Cmp(oracle.Exact(y.R[i])) > 0 {
 				t.Fatalf("%s by %s to %s: at %v the coordinate %d is off by %v", text(z), text(s.l), text(y), e, i, off)

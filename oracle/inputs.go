@@ -2,6 +2,7 @@ package oracle
 
 import (
 	"math"
+	"math/big"
 
 	"ambit/api"
 )
@@ -74,4 +75,9 @@ func (m *Mixer) Number(exponent int) float64 {
 		return math.Copysign(Max, part)
 	}
 	return a
+}
+
+// Share is a real from -1 to 1, often one of the ends.
+func (m *Mixer) Share() *big.Rat {
+	return big.NewRat([]int64{-7, -7, -2, 0, 1, 3, 7, 7}[m.Below(8)], 7)
 }

@@ -19,6 +19,21 @@ func Coordinates(s api.Shape) [][3]int {
 	return all
 }
 
+// Told are bounds of what any layer tells of exact reals, by the table of DOC.md, Networks: of KTanh and KSigmoid two that are nearly the same, of all others the real itself twice. earlier is the output that a KAdd adds.
+func Told(l api.Layer, in, out api.Shape, v, earlier []*big.Rat) (low, high []*big.Rat) {
+	switch {
+	case l.Kind == api.KAdd:
+		for i, a := range v {
+			low = append(low, plus(a, earlier[i]))
+		}
+	case l.Kind < api.KRelu:
+		low = Tells(l, in, out, v)
+	default:
+		return Bends(l, in, out, v)
+	}
+	return low, low
+}
+
 // Tells is what a linear layer but KAdd tells of exact reals, by the table of DOC.md, Networks: coordinates are read and written by channel, row and column. The layer must be one that may be, and out the shape that it tells.
 func Tells(l api.Layer, in, out api.Shape, v []*big.Rat) []*big.Rat {
 	if l.Kind == api.KTurn {

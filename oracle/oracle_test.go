@@ -118,6 +118,53 @@ func TestBends(t *testing.T) {
 	}
 }
 
+// A layer of either sort, and a sum with an earlier output.
+func TestTold(t *testing.T) {
+	two := api.Shape{C: 1, H: 1, W: 2}
+	v, earlier := []*big.Rat{sum(-1.5), sum(2)}, []*big.Rat{sum(4), sum(-8)}
+	for i, c := range []struct {
+		l    api.Layer
+		want []*big.Rat
+	}{
+		{api.Layer{Kind: api.KAdd, From: 3}, []*big.Rat{sum(2.5), sum(-6)}},
+		{api.Layer{Kind: api.KScale, W: []float64{2}, B: []float64{1}}, []*big.Rat{sum(-2), sum(5)}},
+		{api.Layer{Kind: api.KSquare}, []*big.Rat{sum(2.25), sum(4)}},
+	} {
+		low, high := Told(c.l, two, two, v, earlier)
+		for k, w := range c.want {
+			if low[k].Cmp(w) != 0 || high[k].Cmp(w) != 0 {
+				t.Errorf("%d: %v %v, not %v", i, low, high, c.want)
+			}
+		}
+	}
+	if low, high := Told(api.Layer{Kind: api.KTanh}, two, two, v, nil); low[0].Cmp(high[0]) >= 0 || low[1].Cmp(high[1]) >= 0 {
+		t.Error("no bounds of tanh")
+	}
+}
+
+func TestSpread(t *testing.T) {
+	z := api.Zono{N: 2, C: []float64{1, 2}, Ids: []int{3, 5}, G: [][]float64{{4, 0}, {-1, 8}}, R: []float64{9, 9}}
+	got := Spread(z, map[int]*big.Rat{3: sum(0.5), 5: sum(-1), 7: sum(1)})
+	if len(got) != 2 || got[0].Cmp(sum(4)) != 0 || got[1].Cmp(sum(-6)) != 0 {
+		t.Errorf("%v", got)
+	}
+}
+
+func TestShares(t *testing.T) {
+	var m Mixer
+	seen := Tally{}
+	for range 200 {
+		v := m.Share()
+		seen.Note("an end", v.IsInt() && v.Sign() != 0)
+		seen.Note("between", new(big.Rat).Abs(v).Cmp(sum(1)) < 0)
+		seen.Note("outside", new(big.Rat).Abs(v).Cmp(sum(1)) > 0)
+	}
+	seen.Expect(t, 50, "an end", "between")
+	if seen["outside"] > 0 {
+		t.Error("some lie outside")
+	}
+}
+
 // Known bounds: at 0 they are the value itself, elsewhere they agree to many more places than are written here, and far off they are still some.
 func TestRealFunctions(t *testing.T) {
 	for i, c := range []struct {

@@ -8,7 +8,6 @@ import (
 	"ambit/api"
 	"ambit/model"
 	"ambit/oracle"
-	"ambit/rows"
 	"ambit/samples"
 )
 
@@ -33,18 +32,8 @@ func wantInput(p api.Prop, e []int, depth int) []api.Dyad {
 
 // toldBy is what layer m tells of the outputs ahead of it.
 func toldBy(n api.Net, shapes []api.Shape, m int, outputs [][]*big.Rat) []*big.Rat {
-	l, v := n.Layers[m-1], outputs[m-1]
-	switch {
-	case l.Kind == api.KAdd:
-		var all []*big.Rat
-		for i, a := range outputs[l.From] {
-			all = append(all, plus(v[i], a))
-		}
-		return all
-	case rows.Linear(l.Kind):
-		return oracle.Tells(l, shapes[m-1], shapes[m], v)
-	}
-	all, _ := oracle.Bends(l, shapes[m-1], shapes[m], v)
+	l := n.Layers[m-1]
+	all, _ := oracle.Told(l, shapes[m-1], shapes[m], outputs[m-1], outputs[l.From])
 	return all
 }
 

@@ -1,4 +1,4 @@
-// Package samples is networks, questions, spans and zonotopes for the tests of several layers, and what tells whether two of them are alike; no layer leans on it.
+// Package samples is networks, questions, regions, spans and zonotopes for the tests of several layers, and what tells whether two of them are alike; no layer leans on it.
 package samples
 
 import (

@@ -33,3 +33,47 @@ func RefusedNets() []Refused {
 		{Named(of(one, relu), "a", "b"), api.ErrCount, 0}, {Named(of(one, relu), ""), api.ErrName, 0}, {Named(of(Line(2)), "a", "a"), api.ErrName, 0},
 	}
 }
+
+// A RefusedProp is a question that model refuses, with the error.
+type RefusedProp struct {
+	Prop api.Prop
+	Err  api.Errno
+}
+
+// RefusedProps are such questions to a network of 3 input and 4 output coordinates, each for another reason.
+func RefusedProps() []RefusedProp {
+	var all []RefusedProp
+	refuse := func(e api.Errno, change func(p *api.Prop)) {
+		p := Question()
+		change(&p)
+		all = append(all, RefusedProp{p, e})
+	}
+	for _, n := range []int{0, 2, 4, 256} {
+		refuse(api.ErrCount, func(p *api.Prop) { p.C = Ones(n) })
+		refuse(api.ErrCount, func(p *api.Prop) { p.G[4] = Ones(n) })
+	}
+	for _, n := range []int{0, 4, 6} {
+		refuse(api.ErrCount, func(p *api.Prop) { p.Claims[2] = Ones(n) })
+	}
+	for _, a := range oracle.NoNumbers() {
+		refuse(api.ErrNumber, func(p *api.Prop) { p.C[2] = a })
+		refuse(api.ErrNumber, func(p *api.Prop) { p.G[0][1] = a })
+		refuse(api.ErrNumber, func(p *api.Prop) { p.Claims[0][4] = a })
+	}
+	refuse(api.ErrSize, func(p *api.Prop) { p.G = Columns(257, 3) })
+	refuse(api.ErrSize, func(p *api.Prop) { p.Claims = Columns(65, 5) })
+	for _, target := range []int{-2, 4, 256, math.MaxInt, math.MinInt} {
+		refuse(api.ErrTarget, func(p *api.Prop) { p.Target = target })
+	}
+	refuse(api.ErrTarget, func(p *api.Prop) { p.Target, p.Claims = -1, nil })
+	for _, n := range []int{-1, 1025, math.MaxInt, math.MinInt} {
+		refuse(api.ErrBudget, func(p *api.Prop) { p.K = n })
+		refuse(api.ErrBudget, func(p *api.Prop) { p.Depth = n })
+		refuse(api.ErrBudget, func(p *api.Prop) { p.Looks = n })
+	}
+	refuse(api.ErrBudget, func(p *api.Prop) { p.K = 0 })
+	refuse(api.ErrBudget, func(p *api.Prop) { p.K = 9 })
+	refuse(api.ErrBudget, func(p *api.Prop) { p.Depth = 9 })
+	refuse(api.ErrBudget, func(p *api.Prop) { p.Looks = 0 })
+	return all
+}

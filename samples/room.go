@@ -28,25 +28,28 @@ func RoomyLayer(l api.Layer) api.Layer {
 	return l
 }
 
-func RoomyNet() api.Net {
-	n := Chain()
+func RoomyNet() api.Net { return RoomyNetOf(Chain()) }
+
+// RoomyNetOf is a network with more behind the end of each of its lists.
+func RoomyNetOf(n api.Net) api.Net {
+	n.Layers, n.Names = Roomy(n.Layers, Relu()), Roomy(n.Names, "behind")
 	for i, l := range n.Layers {
 		n.Layers[i] = RoomyLayer(l)
 	}
-	n.Layers, n.Names = Roomy(n.Layers, Relu()), Roomy(n.Names, "behind")
 	return n
 }
 
-func RoomyProp() api.Prop {
-	p := Question()
-	p.C = Roomy(p.C, 7)
+func RoomyProp() api.Prop { return RoomyPropOf(Question()) }
+
+// RoomyPropOf is a question with more behind the end of each of its lists.
+func RoomyPropOf(p api.Prop) api.Prop {
+	p.C, p.G, p.Claims = Roomy(p.C, 7), Roomy(p.G, []float64{1}), Roomy(p.Claims, []float64{2})
 	for i, g := range p.G {
 		p.G[i] = Roomy(g, 8)
 	}
 	for i, c := range p.Claims {
 		p.Claims[i] = Roomy(c, 9)
 	}
-	p.G, p.Claims = Roomy(p.G, []float64{1}), Roomy(p.Claims, []float64{2})
 	return p
 }
 

@@ -36,6 +36,94 @@ func TestAllMayBe(t *testing.T) {
 	}
 }
 
+func TestQuestionsToNetworksMayBe(t *testing.T) {
+	var m oracle.Mixer
+	expect := func(n api.Net, p api.Prop) {
+		t.Helper()
+		in, out := Widths(n)
+		if e, at := model.CheckProp(p, in, out); e != api.OK {
+			t.Errorf("%+v to %+v: %v at %d", p, n, e, at)
+		}
+	}
+	for _, n := range Nets() {
+		for k := range 4 {
+			expect(n, QuestionTo(n, k))
+		}
+		for range 50 {
+			expect(n, MixedPropTo(&m, n))
+		}
+	}
+	if p := QuestionTo(Chain(), 4); len(p.G) != 4 {
+		t.Errorf("%d columns", len(p.G))
+	}
+}
+
+func TestRefusedPropsAreRefused(t *testing.T) {
+	for _, r := range RefusedProps() {
+		if e, _ := model.CheckProp(r.Prop, 3, 4); e != r.Err {
+			t.Errorf("%+v: %v, not %v", r.Prop, e, r.Err)
+		}
+	}
+}
+
+// isRegion tells whether r is a region of k symbols, by the words of chapter 16.
+func isRegion(r api.Region, k int) bool {
+	if len(r.Level) != k || len(r.At) != k {
+		return false
+	}
+	for s, level := range r.Level {
+		if level < 0 || level > 8 || r.At[s] < 0 || r.At[s] > 1<<level-1 {
+			return false
+		}
+	}
+	return true
+}
+
+func TestRegions(t *testing.T) {
+	var m oracle.Mixer
+	ends := oracle.Tally{}
+	for k := range 5 {
+		if !isRegion(Cube(k), k) {
+			t.Errorf("no cube of %d", k)
+		}
+		for _, r := range NoRegions(k) {
+			if isRegion(r, k) {
+				t.Errorf("%+v is a region of %d", r, k)
+			}
+		}
+		for range 500 {
+			r := MixedRegion(&m, k)
+			if !isRegion(r, k) {
+				t.Errorf("%+v is no region of %d", r, k)
+			}
+			for s, level := range r.Level {
+				ends.Note("the first of many", level == 8 && r.At[s] == 0)
+				ends.Note("the last of many", level == 8 && r.At[s] == 255)
+				ends.Note("all", level == 0)
+			}
+			is := isRegion(AnyRegion(&m, k), k)
+			ends.Note("any", is)
+			ends.Note("none", !is)
+		}
+	}
+	ends.Expect(t, 100, "the first of many", "the last of many", "all", "any", "none")
+}
+
+func TestSameRegionTellsChanges(t *testing.T) {
+	a := api.Region{Level: []int{1, 2}, At: []int{0, 3}}
+	for _, b := range []api.Region{{Level: a.Level}, {At: a.At}, {Level: []int{1, 3}, At: a.At}, {Level: a.Level, At: []int{1, 3}}} {
+		if SameRegion(a, b) {
+			t.Errorf("%+v and %+v", a, b)
+		}
+	}
+	r := RoomyRegion(a)
+	before := WholeRegion(r)
+	Whole(r.At)[2] = 1
+	if SameRegion(WholeRegion(r), before) || !SameRegion(r, a) || !SameRegion(api.Region{At: []int{}}, api.Region{}) {
+		t.Error("the room behind a list is not told, or a part of it")
+	}
+}
+
 func TestRefusedNetsAreRefused(t *testing.T) {
 	for _, r := range RefusedNets() {
 		if e, at := model.Check(r.Net); e != r.Err || at != r.At {

@@ -28,20 +28,15 @@ func laws(rounds int, law func(m *oracle.Mixer, z, y api.Zono)) int {
 	return good
 }
 
-// someShare is a real from -1 to 1, often one of the ends.
-func someShare(m *oracle.Mixer) *big.Rat {
-	return big.NewRat([]int64{-7, -7, -2, 0, 1, 3, 7, 7}[m.Below(8)], 7)
-}
-
 // 11.4: with the same values for the columns that stay, each point lies no farther than R from where these put it.
 func TestReducedHoldsPoints(t *testing.T) {
 	good := laws(3000, func(m *oracle.Mixer, z, y api.Zono) {
 		e := map[int]*big.Rat{}
 		for _, id := range z.Ids {
-			e[id] = someShare(m)
+			e[id] = m.Share()
 		}
 		for i := range z.N {
-			x := plus(oracle.Exact(z.C[i]), times(someShare(m), oracle.Exact(z.R[i])))
+			x := plus(oracle.Exact(z.C[i]), times(m.Share(), oracle.Exact(z.R[i])))
 			for k, id := range z.Ids {
 				x = plus(x, times(e[id], oracle.Exact(z.G[k][i])))
 			}

@@ -34,19 +34,9 @@ func someReals(m *oracle.Mixer, v []api.Span) []*big.Rat {
 	return all
 }
 
-// exactly are bounds of what a layer tells of exact reals, by the table of DOC.md, Networks: but for KTanh and KSigmoid the real itself twice.
+// exactly are bounds of what a layer tells of exact reals.
 func exactly(l api.Layer, in api.Shape, x, earlier []*big.Rat) (low, high []*big.Rat) {
-	switch {
-	case l.Kind == api.KAdd:
-		for i, a := range x {
-			low = append(low, plus(a, earlier[i]))
-		}
-	case l.Kind < api.KRelu:
-		low = oracle.Tells(l, in, behind(l, in), x)
-	default:
-		return oracle.Bends(l, in, behind(l, in), x)
-	}
-	return low, low
+	return oracle.Told(l, in, behind(l, in), x, earlier)
 }
 
 // expectHeld holds spans that are not bad to holding all from low to high.

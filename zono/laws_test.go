@@ -12,16 +12,11 @@ import (
 	"ambit/samples"
 )
 
-// someShare is a real from -1 to 1, often one of the ends.
-func someShare(m *oracle.Mixer) *big.Rat {
-	return big.NewRat([]int64{-7, -7, -2, 0, 1, 3, 7, 7}[m.Below(8)], 7)
-}
-
 // someBox is a real from -R[i] to R[i] for each coordinate.
 func someBox(m *oracle.Mixer, z api.Zono) []*big.Rat {
 	var l []*big.Rat
 	for _, r := range z.R {
-		l = append(l, times(someShare(m), exact(r)))
+		l = append(l, times(m.Share(), exact(r)))
 	}
 	return l
 }
@@ -31,28 +26,15 @@ func someValues(m *oracle.Mixer, all ...api.Zono) map[int]*big.Rat {
 	e := map[int]*big.Rat{}
 	for _, z := range all {
 		for _, id := range z.Ids {
-			e[id] = someShare(m)
+			e[id] = m.Share()
 		}
 	}
 	return e
 }
 
-// spread is C and the sum of the columns, at values of their Ids.
-func spread(z api.Zono, e map[int]*big.Rat) []*big.Rat {
-	var l []*big.Rat
-	for i, c := range z.C {
-		v := exact(c)
-		for k, g := range z.G {
-			v = plus(v, times(e[z.Ids[k]], exact(g[i])))
-		}
-		l = append(l, v)
-	}
-	return l
-}
-
 // pointOf is the point that z holds at values of its Ids and something of its box.
 func pointOf(z api.Zono, e map[int]*big.Rat, r []*big.Rat) []*big.Rat {
-	l := spread(z, e)
+	l := oracle.Spread(z, e)
 	for i := range l {
 		l[i] = plus(l[i], r[i])
 	}
@@ -117,7 +99,7 @@ func TestLiftTurnsNoSet(t *testing.T) {
 		if next != behind {
 			t.Errorf("Lift of %s goes on from %d, not from %d on", text(z), behind, next)
 		}
-		if got := spread(y, e); !slices.EqualFunc(got, want, func(a, b *big.Rat) bool { return a.Cmp(b) == 0 }) {
+		if got := oracle.Spread(y, e); !slices.EqualFunc(got, want, func(a, b *big.Rat) bool { return a.Cmp(b) == 0 }) {
 			t.Errorf("Lift of %s at %v and %v: %v, not %v", text(z), e, r, got, want)
 		}
 	})
@@ -181,7 +163,7 @@ func TestPlusHolds(t *testing.T) {
 		sums++
 		e := someValues(&m, a, b)
 		x, y := pointOf(a, e, someBox(&m, a)), pointOf(b, e, someBox(&m, b))
-		for i, v := range spread(z, e) {
+		for i, v := range oracle.Spread(z, e) {
 			if off := size(minus(plus(x[i], y[i]), v)); off.Cmp(exact(z.R[i])) > 0 {
 				t.Fatalf("Plus of %s and %s is %s: at %v the coordinate %d is off by %v", text(a), text(b), text(z), e, i, off)
 			}
