@@ -172,7 +172,7 @@ func wantError(c call) api.Errno {
 
 // anyCall is one with anything in it, though it is often one that may be.
 func anyCall(m *oracle.Mixer) call {
-	c := someCall(m, everyKind(), 0)
+	c := someCall(m, samples.EveryKind(), 0)
 	switch m.Below(4) {
 	case 0:
 		c.n = samples.AnyNet(m)

@@ -7,46 +7,9 @@ import (
 	"testing"
 
 	"ambit/api"
-	"ambit/model"
 	"ambit/oracle"
 	"ambit/samples"
 )
-
-// pointAt is the exact point x(e) of a question, at shares of the region: of each symbol how far e lies from the middle, in h.
-func pointAt(c call, shares []*big.Rat) []*big.Rat {
-	m, h := middles(c.r)
-	var x []*big.Rat
-	for i, a := range c.p.C {
-		v := oracle.Exact(a)
-		for s, g := range c.p.G {
-			v = plus(v, times(plus(m[s], times(shares[s], h[s])), oracle.Exact(g[i])))
-		}
-		x = append(x, v)
-	}
-	return x
-}
-
-// snapped is a real in parts of 2^-5000: what KTanh and KSigmoid tell is no fraction, and bounds of it are so long that their sums would not end.
-func snapped(v *big.Rat) *big.Rat {
-	v = times(v, oracle.Power(5000))
-	return times(new(big.Rat).SetInt(new(big.Int).Div(v.Num(), v.Denom())), oracle.Power(-5000))
-}
-
-// outputsAt are a network's exact outputs at a point, the input ahead; of KTanh and KSigmoid they are as good as exact.
-func outputsAt(n api.Net, x []*big.Rat) [][]*big.Rat {
-	shapes, _, _ := model.Shapes(n)
-	outputs := [][]*big.Rat{x}
-	for k, l := range n.Layers {
-		y, _ := oracle.Told(l, shapes[k], shapes[k+1], outputs[k], outputs[l.From])
-		if rises(l) {
-			for i, v := range y {
-				y[i] = snapped(v)
-			}
-		}
-		outputs = append(outputs, y)
-	}
-	return outputs
-}
 
 // alone is the one coordinate at which a column is not 0; -1, if there is none, or more than one.
 func alone(g []float64) int {
@@ -95,7 +58,7 @@ func hit(z api.Zono, values map[int]*big.Rat, y []*big.Rat) bool {
 // expectHeld holds a trace, as far as it is not bad, to one value for each Id, so that each zonotope is just the exact output at a point of the region. It tells how many layers that were.
 func expectHeld(t *testing.T, c call, x api.Trace, shares []*big.Rat) int {
 	t.Helper()
-	outputs := outputsAt(c.n, pointAt(c, shares))
+	outputs := samples.OutputsAt(c.n, samples.PointAt(c.p, c.r, shares))
 	values := map[int]*big.Rat{}
 	for s, v := range shares {
 		values[s] = v
@@ -135,10 +98,10 @@ func TestTracesHold(t *testing.T) {
 	var m oracle.Mixer
 	seen := oracle.Tally{}
 	for range 700 {
-		c := few(someCall(&m, everyKind(), 1), 4)
+		c := few(someCall(&m, samples.EveryKind(), 1), 4)
 		x := c.trace(t)
 		points := 2
-		if slices.ContainsFunc(c.n.Layers, rises) {
+		if slices.ContainsFunc(c.n.Layers, samples.Rises) {
 			points = 1
 		}
 		for range points {
@@ -156,7 +119,7 @@ func TestTracesHold(t *testing.T) {
 	}
 	seen.Expect(t, 5, "a sum with the input", "a sum with a layer")
 	seen.Expect(t, 20, "all of several layers", "up to a bad one", "something was lost", "halved")
-	for _, k := range everyKind() {
+	for _, k := range samples.EveryKind() {
 		seen.Expect(t, 20, fmt.Sprintf("kind %d", k))
 	}
 }
@@ -212,9 +175,9 @@ func TestTracesGoAsFar(t *testing.T) {
 	var m oracle.Mixer
 	seen := oracle.Tally{}
 	for range 600 {
-		c := someCall(&m, exactKinds(), 1)
+		c := someCall(&m, samples.ExactKinds(), 1)
 		x := c.trace(t)
-		outputs := outputsAt(c.n, pointAt(c, someShares(&m, len(c.p.G))))
+		outputs := samples.OutputsAt(c.n, samples.PointAt(c.p, c.r, someShares(&m, len(c.p.G))))
 		for k, z := range x.Z {
 			if z.Bad {
 				break
@@ -250,7 +213,7 @@ func TestHalvesAndTheWholeHold(t *testing.T) {
 	var m oracle.Mixer
 	seen := oracle.Tally{}
 	for range 500 {
-		c := few(someCall(&m, exactKinds(), 1), 3)
+		c := few(someCall(&m, samples.ExactKinds(), 1), 3)
 		if len(c.p.G) == 0 {
 			continue
 		}
@@ -287,7 +250,7 @@ func TestPointsAreHeld(t *testing.T) {
 	var m oracle.Mixer
 	seen := oracle.Tally{}
 	for range 400 {
-		c := few(someCall(&m, everyKind(), 1), 4)
+		c := few(someCall(&m, samples.EveryKind(), 1), 4)
 		c.p.G, c.r = nil, region()
 		x := c.trace(t)
 		seen.Note("held", expectHeld(t, c, x, nil) == len(c.n.Layers))

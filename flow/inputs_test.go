@@ -60,13 +60,7 @@ func netOf(width int, layers ...api.Layer) api.Net {
 }
 
 // region is one of levels and places, one behind the other.
-func region(pairs ...int) api.Region {
-	var r api.Region
-	for i := 0; i < len(pairs); i += 2 {
-		r.Level, r.At = append(r.Level, pairs[i]), append(r.At, pairs[i+1])
-	}
-	return r
-}
+func region(pairs ...int) api.Region { return samples.Region(pairs...) }
 
 // asked is a question with these numbers to a network.
 func asked(n api.Net, k int, c []float64, g ...[]float64) api.Prop {
@@ -153,29 +147,8 @@ func (c call) trace(t *testing.T) api.Trace {
 	return x
 }
 
-// everyKind are all kinds there are.
-func everyKind() []int {
-	return []int{api.KDense, api.KConv, api.KScale, api.KMean, api.KAdd, api.KTurn, api.KRelu, api.KLeaky, api.KTanh, api.KSigmoid, api.KSquare, api.KMax}
-}
-
-// exactKinds are those that tell fractions of fractions.
-func exactKinds() []int {
-	return slices.DeleteFunc(everyKind(), func(k int) bool { return rises(kind(k)) })
-}
-
-// rises tells whether what a layer tells is no fraction.
-func rises(l api.Layer) bool { return l.Kind == api.KTanh || l.Kind == api.KSigmoid }
-
-// someCall is one with a network of some kinds, at least so many layers of them, that may be; every eighth time a coordinate goes to the greatest number, or past it.
+// someCall is one that may be, with a network of some kinds, at least so many layers of them.
 func someCall(m *oracle.Mixer, kinds []int, least int) call {
-	n := samples.NetOfKinds(m, kinds, least)
-	p := samples.MixedPropTo(m, n)
-	if m.Below(8) == 0 {
-		i := m.Below(len(p.C))
-		p.C[i] = []float64{oracle.Max, -oracle.Max, 0x1p1023, 0x1.8p1022}[m.Below(4)]
-		for _, g := range p.G {
-			g[i] = m.Number(1020)
-		}
-	}
-	return call{n, p, samples.MixedRegion(m, len(p.G))}
+	n, p, r := samples.AskedOfKinds(m, kinds, least)
+	return call{n, p, r}
 }

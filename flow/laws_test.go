@@ -20,7 +20,7 @@ func TestTracesAreBounded(t *testing.T) {
 	var m oracle.Mixer
 	seen := oracle.Tally{}
 	for range 1500 {
-		c := someCall(&m, everyKind(), 1)
+		c := someCall(&m, samples.EveryKind(), 1)
 		if m.Below(2) == 0 {
 			c.p.K = 1 + m.Below(2)
 		}
@@ -54,7 +54,7 @@ func TestNoIdComesTwice(t *testing.T) {
 	var m oracle.Mixer
 	seen := oracle.Tally{}
 	for range 1500 {
-		c := someCall(&m, everyKind(), 1)
+		c := someCall(&m, samples.EveryKind(), 1)
 		if m.Below(2) == 0 {
 			c.p.K = 1 + m.Below(2)
 		}
@@ -88,7 +88,7 @@ func TestEveryCrewTellsTheSame(t *testing.T) {
 	t.Parallel()
 	var m oracle.Mixer
 	for range 150 {
-		c := someCall(&m, everyKind(), 1)
+		c := someCall(&m, samples.EveryKind(), 1)
 		want, _ := Push(c.n, c.p, c.r, 1)
 		for workers := 1; workers <= api.MaxWorkers; workers++ {
 			if got, e := Push(c.n, c.p, c.r, workers); e != api.OK || !sameTrace(got, want) {
@@ -143,7 +143,7 @@ func TestSignsOfNoughtsTurnNothing(t *testing.T) {
 	}
 	noughts := 0
 	for range 800 {
-		c := someCall(&m, everyKind(), 0)
+		c := someCall(&m, samples.EveryKind(), 0)
 		p, n := c.p, c.n
 		p.C, p.G, n.Layers = flip(p.C), slices.Clone(p.G), slices.Clone(n.Layers)
 		for s, g := range p.G {

@@ -18,7 +18,7 @@ const (
 func TestStartOfTheWholeCube(t *testing.T) {
 	var m oracle.Mixer
 	for range 300 {
-		c := someCall(&m, everyKind(), 0)
+		c := someCall(&m, samples.EveryKind(), 0)
 		c.r = samples.Cube(len(c.p.G))
 		c.expectStart(t, zono.New(c.p.C, c.p.G))
 	}

@@ -28,19 +28,9 @@ func size(a *big.Rat) *big.Rat { return new(big.Rat).Abs(a) }
 // rounded is the number of a real that has one.
 func rounded(d api.Dir, v *big.Rat) float64 { return oracle.Roundings(v).Number[d] }
 
-// middles are m_s and h_s of all symbols.
-func middles(r api.Region) (m, h []*big.Rat) {
-	for s, level := range r.Level {
-		part := oracle.Power(-level)
-		h = append(h, part)
-		m = append(m, minus(times(big.NewRat(int64(2*r.At[s]+1), 1), part), big.NewRat(1, 1)))
-	}
-	return m, h
-}
-
 // wantStart is what Start tells of a call that may be.
 func wantStart(c call) api.Zono {
-	m, h := middles(c.r)
+	m, h := samples.Middles(c.r)
 	z := plain(make([]float64, len(c.p.C)))
 	for s := range c.p.G {
 		z.Ids, z.G = append(z.Ids, s), append(z.G, make([]float64, z.N))
@@ -78,7 +68,7 @@ func TestTwinOfStarts(t *testing.T) {
 	var m oracle.Mixer
 	seen := oracle.Tally{}
 	for range 2500 {
-		c := someCall(&m, everyKind(), 0)
+		c := someCall(&m, samples.EveryKind(), 0)
 		want := wantStart(c)
 		c.expectStart(t, want)
 		if t.Failed() {
@@ -151,7 +141,7 @@ func TestTwinOfPushes(t *testing.T) {
 	var m oracle.Mixer
 	seen := oracle.Tally{}
 	for range 2500 {
-		c := someCall(&m, everyKind(), 0)
+		c := someCall(&m, samples.EveryKind(), 0)
 		workers := 1 + m.Below(api.MaxWorkers)
 		want := wantPush(c, 1)
 		if got, e := Push(c.n, c.p, c.r, workers); e != api.OK || !sameTrace(got, want) {
@@ -172,7 +162,7 @@ func TestTwinOfPushes(t *testing.T) {
 		}
 	}
 	seen.Expect(t, 10, "no layers", "bad input", "bad behind the first", "bad in the middle", "bad behind the last", "a sum with the input", "a sum with a layer", "trimmed")
-	for _, k := range everyKind() {
+	for _, k := range samples.EveryKind() {
 		seen.Expect(t, 50, fmt.Sprintf("kind %d", k))
 	}
 }

@@ -226,3 +226,39 @@ func TestTallyComplains(t *testing.T) {
 		t.Errorf("%q", told)
 	}
 }
+
+// Known exact numbers, both ways, and the ends of those that are small enough.
+func TestForms(t *testing.T) {
+	for i, c := range []struct {
+		v    *big.Rat
+		want api.Dyad
+	}{
+		{sum(), api.Dyad{}},
+		{sum(1), api.Dyad{M: []byte{1}}},
+		{sum(-6), api.Dyad{Neg: true, M: []byte{3}, E: 1}},
+		{sum(0.375), api.Dyad{M: []byte{3}, E: -3}},
+		{sum(257, 0x1p-4), api.Dyad{M: []byte{0x10, 0x11}, E: -4}},
+		{Power(-2000), api.Dyad{M: []byte{1}, E: -2000}},
+	} {
+		got, ok := Form(c.v)
+		if !ok || !SameDyad(got, c.want) || Value(c.want).Cmp(c.v) != 0 {
+			t.Errorf("%d: %v %v and %v, not %v and %v", i, got, ok, Value(c.want), c.want, c.v)
+		}
+	}
+	for n, is := range map[int]bool{65536: true, 65537: false, -65536: true, -65537: false} {
+		if _, ok := Form(Power(n)); ok != is {
+			t.Errorf("2^%d: %v", n, ok)
+		}
+	}
+	for n, is := range map[int]bool{65536: true, 65537: false} {
+		if _, ok := Form(minus(Power(n), whole(1))); ok != is {
+			t.Errorf("%d bits: %v", n, ok)
+		}
+	}
+	one := api.Dyad{M: []byte{1}}
+	for _, x := range []api.Dyad{{}, {M: []byte{3}}, {Neg: true, M: []byte{1}}, {M: []byte{1}, E: 1}} {
+		if SameDyad(x, one) {
+			t.Errorf("%v is taken for 1", x)
+		}
+	}
+}

@@ -145,6 +145,6 @@ func TestMakeIsTheValue(t *testing.T) {
 		}
 		b = append(b, noughts(m.Below(4))...)
 		neg, e := m.Below(2) == 0, m.Below(400)-200
-		expectMake(t, neg, b, e, formed(value(api.Dyad{Neg: neg, M: b, E: e})), api.OK)
+		expectMake(t, neg, b, e, formed(oracle.Value(api.Dyad{Neg: neg, M: b, E: e})), api.OK)
 	}
 }

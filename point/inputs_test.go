@@ -2,7 +2,6 @@ package point
 
 import (
 	"bytes"
-	"encoding/hex"
 	"fmt"
 	"math"
 	"math/big"
@@ -58,46 +57,17 @@ func raised(x api.Dyad, e int) api.Dyad {
 	return x
 }
 
-// value is what an exact number stands for.
-func value(x api.Dyad) *big.Rat {
-	whole, _ := new(big.Int).SetString("0"+hex.EncodeToString(x.M), 16)
-	if x.Neg {
-		whole.Neg(whole)
-	}
-	return new(big.Rat).Mul(new(big.Rat).SetInt(whole), oracle.Power(x.E))
-}
-
 func values(l []api.Dyad) []*big.Rat {
 	var all []*big.Rat
 	for _, x := range l {
-		all = append(all, value(x))
+		all = append(all, oracle.Value(x))
 	}
 	return all
 }
 
-// form is a real's one form, and whether that is small enough. The real must be a whole number times a power of 2.
-func form(v *big.Rat) (api.Dyad, bool) {
-	if v.Sign() == 0 {
-		return api.Dyad{}, true
-	}
-	// One of the two is odd, as a fraction is told in its lowest terms.
-	whole, e := new(big.Int).Abs(v.Num()), 1-v.Denom().BitLen()
-	twos := 0
-	for whole.Bit(twos) == 0 {
-		twos++
-	}
-	text := whole.Rsh(whole, uint(twos)).Text(16)
-	if len(text)%2 == 1 {
-		text = "0" + text
-	}
-	m, _ := hex.DecodeString(text)
-	x := api.Dyad{Neg: v.Sign() < 0, M: m, E: e + twos}
-	return x, whole.BitLen() <= 65536 && x.E >= -65536 && x.E <= 65536
-}
-
 // formed is the form of a real that is small enough.
 func formed(v *big.Rat) api.Dyad {
-	x, ok := form(v)
+	x, ok := oracle.Form(v)
 	if !ok {
 		panic("too long")
 	}
@@ -115,7 +85,7 @@ func exacts(l ...float64) []api.Dyad {
 	return all
 }
 
-func same(a, b api.Dyad) bool { return a.Neg == b.Neg && a.E == b.E && bytes.Equal(a.M, b.M) }
+func same(a, b api.Dyad) bool { return oracle.SameDyad(a, b) }
 
 func sameAll(a, b []api.Dyad) bool { return slices.EqualFunc(a, b, same) }
 
@@ -213,15 +183,6 @@ func kind(k int) api.Layer { return api.Layer{Kind: k} }
 // dense is a layer of one row.
 func dense(b float64, w ...float64) api.Layer {
 	return api.Layer{Kind: api.KDense, Out: 1, W: w, B: numbers(b)}
-}
-
-// allowed are the kinds that Eval takes, straight those of them that are linear.
-func allowed() []int {
-	return append(straight(), api.KRelu, api.KLeaky, api.KSquare, api.KMax)
-}
-
-func straight() []int {
-	return []int{api.KDense, api.KConv, api.KScale, api.KMean, api.KAdd, api.KTurn}
 }
 
 // width is how many coordinates a network's input has.

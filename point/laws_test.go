@@ -153,7 +153,7 @@ func TestEvalIsLinear(t *testing.T) {
 	var m oracle.Mixer
 	seen := map[int]int{}
 	for range 800 {
-		n := samples.NetOfKinds(&m, straight(), 1)
+		n := samples.NetOfKinds(&m, samples.LinearKinds(), 1)
 		x, y := someDyads(&m, width(n)), someDyads(&m, width(n))
 		a, e, _ := Eval(n, x)
 		b, f, _ := Eval(n, y)
@@ -165,7 +165,7 @@ func TestEvalIsLinear(t *testing.T) {
 			seen[l.Kind]++
 		}
 	}
-	for _, k := range straight() {
+	for _, k := range samples.LinearKinds() {
 		if seen[k] < 100 {
 			t.Errorf("the kind %d came up %d times only", k, seen[k])
 		}

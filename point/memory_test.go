@@ -192,13 +192,15 @@ func TestClaimsStay(t *testing.T) {
 // expectApart holds the lists of one answer to sharing nothing.
 func expectApart(t *testing.T, name string, y []api.Dyad) {
 	t.Helper()
+	var all [][]byte
 	for i, x := range y {
-		samples.Scribble(x.M, byte(i))
-	}
-	for i, x := range y {
-		if len(x.M) == 0 || slices.ContainsFunc(samples.Whole(x.M), func(b byte) bool { return b != byte(i) }) {
-			t.Errorf("%s: the number %d of %d shares memory, or has none", name, i, len(y))
+		if len(x.M) == 0 {
+			t.Errorf("%s: the number %d of %d has no memory", name, i, len(y))
 		}
+		all = append(all, x.M)
+	}
+	if i := samples.Sharing(all, func(i int) byte { return byte(i) }); i >= 0 {
+		t.Errorf("%s: the number %d of %d shares memory", name, i, len(y))
 	}
 }
 

@@ -23,7 +23,7 @@ func TestInputAtTheEnds(t *testing.T) {
 	expectInput(t, p, []int{-1 << 62, 1 << 62}, 62, exacts(0, 3.5), api.OK)
 	expectInput(t, p, []int{1 << 61, 0}, 62, exacts(1.5, 1.5), api.OK)
 	expectInput(t, asked(numbers(0), numbers(oracle.Least)), []int{1}, 62, dyads(dyad(1, -1136)), api.OK)
-	expectInput(t, asked(numbers(0), numbers(-oracle.Max)), []int{1<<62 - 1}, 62, dyads(formed(times(oracle.Exact(-oracle.Max), value(raised(ones(62), -62))))), api.OK)
+	expectInput(t, asked(numbers(0), numbers(-oracle.Max)), []int{1<<62 - 1}, 62, dyads(formed(times(oracle.Exact(-oracle.Max), oracle.Value(raised(ones(62), -62))))), api.OK)
 	expectInput(t, asked(numbers(oracle.Max), numbers(oracle.Max), numbers(oracle.Least)), []int{1 << 5, -1}, 5, wantInput(asked(numbers(oracle.Max), numbers(oracle.Max), numbers(oracle.Least)), []int{32, -1}, 5), api.OK)
 	expectInput(t, asked(numbers(oracle.MinusZero(), 0), numbers(0, oracle.MinusZero())), []int{-1}, 0, dyads(api.Dyad{}, api.Dyad{}), api.OK)
 	expectInput(t, asked(numbers(1, -1), numbers(-1, 1)), []int{4}, 2, dyads(api.Dyad{}, api.Dyad{}), api.OK)
@@ -231,7 +231,7 @@ func TestEvalOfTheWidest(t *testing.T) {
 	}
 	x := make([]api.Dyad, 256)
 	x[0], x[100], x[255] = ends(60000), dyad(-1, 0), dyad(1, 7)
-	sum := plus(value(x[0]), plus(value(x[100]), value(x[255])))
+	sum := plus(oracle.Value(x[0]), plus(oracle.Value(x[100]), oracle.Value(x[255])))
 	expectEval(t, n, x, slices.Repeat([]api.Dyad{formed(times(sum, oracle.Power(63)))}, 255))
 	n.Layers = append(n.Layers, samples.Relu())
 	expectNoEval(t, n, x, api.ErrSize, 0)

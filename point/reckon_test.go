@@ -20,7 +20,7 @@ func errnoOf(ok bool) api.Errno {
 // expectExact holds an operation to the exact real.
 func (o operation) expectExact(t *testing.T, x, y api.Dyad) bool {
 	t.Helper()
-	want, ok := form(o.exact(new(big.Rat), value(x), value(y)))
+	want, ok := oracle.Form(o.exact(new(big.Rat), oracle.Value(x), oracle.Value(y)))
 	o.expect(t, x, y, want, errnoOf(ok))
 	return ok
 }
@@ -116,7 +116,7 @@ func TestProductsAtTheLimits(t *testing.T) {
 		{dyad(1, -65536), dyad(1, -65536), api.Dyad{}, false},
 		{ones(65536), dyad(1, 65536), raised(ones(65536), 65536), true},
 		{ones(65536), dyad(3, 0), api.Dyad{}, false},
-		{ends(65535), dyad(3, 0), formed(new(big.Rat).Mul(big.NewRat(3, 1), value(ends(65535)))), true},
+		{ends(65535), dyad(3, 0), formed(new(big.Rat).Mul(big.NewRat(3, 1), oracle.Value(ends(65535)))), true},
 		{ends(65536), dyad(3, 0), api.Dyad{}, false},
 		{ones(32768), ones(32769), api.Dyad{}, false},
 		{ones(65536), ones(65536), api.Dyad{}, false},
@@ -191,11 +191,11 @@ func TestCmp(t *testing.T) {
 		all = append(all, someDyad(&m))
 	}
 	for i, x := range all {
-		v := value(x)
+		v := oracle.Value(x)
 		expectCmp(t, x, x, 0, true)
 		for j, y := range all {
 			if (i+j)%4 == 0 {
-				expectCmp(t, x, y, v.Cmp(value(y)), true)
+				expectCmp(t, x, y, v.Cmp(oracle.Value(y)), true)
 			}
 		}
 	}

@@ -12,7 +12,7 @@ import (
 // expectRounded holds Round by all directions to what a search among all numbers finds.
 func expectRounded(t *testing.T, x api.Dyad) {
 	t.Helper()
-	want := oracle.Roundings(value(x))
+	want := oracle.Roundings(oracle.Value(x))
 	for _, d := range oracle.Directions() {
 		expectRound(t, d, x, want.Number[d], want.Is[d])
 	}

@@ -41,7 +41,7 @@ func toldBy(n api.Net, shapes []api.Shape, m int, outputs [][]*big.Rat) []*big.R
 func forms(l []*big.Rat) ([]api.Dyad, bool) {
 	var all []api.Dyad
 	for _, v := range l {
-		x, ok := form(v)
+		x, ok := oracle.Form(v)
 		if !ok {
 			return nil, false
 		}
@@ -95,7 +95,7 @@ func TestTwinOfEval(t *testing.T) {
 	var m oracle.Mixer
 	seen := oracle.Tally{}
 	for range 1500 {
-		n := samples.NetOfKinds(&m, allowed(), 0)
+		n := samples.NetOfKinds(&m, samples.ExactKinds(), 0)
 		e := expectTwin(t, n, farDyads(&m, width(n)))
 		if t.Failed() {
 			return
@@ -110,7 +110,7 @@ func TestTwinOfEval(t *testing.T) {
 		}
 	}
 	seen.Expect(t, 20, "too long", "no layers", "windows", "padding", "a sum with what is far ahead")
-	for _, k := range allowed() {
+	for _, k := range samples.ExactKinds() {
 		seen.Expect(t, 100, fmt.Sprintf("kind %d", k))
 	}
 }
@@ -123,7 +123,7 @@ func TestTwinOfAnyEval(t *testing.T) {
 	for range 4000 {
 		n := samples.AnyNet(&m)
 		if m.Below(2) == 0 {
-			n = samples.NetOfKinds(&m, append(allowed(), api.KTanh, api.KSigmoid), 0)
+			n = samples.NetOfKinds(&m, append(samples.ExactKinds(), api.KTanh, api.KSigmoid), 0)
 		}
 		size, _ := model.Size(n.In)
 		if m.Below(10) == 0 {
@@ -182,9 +182,9 @@ func TestTwinOfClaim(t *testing.T) {
 		y := farDyads(&m, len(a)-1)
 		v := oracle.Exact(a[len(y)])
 		for i, x := range y {
-			v = plus(v, times(oracle.Exact(a[i]), value(x)))
+			v = plus(v, times(oracle.Exact(a[i]), oracle.Value(x)))
 		}
-		want, ok := form(v)
+		want, ok := oracle.Form(v)
 		expectClaim(t, a, y, want, errnoOf(ok))
 	}
 }

@@ -27,6 +27,20 @@ func QuestionTo(n api.Net, k int) api.Prop {
 	return p
 }
 
+// AskedOfKinds is a network of some kinds, at least so many layers of them, with a question that may be put to it and a region; every eighth time a coordinate goes to the greatest number, or past it.
+func AskedOfKinds(m *oracle.Mixer, kinds []int, least int) (api.Net, api.Prop, api.Region) {
+	n := NetOfKinds(m, kinds, least)
+	p := MixedPropTo(m, n)
+	if m.Below(8) == 0 {
+		i := m.Below(len(p.C))
+		p.C[i] = []float64{oracle.Max, -oracle.Max, 0x1p1023, 0x1.8p1022}[m.Below(4)]
+		for _, g := range p.G {
+			g[i] = m.Number(1020)
+		}
+	}
+	return n, p, MixedRegion(m, len(p.G))
+}
+
 // MixedPropTo is a question that may be put to a network, with at most four columns; mostly its numbers are neither great nor small.
 func MixedPropTo(m *oracle.Mixer, n api.Net) api.Prop {
 	in, out := Widths(n)

@@ -11,6 +11,15 @@ import (
 // Cube is the whole cube of k symbols.
 func Cube(k int) api.Region { return api.Region{Level: make([]int, k), At: make([]int, k)} }
 
+// Region is one of levels and places, one behind the other.
+func Region(pairs ...int) api.Region {
+	var r api.Region
+	for i := 0; i < len(pairs); i += 2 {
+		r.Level, r.At = append(r.Level, pairs[i]), append(r.At, pairs[i+1])
+	}
+	return r
+}
+
 // MixedRegion is a region of k symbols; its levels are often the least or the greatest, its places often the first or the last.
 func MixedRegion(m *oracle.Mixer, k int) api.Region {
 	r := Cube(k)

@@ -21,6 +21,19 @@ func Scribble[T any](l []T, what T) {
 	}
 }
 
+// Sharing is the first of some lists that shares memory with another one, the room behind them too; -1, if none does. It writes all over them: into each its own mark.
+func Sharing[T comparable](lists [][]T, mark func(i int) T) int {
+	for i, l := range lists {
+		Scribble(l, mark(i))
+	}
+	for i, l := range lists {
+		if slices.ContainsFunc(Whole(l), func(a T) bool { return a != mark(i) }) {
+			return i
+		}
+	}
+	return -1
+}
+
 // RoomyLayer is a layer with more behind the end of each of its lists.
 func RoomyLayer(l api.Layer) api.Layer {
 	l.W, l.B = Roomy(l.W, 7), Roomy(l.B, 8)

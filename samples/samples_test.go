@@ -1,6 +1,8 @@
 package samples
 
 import (
+	"math/big"
+	"slices"
 	"testing"
 
 	"ambit/api"
@@ -273,5 +275,80 @@ func TestSameZonoTellsChanges(t *testing.T) {
 	Whole(z.G[1])[len(z.G[1])] = 1
 	if SameZono(WholeZono(z), before) || !SameZono(z, WideZono(3, 4)) {
 		t.Error("the room behind a list is not told, or a part of it")
+	}
+}
+
+func TestKindsAreAll(t *testing.T) {
+	all := EveryKind()
+	for k := 1; k <= 12; k++ {
+		if !slices.Contains(all, k) || slices.Contains(LinearKinds(), k) != (k <= 6) || slices.Contains(BentKinds(), k) != (k > 6) || slices.Contains(ExactKinds(), k) == Rises(api.Layer{Kind: k}) {
+			t.Errorf("the kind %d is missing, or stands where it should not", k)
+		}
+	}
+	if len(all) != 12 || len(ExactKinds()) != 10 {
+		t.Errorf("%v", all)
+	}
+}
+
+func sameReals(got []*big.Rat, want ...float64) bool {
+	return slices.EqualFunc(got, want, func(v *big.Rat, a float64) bool { return v.Cmp(oracle.Exact(a)) == 0 })
+}
+
+func TestExactPoints(t *testing.T) {
+	r := Region(1, 1, 0, 0, 2, 0)
+	if !SameRegion(r, api.Region{Level: []int{1, 0, 2}, At: []int{1, 0, 0}}) || !SameRegion(Region(), api.Region{}) {
+		t.Errorf("%+v", r)
+	}
+	m, h := Middles(r)
+	if !sameReals(m, 0.5, 0, -0.75) || !sameReals(h, 0.5, 1, 0.25) {
+		t.Errorf("%v %v", m, h)
+	}
+	p := api.Prop{C: []float64{10, 20}, G: [][]float64{{2, 0}, {0, 1}, {4, 8}}}
+	x := PointAt(p, r, []*big.Rat{big.NewRat(1, 1), big.NewRat(-1, 2), big.NewRat(0, 1)})
+	// The e are 1, -1/2 and -3/4.
+	if !sameReals(x, 10+2-3, 20-0.5-6) {
+		t.Errorf("%v", x)
+	}
+}
+
+func TestExactOutputs(t *testing.T) {
+	n := api.Net{In: Line(2), Layers: []api.Layer{{Kind: api.KDense, Out: 2, W: []float64{1, 1, 1, -1}, B: []float64{0, 1}}, {Kind: api.KSquare}, Add(1), {Kind: api.KTanh}}}
+	all := OutputsAt(n, []*big.Rat{big.NewRat(2, 1), big.NewRat(3, 1)})
+	if len(all) != 5 || !sameReals(all[0], 2, 3) || !sameReals(all[1], 5, 0) || !sameReals(all[2], 25, 0) || !sameReals(all[3], 30, 0) {
+		t.Errorf("%v", all)
+	}
+	low, high := oracle.Tanh(big.NewRat(30, 1))
+	if v := all[4][0]; v.Cmp(high) > 0 || minus(low, v).Cmp(oracle.Power(-4000)) > 0 || all[4][1].Sign() != 0 {
+		t.Errorf("%v", all[4])
+	}
+}
+
+func TestAskedOfKindsMayBe(t *testing.T) {
+	var m oracle.Mixer
+	for range 500 {
+		n, p, r := AskedOfKinds(&m, EveryKind(), 1)
+		in, out := Widths(n)
+		if e, at := model.CheckProp(p, in, out); e != api.OK || len(n.Layers) == 0 || !isRegion(r, len(p.G)) {
+			t.Errorf("%+v to %+v over %+v: %v at %d", p, n, r, e, at)
+		}
+	}
+}
+
+func TestSharingIsTold(t *testing.T) {
+	mark := func(i int) int { return i + 5 }
+	room := make([]int, 6)
+	for i, c := range []struct {
+		lists [][]int
+		want  int
+	}{
+		{[][]int{{1}, {2, 3}, nil}, -1},
+		{[][]int{room[:2:2], room[2:4:4], room[4:]}, -1},
+		{[][]int{{1}, room[:2], room[2:]}, 1},
+		{[][]int{room, {1}, room}, 0},
+		{[][]int{room[0:3:3], room[2:]}, 0},
+	} {
+		if got := Sharing(c.lists, mark); got != c.want {
+			t.Errorf("%d: %d, not %d", i, got, c.want)
+		}
 	}
 }

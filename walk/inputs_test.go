@@ -97,16 +97,6 @@ func text(what any) string {
 	return s[:min(len(s), 300)]
 }
 
-// everyKind are all kinds there are.
-func everyKind() []int {
-	return []int{api.KDense, api.KConv, api.KScale, api.KMean, api.KAdd, api.KTurn, api.KRelu, api.KLeaky, api.KTanh, api.KSigmoid, api.KSquare, api.KMax}
-}
-
-// exactKinds are those that tell whole numbers times powers of 2 of such.
-func exactKinds() []int {
-	return slices.DeleteFunc(everyKind(), func(k int) bool { return k == api.KTanh || k == api.KSigmoid })
-}
-
 // A call is what Step is given.
 type call struct {
 	l          api.Layer

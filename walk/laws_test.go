@@ -61,7 +61,7 @@ func TestStepHolds(t *testing.T) {
 	var m oracle.Mixer
 	seen := oracle.Tally{}
 	for range 3000 {
-		c := someCall(&m, everyKind())
+		c := someCall(&m, samples.EveryKind())
 		told, rounds := c.answer(), 4
 		if slowly(c.l) {
 			rounds = 1
@@ -75,7 +75,7 @@ func TestStepHolds(t *testing.T) {
 		seen.Note("beside a bad one", good && slices.ContainsFunc(c.v, mayNotBe))
 	}
 	seen.Expect(t, 100, "beside a bad one")
-	for _, k := range everyKind() {
+	for _, k := range samples.EveryKind() {
 		seen.Expect(t, 100, fmt.Sprintf("kind %d", k))
 	}
 }
@@ -105,7 +105,7 @@ func TestEvalHolds(t *testing.T) {
 	var m oracle.Mixer
 	seen := oracle.Tally{}
 	for i := range 1500 {
-		n := samples.NetOfKinds(&m, exactKinds(), 1)
+		n := samples.NetOfKinds(&m, samples.ExactKinds(), 1)
 		if i%10 == 0 {
 			n.Layers = append(n.Layers, kind([]int{api.KTanh, api.KSigmoid}[m.Below(2)]))
 		}
@@ -127,9 +127,9 @@ func TestEvalHolds(t *testing.T) {
 		seen.Note("told", good)
 		seen.Note("told of many layers", good && len(n.Layers) > 3)
 		seen.Note("told beside a bad one", good && at >= 0)
-		seen.Note("at its end a function that rises", good && slowly(n.Layers[len(n.Layers)-1]))
+		seen.Note("at its end a function that samples.Rises", good && slowly(n.Layers[len(n.Layers)-1]))
 	}
-	seen.Expect(t, 50, "told", "told of many layers", "told beside a bad one", "at its end a function that rises")
+	seen.Expect(t, 50, "told", "told of many layers", "told beside a bad one", "at its end a function that samples.Rises")
 }
 
 // 15.3, 15.4: a network is its layers, one step behind the other, of each kind at each place.
@@ -137,7 +137,7 @@ func TestEvalGoesStepByStep(t *testing.T) {
 	t.Parallel()
 	var m oracle.Mixer
 	for range 1500 {
-		n := samples.NetOfKinds(&m, everyKind(), 1)
+		n := samples.NetOfKinds(&m, samples.EveryKind(), 1)
 		v := someSpans(&m, width(n.In))
 		shapes, _, _ := model.Shapes(n)
 		last := len(n.Layers) - 1
@@ -211,7 +211,7 @@ func TestWiderSpansTellWiderOnes(t *testing.T) {
 	var m oracle.Mixer
 	seen := oracle.Tally{}
 	for range 8000 {
-		c := someCall(&m, everyKind())
+		c := someCall(&m, samples.EveryKind())
 		wide := c.answer()
 		narrow := call{c.l, c.in, parts(&m, c.v), parts(&m, c.earlier)}.answer()
 		expectInside(t, c, wide, narrow)
@@ -221,7 +221,7 @@ func TestWiderSpansTellWiderOnes(t *testing.T) {
 		}
 	}
 	seen.Expect(t, 100, "good inside bad")
-	for _, k := range everyKind() {
+	for _, k := range samples.EveryKind() {
 		seen.Expect(t, 100, fmt.Sprintf("kind %d", k))
 	}
 }
@@ -232,7 +232,7 @@ func TestWiderSpansTellWiderOnesOfNetworks(t *testing.T) {
 	var m oracle.Mixer
 	seen := oracle.Tally{}
 	for range 2500 {
-		n := samples.NetOfKinds(&m, everyKind(), 1)
+		n := samples.NetOfKinds(&m, samples.EveryKind(), 1)
 		v := someSpans(&m, width(n.In))
 		wide, _, at := Eval(n, v)
 		narrow, _, first := Eval(n, parts(&m, v))
@@ -253,7 +253,7 @@ func TestPointsAreNarrow(t *testing.T) {
 	var m oracle.Mixer
 	seen := oracle.Tally{}
 	for range 6000 {
-		c := someCall(&m, exactKinds())
+		c := someCall(&m, samples.ExactKinds())
 		for _, v := range [][]api.Span{c.v, c.earlier} {
 			for i := range v {
 				v[i].Hi = v[i].Lo
@@ -270,7 +270,7 @@ func TestPointsAreNarrow(t *testing.T) {
 			seen.Note(fmt.Sprintf("kind %d between two", c.l.Kind), s.Lo < s.Hi)
 		}
 	}
-	for _, k := range exactKinds() {
+	for _, k := range samples.ExactKinds() {
 		seen.Expect(t, 200, fmt.Sprintf("kind %d", k))
 		if k != api.KRelu && k != api.KMax {
 			seen.Expect(t, 30, fmt.Sprintf("kind %d between two", k))
@@ -282,7 +282,7 @@ func TestPointsAreNarrow(t *testing.T) {
 func TestPointsOfPoints(t *testing.T) {
 	var m oracle.Mixer
 	for range 1500 {
-		c := someCall(&m, exactKinds())
+		c := someCall(&m, samples.ExactKinds())
 		x := someWholes(&m, len(c.v))
 		l, ok := samples.LayerOf(&m, c.l.Kind, c.in, func() float64 { return someWholes(&m, 1)[0] })
 		if !ok {
@@ -396,7 +396,7 @@ func TestSignsOfNoughtsTurnNothing(t *testing.T) {
 		return all
 	}
 	for range 3000 {
-		c := someCall(&m, everyKind())
+		c := someCall(&m, samples.EveryKind())
 		l := c.l
 		l.W, l.B = flip(l.W), flip(l.B)
 		if l.Kind == api.KLeaky || l.Kind == api.KMean {

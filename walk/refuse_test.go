@@ -23,7 +23,7 @@ func ordinary() []call {
 
 // 15.2: as many spans as the layer tells coordinates, of each kind.
 func TestStepTellsEachCoordinate(t *testing.T) {
-	if len(ordinary()) != len(everyKind()) {
+	if len(ordinary()) != len(samples.EveryKind()) {
 		t.Fatalf("%d kinds", len(ordinary()))
 	}
 	for _, c := range ordinary() {

@@ -200,7 +200,7 @@ func TestTwinOfSteps(t *testing.T) {
 	var m oracle.Mixer
 	seen := oracle.Tally{}
 	for range 3000 {
-		c := someCall(&m, everyKind())
+		c := someCall(&m, samples.EveryKind())
 		want := wantStep(c)
 		c.expect(t, want)
 		if t.Failed() {
@@ -218,7 +218,7 @@ func TestTwinOfSteps(t *testing.T) {
 		good := !slices.ContainsFunc(join(c.v, c.earlier), mayNotBe)
 		seen.Note("no number", good && slices.ContainsFunc(want, mayNotBe))
 	}
-	for _, k := range everyKind() {
+	for _, k := range samples.EveryKind() {
 		seen.Expect(t, 100, fmt.Sprintf("kind %d good", k))
 		seen.Expect(t, 20, fmt.Sprintf("kind %d bad", k))
 		seen.Expect(t, 5, fmt.Sprintf("kind %d at a point", k))
@@ -289,7 +289,7 @@ func TestTwinOfEval(t *testing.T) {
 	var m oracle.Mixer
 	seen := oracle.Tally{}
 	for range 1200 {
-		n := samples.NetOfKinds(&m, everyKind(), 0)
+		n := samples.NetOfKinds(&m, samples.EveryKind(), 0)
 		v := someSpans(&m, width(n.In))
 		want, e, at := wantEval(n, v)
 		expectEvalOr(t, n, v, want, e, at)
@@ -307,7 +307,7 @@ func TestTwinOfEval(t *testing.T) {
 		}
 	}
 	seen.Expect(t, 10, "no layers", "bad input", "bad behind a layer", "bad on the way alone", "not bad", "a sum with what is far ahead")
-	for _, k := range everyKind() {
+	for _, k := range samples.EveryKind() {
 		seen.Expect(t, 50, fmt.Sprintf("kind %d", k))
 	}
 }
