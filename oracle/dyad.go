@@ -2,7 +2,6 @@ package oracle
 
 import (
 	"bytes"
-	"encoding/hex"
 	"math/big"
 
 	"ambit/api"
@@ -10,7 +9,7 @@ import (
 
 // Value is what an exact number stands for.
 func Value(x api.Dyad) *big.Rat {
-	whole, _ := new(big.Int).SetString("0"+hex.EncodeToString(x.M), 16)
+	whole := new(big.Int).SetBytes(x.M)
 	if x.Neg {
 		whole.Neg(whole)
 	}
@@ -28,12 +27,8 @@ func Form(v *big.Rat) (api.Dyad, bool) {
 	for whole.Bit(twos) == 0 {
 		twos++
 	}
-	text := whole.Rsh(whole, uint(twos)).Text(16)
-	if len(text)%2 == 1 {
-		text = "0" + text
-	}
-	m, _ := hex.DecodeString(text)
-	x := api.Dyad{Neg: v.Sign() < 0, M: m, E: e + twos}
+	whole.Rsh(whole, uint(twos))
+	x := api.Dyad{Neg: v.Sign() < 0, M: whole.Bytes(), E: e + twos}
 	return x, whole.BitLen() <= 65536 && x.E >= -65536 && x.E <= 65536
 }
 

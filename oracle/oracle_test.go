@@ -239,6 +239,8 @@ func TestForms(t *testing.T) {
 		{sum(0.375), api.Dyad{M: []byte{3}, E: -3}},
 		{sum(257, 0x1p-4), api.Dyad{M: []byte{0x10, 0x11}, E: -4}},
 		{Power(-2000), api.Dyad{M: []byte{1}, E: -2000}},
+		{plus(Power(64), whole(-7)), api.Dyad{M: []byte{0xff, 0xff, 0xff, 0xff, 0xff, 0xff, 0xff, 0xf9}}},
+		{plus(Power(64), whole(3)), api.Dyad{M: []byte{1, 0, 0, 0, 0, 0, 0, 0, 3}}},
 	} {
 		got, ok := Form(c.v)
 		if !ok || !SameDyad(got, c.want) || Value(c.want).Cmp(c.v) != 0 {
