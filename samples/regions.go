@@ -95,3 +95,12 @@ func WholeRegion(r api.Region) api.Region {
 func SameRegion(a, b api.Region) bool {
 	return slices.Equal(a.Level, b.Level) && slices.Equal(a.At, b.At)
 }
+
+// Halves are a region's halves by a symbol.
+func Halves(r api.Region, s int) (lower, upper api.Region) {
+	lower = api.Region{Level: slices.Clone(r.Level), At: slices.Clone(r.At)}
+	upper = api.Region{Level: slices.Clone(r.Level), At: slices.Clone(r.At)}
+	lower.Level[s], upper.Level[s] = r.Level[s]+1, r.Level[s]+1
+	lower.At[s], upper.At[s] = 2*r.At[s], 2*r.At[s]+1
+	return lower, upper
+}

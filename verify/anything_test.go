@@ -6,6 +6,7 @@ import (
 	"testing"
 
 	"ambit/api"
+	"ambit/cases"
 	"ambit/code"
 	"ambit/model"
 	"ambit/oracle"
@@ -14,12 +15,12 @@ import (
 
 // anyCase is a network and a question with anything in them, though they often may be.
 func anyCase(m *oracle.Mixer) (api.Net, api.Prop) {
-	n, p := mixedCase(m)
+	n, p := cases.Mixed(m)
 	switch m.Below(5) {
 	case 0:
 		n = samples.AnyNet(m)
 		if e, _ := model.Check(n); e == api.OK {
-			p = within(samples.MixedPropTo(m, n), 2, 9)
+			p = cases.Within(samples.MixedPropTo(m, n), 2, 9)
 		}
 	case 1:
 		p = samples.AnyProp(m)
@@ -65,7 +66,7 @@ func TestAnythingEnds(t *testing.T) {
 		expectJudge(t, n, p, 1, v)
 		if bits < 0 || bits > 20 {
 			expectNoRadius(t, n, p, bits, workers, api.ErrArg)
-		} else if i, w, e := Radius(n, within(p, min(p.Depth, 1), min(p.Looks, 3)), bits, workers); e != api.OK || i < -1 || i > 1<<bits || (w.Kind == api.Robust) != (i >= 0) {
+		} else if i, w, e := Radius(n, cases.Within(p, min(p.Depth, 1), min(p.Looks, 3)), bits, workers); e != api.OK || i < -1 || i > 1<<bits || (w.Kind == api.Robust) != (i >= 0) {
 			t.Fatalf("%s, %s: %d %+v %v", text(n), text(p), i, w, e)
 		}
 		if t.Failed() {
@@ -115,8 +116,8 @@ func TestAnyBytesEnd(t *testing.T) {
 	var m oracle.Mixer
 	seen := oracle.Tally{}
 	for range 800 {
-		n, p := mixedCase(&m)
-		other, q := mixedCase(&m)
+		n, p := cases.Mixed(&m)
+		other, q := cases.Mixed(&m)
 		p.Looks, q.Looks = 1+m.Below(3), 1+m.Below(3)
 		net, prop := encoded(t, n, p)
 		if m.Below(4) == 0 {

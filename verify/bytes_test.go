@@ -6,6 +6,7 @@ import (
 	"time"
 
 	"ambit/api"
+	"ambit/cases"
 	"ambit/code"
 	"ambit/model"
 	"ambit/samples"
@@ -96,7 +97,7 @@ func TestQuestionsThatDoNotFit(t *testing.T) {
 
 // 19.5: a done that is closed stops what is well formed and what is not; one that is open, or none, stops nothing.
 func TestClosedDone(t *testing.T) {
-	n, p := example(true)
+	n, p := cases.Example(true)
 	net, prop := encoded(t, n, p)
 	for workers := 1; workers <= 16; workers++ {
 		for _, b := range [][]byte{net, nil} {
@@ -112,7 +113,7 @@ func TestClosedDone(t *testing.T) {
 
 // long is a question that has many regions looked at.
 func long() (api.Net, api.Prop) {
-	return kinks(-0.875, -0.625, -0.375, -0.125, 0.125, 0.375, 0.625, 0.875), unit(numbers(1, 0))
+	return cases.Kinks(-0.875, -0.625, -0.375, -0.125, 0.125, 0.375, 0.625, 0.875), cases.Unit(numbers(1, 0))
 }
 
 // 19.5: where done is closed meanwhile, either ErrStopped alone is told, or the verdict.

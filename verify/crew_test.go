@@ -9,6 +9,7 @@ import (
 	"time"
 
 	"ambit/api"
+	"ambit/cases"
 	"ambit/samples"
 )
 
@@ -110,8 +111,8 @@ func TestGoroutinesEnd(t *testing.T) {
 			t.Fatalf("%d goroutines, not %d, behind %s", runtime.NumGoroutine(), before, what)
 		}
 	}
-	for _, n := range append(samples.Nets(), bumps(1.5, numbers(-0.25, 0.75)), kinks(-0.5, 0.5)) {
-		p := within(samples.QuestionTo(n, 2), 3, 9)
+	for _, n := range append(samples.Nets(), cases.Bumps(1.5, numbers(-0.25, 0.75)), cases.Kinks(-0.5, 0.5)) {
+		p := cases.Within(samples.QuestionTo(n, 2), 3, 9)
 		net, prop := encoded(t, n, p)
 		for _, workers := range []int{0, 1, 2, 16, 17} {
 			Judge(n, p, workers)

@@ -5,6 +5,7 @@ import (
 	"testing"
 
 	"ambit/api"
+	"ambit/cases"
 	"ambit/samples"
 )
 
@@ -28,7 +29,7 @@ func expectRefused(t *testing.T, n api.Net, p api.Prop, bits, workers int, want 
 // 19.3, 19.6: a network that model refuses, whatever is asked of it, and by whatever workers.
 func TestRefusedNetworks(t *testing.T) {
 	for _, r := range samples.RefusedNets() {
-		for _, p := range []api.Prop{{}, samples.Question(), {C: numbers(1), Target: -9}, asked(lists(numbers(1, 1)), numbers(1), numbers(1))} {
+		for _, p := range []api.Prop{{}, samples.Question(), {C: numbers(1), Target: -9}, cases.Asked(lists(numbers(1, 1)), numbers(1), numbers(1))} {
 			for _, workers := range []int{0, 1, 16, 17} {
 				expectRefused(t, r.Net, p, 3, workers, r.Err)
 				expectRefused(t, r.Net, p, 21, workers, r.Err)
@@ -78,7 +79,7 @@ func TestQuestionsToOtherWidths(t *testing.T) {
 // 19.3, 19.5, 19.6: 1 to MaxWorkers, and no others.
 func TestCrewsOutOfBounds(t *testing.T) {
 	for _, further := range []bool{false, true} {
-		n, p := example(further)
+		n, p := cases.Example(further)
 		net, prop := encoded(t, n, p)
 		for _, workers := range badCrews() {
 			expectRefused(t, n, p, 3, workers, api.ErrArg)
@@ -102,7 +103,7 @@ func TestCrewsOutOfBounds(t *testing.T) {
 // 19.6: 0 to MaxRadius bits, and no others.
 func TestBitsOutOfBounds(t *testing.T) {
 	for _, further := range []bool{false, true} {
-		n, p := example(further)
+		n, p := cases.Example(further)
 		for _, bits := range badBits() {
 			for _, workers := range []int{1, 16, 0, 17} {
 				expectNoRadius(t, n, p, bits, workers, api.ErrArg)

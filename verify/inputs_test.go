@@ -42,56 +42,6 @@ func netOf(width int, layers ...api.Layer) api.Net {
 	return api.Net{In: samples.Line(width), Layers: layers}
 }
 
-// asked is a question of further claims alone, with as much of every budget as may be.
-func asked(claims [][]float64, c []float64, g ...[]float64) api.Prop {
-	return api.Prop{C: c, G: g, Target: -1, Claims: claims, K: api.MaxK, Depth: api.MaxDepth, Looks: api.MaxLooks}
-}
-
-// within is a question with these budgets.
-func within(p api.Prop, depth, looks int) api.Prop {
-	p.Depth, p.Looks = depth, looks
-	return p
-}
-
-// example is the network and the question of the chapter's examples, with or without the further claim.
-func example(further bool) (api.Net, api.Prop) {
-	n := netOf(2, dense(numbers(1, 1, 1, -1), numbers(0, 0)))
-	p := api.Prop{C: numbers(0.5, 0.25), G: lists(numbers(1, 0)), K: 2, Looks: 1}
-	if further {
-		p.Claims = lists(numbers(1, 0, 0))
-	}
-	return n, p
-}
-
-// bumps are a network over one coordinate, with an output each: 0 but near the places, where it has a bump of that height, and a quarter to either side.
-func bumps(height float64, places ...[]float64) api.Net {
-	var w, b, sum []float64
-	for _, at := range slices.Concat(places...) {
-		w, b = append(w, 1, 1, 1), append(b, 0.25-at, -at, -0.25-at)
-	}
-	for row := range places {
-		for other, l := range places {
-			for range l {
-				h := 4 * height
-				if other != row {
-					h = 0
-				}
-				sum = append(sum, h, -2*h, h)
-			}
-		}
-	}
-	return netOf(1, dense(w, b), samples.Relu(), dense(sum, make([]float64, len(places))))
-}
-
-// kinks are a network over one coordinate that tells 0 everywhere; zonotopes lose something where a region has one of the places within.
-func kinks(places ...float64) api.Net {
-	var w, b, sum []float64
-	for _, at := range places {
-		w, b, sum = append(w, 1, 1), append(b, -at, -at), append(sum, 1, -1)
-	}
-	return netOf(1, dense(w, b), samples.Relu(), dense(sum, numbers(0)))
-}
-
 // text is what something looks like, as far as one may want to read.
 func text(what any) string {
 	s := fmt.Sprintf("%+v", what)

@@ -7,46 +7,12 @@ import (
 	"testing"
 
 	"ambit/api"
+	"ambit/cases"
 	"ambit/code"
 	"ambit/margin"
 	"ambit/oracle"
 	"ambit/samples"
 )
-
-// sumOf is a claim's exact sum.
-func sumOf(a []float64, y []*big.Rat) *big.Rat {
-	sum := oracle.Exact(a[len(y)])
-	for i, v := range y {
-		sum.Add(sum, new(big.Rat).Mul(oracle.Exact(a[i]), v))
-	}
-	return sum
-}
-
-// claimsOf are the claims of a question to a network.
-func claimsOf(n api.Net, p api.Prop) [][]float64 {
-	_, out := samples.Widths(n)
-	claims, _ := margin.Claims(p, out)
-	return claims
-}
-
-// sumsAt are the claims' exact sums at a point of the cube; of KTanh and KSigmoid they are as good as exact.
-func sumsAt(n api.Net, p api.Prop, e []*big.Rat) []*big.Rat {
-	y := samples.OutputsAt(n, samples.PointAt(p, samples.Cube(len(p.G)), e))[len(n.Layers)]
-	var sums []*big.Rat
-	for _, a := range claimsOf(n, p) {
-		sums = append(sums, sumOf(a, y))
-	}
-	return sums
-}
-
-// shares is a point of the cube of k symbols.
-func shares(m *oracle.Mixer, k int) []*big.Rat {
-	var e []*big.Rat
-	for range k {
-		e = append(e, m.Share())
-	}
-	return e
-}
 
 // 19.7, W1: where it is robust, each claim's exact sum is at least the margin at points of the cube.
 func TestRobustIsSo(t *testing.T) {
@@ -54,7 +20,7 @@ func TestRobustIsSo(t *testing.T) {
 	var m oracle.Mixer
 	seen := oracle.Tally{}
 	for range 700 {
-		n, p := mixedCase(&m)
+		n, p := cases.Mixed(&m)
 		v, e := Judge(n, p, 1+m.Below(4))
 		if e != api.OK || v.Kind != api.Robust {
 			continue
@@ -63,7 +29,7 @@ func TestRobustIsSo(t *testing.T) {
 			t.Fatalf("%s, %s: %+v", text(n), text(p), v)
 		}
 		for range 8 {
-			for i, sum := range sumsAt(n, p, shares(&m, len(p.G))) {
+			for i, sum := range cases.SumsAt(n, p, cases.Shares(&m, len(p.G))) {
 				if sum.Cmp(oracle.Exact(v.Margin)) < 0 {
 					t.Fatalf("%s, %s: the claim %d is %v, below the margin of %+v", text(n), text(p), i, sum, v)
 				}
@@ -84,7 +50,7 @@ func TestFalsifiedIsSo(t *testing.T) {
 	var m oracle.Mixer
 	seen := oracle.Tally{}
 	for range 900 {
-		n, p := mixedCase(&m)
+		n, p := cases.Mixed(&m)
 		v, f := Judge(n, p, 1+m.Below(4))
 		if f != api.OK || v.Kind != api.Falsified {
 			continue
@@ -100,7 +66,7 @@ func TestFalsifiedIsSo(t *testing.T) {
 			e = append(e, big.NewRat(int64(i), 1<<p.Depth))
 			seen.Note("within", i > -1<<p.Depth && i < 1<<p.Depth && i != 0)
 		}
-		sums := sumsAt(n, p, e)
+		sums := cases.SumsAt(n, p, e)
 		if sums[v.Claim].Cmp(oracle.Exact(-v.Margin)) > 0 {
 			t.Fatalf("%s, %s: %+v, but the sum is %v", text(n), text(p), v, sums[v.Claim])
 		}
@@ -116,7 +82,7 @@ func TestNeverBoth(t *testing.T) {
 	var m oracle.Mixer
 	seen := oracle.Tally{}
 	for range 300 {
-		n, p := mixedCase(&m)
+		n, p := cases.Mixed(&m)
 		kinds := map[int]int{}
 		for range 8 {
 			p.K, p.Depth, p.Looks = 1+m.Below(8), m.Below(9), 1+m.Below(30)
@@ -139,7 +105,7 @@ func leastOver(n api.Net, p api.Prop, a []float64) *big.Rat {
 		none[s] = new(big.Rat)
 	}
 	sum := func(e []*big.Rat) *big.Rat {
-		return sumOf(a, samples.OutputsAt(n, samples.PointAt(p, samples.Cube(len(p.G)), e))[len(n.Layers)])
+		return cases.Sum(a, samples.OutputsAt(n, samples.PointAt(p, samples.Cube(len(p.G)), e))[len(n.Layers)])
 	}
 	middle := sum(none)
 	total := new(big.Rat).Set(middle)
@@ -209,7 +175,7 @@ func nextAbove(a float64) float64 {
 // expectStays holds the verdict of greater budgets to that of lesser ones.
 func expectStays(t *testing.T, n api.Net, p api.Prop, v api.Verdict, depth, looks int) {
 	t.Helper()
-	w, e := Judge(n, within(p, depth, looks), 3)
+	w, e := Judge(n, cases.Within(p, depth, looks), 3)
 	want := v
 	if v.Kind == api.Falsified {
 		want.E = nil
@@ -229,7 +195,7 @@ func TestVerdictsStay(t *testing.T) {
 	var m oracle.Mixer
 	seen := oracle.Tally{}
 	for range 500 {
-		n, p := mixedCase(&m)
+		n, p := cases.Mixed(&m)
 		if m.Below(2) == 0 {
 			p.Depth, p.Looks = m.Below(4), 1+m.Below(12)
 		}
@@ -248,10 +214,10 @@ func TestVerdictsStay(t *testing.T) {
 	}
 	seen.Expect(t, 10, "robust at once", "robust by halves", "falsified at once", "falsified in a half")
 	// With more looks the other half is halved as well, and its halves are looked at beside those of the one that refutes.
-	n, p := bumps(1.5, numbers(-0.75, 0.25)), within(unit(numbers(-1, 1)), 2, 5)
+	n, p := cases.Bumps(1.5, numbers(-0.75, 0.25)), cases.Within(cases.Unit(numbers(-1, 1)), 2, 5)
 	expectVerdict(t, n, p, falsifiedAt(0, 0.5, 5, -3))
-	expectVerdict(t, n, within(p, 2, 7), falsifiedAt(0, 0.5, 7, -3))
-	expectVerdict(t, n, within(p, 4, 7), falsifiedAt(0, 0.5, 7, -12))
+	expectVerdict(t, n, cases.Within(p, 2, 7), falsifiedAt(0, 0.5, 7, -3))
+	expectVerdict(t, n, cases.Within(p, 4, 7), falsifiedAt(0, 0.5, 7, -12))
 }
 
 // 19.7, W7: every number of workers tells the same, and so does every call of the same.
@@ -260,7 +226,7 @@ func TestEveryCrewTellsTheSame(t *testing.T) {
 	var m oracle.Mixer
 	seen := oracle.Tally{}
 	for range 60 {
-		n, p := mixedCase(&m)
+		n, p := cases.Mixed(&m)
 		p.Looks = min(p.Looks, 25)
 		want, e := Judge(n, p, 1)
 		if e != api.OK {
@@ -291,7 +257,7 @@ func TestFormsStay(t *testing.T) {
 	t.Parallel()
 	var m oracle.Mixer
 	for range 200 {
-		n, p := mixedCase(&m)
+		n, p := cases.Mixed(&m)
 		p.Looks = min(p.Looks, 5)
 		net, prop := encoded(t, n, p)
 		want, e := Judge(n, p, 1)
@@ -316,7 +282,7 @@ func TestRadiusIsProven(t *testing.T) {
 	var m oracle.Mixer
 	seen := oracle.Tally{}
 	for range 200 {
-		n, p := mixedCase(&m)
+		n, p := cases.Mixed(&m)
 		p.Looks = 1 + m.Below(6)
 		bits := m.Below(8)
 		radius, v, e := Radius(n, p, bits, 2)

@@ -4,12 +4,15 @@ import (
 	"testing"
 
 	"ambit/api"
+	"ambit/cases"
 	"ambit/margin"
 	"ambit/samples"
 )
 
 // line is a question to one coordinate, from -1 to 1, with these claims, that lets nothing be halved.
-func line(claims ...[]float64) api.Prop { return within(asked(claims, numbers(0), numbers(1)), 0, 1) }
+func line(claims ...[]float64) api.Prop {
+	return cases.Within(cases.Asked(claims, numbers(0), numbers(1)), 0, 1)
+}
 
 // 19.1, 19.3: a region is settled where the least margin of all claims is above 0, with that margin.
 func TestSettledAtOnce(t *testing.T) {
@@ -24,13 +27,13 @@ func TestSettledAtOnce(t *testing.T) {
 	expectVerdict(t, n, line(numbers(1, 3), numbers(1, 1+0x1p-52), numbers(0x1p-60, 1)), robust(0x1p-52, 1))
 	expectVerdict(t, n, line(numbers(0x1p-60, 1)), robust(1-0x1p-53, 1))
 	// There may be no symbol at all.
-	expectVerdict(t, n, asked(lists(numbers(1, 0)), numbers(0.25)), robust(0.25, 1))
+	expectVerdict(t, n, cases.Asked(lists(numbers(1, 0)), numbers(0.25)), robust(0.25, 1))
 }
 
 // 19.1: a target's claims stand ahead of the further ones.
 func TestSettledWithATarget(t *testing.T) {
 	n := netOf(3)
-	p := asked(lists(numbers(1, 0, 0, 0)), numbers(1, 8, 2), numbers(0.5, 0, 0))
+	p := cases.Asked(lists(numbers(1, 0, 0, 0)), numbers(1, 8, 2), numbers(0.5, 0, 0))
 	p.Target = 1
 	expectVerdict(t, n, p, robust(0.5, 1))
 	p.Claims = nil
@@ -47,14 +50,14 @@ func TestSettledWithATarget(t *testing.T) {
 func TestRefutedAtTheSigns(t *testing.T) {
 	n := netOf(1)
 	for depth := range api.MaxDepth + 1 {
-		p := within(line(numbers(1, -2)), depth, 1)
+		p := cases.Within(line(numbers(1, -2)), depth, 1)
 		expectVerdict(t, n, p, falsifiedAt(0, 3, 1, -1<<depth))
 		p.Claims = lists(numbers(-1, 0.5))
 		expectVerdict(t, n, p, falsifiedAt(0, 0.5, 1, 1<<depth))
 	}
 	// A symbol each, and one that turns nothing.
-	p := asked(lists(numbers(2, -3, 0, 4)), numbers(0, 0, 0), numbers(1, 0, 5), numbers(0, 0, 7), numbers(3, 2, 0), numbers(0, 1, 0))
-	expectVerdict(t, netOf(3), within(p, 2, 1), falsifiedAt(0, 1, 1, -4, 0, 0, 4))
+	p := cases.Asked(lists(numbers(2, -3, 0, 4)), numbers(0, 0, 0), numbers(1, 0, 5), numbers(0, 0, 7), numbers(3, 2, 0), numbers(0, 1, 0))
+	expectVerdict(t, netOf(3), cases.Within(p, 2, 1), falsifiedAt(0, 1, 1, -4, 0, 0, 4))
 }
 
 // dip is a network of one coordinate that tells twice the input where it is above 0, and else its size; the signs of a claim on it are not where it is least.
@@ -91,7 +94,7 @@ func TestNoWorstOfAZonotope(t *testing.T) {
 	n := netOf(1)
 	// The second claim goes to twice the greatest number and back: it has no margin.
 	wild, tame := numbers(most, 0), numbers(-1, 3)
-	p := within(asked(lists(tame, wild), numbers(0), numbers(1), numbers(1)), 0, 1)
+	p := cases.Within(cases.Asked(lists(tame, wild), numbers(0), numbers(1), numbers(1)), 0, 1)
 	expectVerdict(t, n, p, unknown(1, -1, 1))
 	p.Claims = lists(wild, tame)
 	expectVerdict(t, n, p, falsifiedAt(0, most, 1, -1, -1))
@@ -103,14 +106,14 @@ func TestNoWorstOfAZonotope(t *testing.T) {
 // 19.1: nothing bad settles anything, and there the middle alone is asked.
 func TestBadRegions(t *testing.T) {
 	n := netOf(1, scale(4, 0))
-	far := within(asked(lists(numbers(1, 1)), numbers(0), numbers(0x1p1023)), 0, 1)
+	far := cases.Within(cases.Asked(lists(numbers(1, 1)), numbers(0), numbers(0x1p1023)), 0, 1)
 	expectVerdict(t, n, far, unknown(1, 1, 1))
 	far.Claims = lists(numbers(1, -1))
 	expectVerdict(t, n, far, falsifiedAt(0, 1, 1, 0))
 	// Half of it is bad as well; its middle is at -2^1024 and 1.
 	far.Claims = lists(numbers(1, 1))
-	expectVerdict(t, n, within(far, 1, 3), falsifiedAt(0, most, 3, -1))
-	expectVerdict(t, n, within(far, 3, 3), falsifiedAt(0, most, 3, -4))
+	expectVerdict(t, n, cases.Within(far, 1, 3), falsifiedAt(0, most, 3, -1))
+	expectVerdict(t, n, cases.Within(far, 3, 3), falsifiedAt(0, most, 3, -4))
 	// A claim that hangs on nothing is not settled either.
 	far.Claims = lists(numbers(0, 1))
 	expectVerdict(t, n, far, unknown(1, 1, 1))
@@ -135,7 +138,7 @@ func TestRefutedBySpans(t *testing.T) {
 
 // 19.1: a closed done is asked ahead of a look.
 func TestStoppedLooks(t *testing.T) {
-	n, p := example(true)
+	n, p := cases.Example(true)
 	s := newSearch(n, p, 2, closed())
 	if f := s.look(region(0, 0), 1); f.outcome != stopped {
 		t.Errorf("%+v", f)

@@ -6,6 +6,7 @@ import (
 	"testing"
 
 	"ambit/api"
+	"ambit/cases"
 	"ambit/samples"
 )
 
@@ -20,17 +21,17 @@ func memoryCases() []given {
 	var all []given
 	for _, n := range samples.Nets() {
 		for _, k := range []int{0, 3} {
-			all = append(all, given{n, within(samples.QuestionTo(n, k), 3, 9)})
+			all = append(all, given{n, cases.Within(samples.QuestionTo(n, k), 3, 9)})
 		}
 	}
 	for _, further := range []bool{false, true} {
-		n, p := example(further)
+		n, p := cases.Example(further)
 		all = append(all, given{n, p})
 		p.K = 9
 		all = append(all, given{n, p})
 	}
-	bumpy := within(unit(numbers(-1, 1)), 4, 20)
-	return append(all, given{bumps(1.5, numbers(-0.25, 0.75)), bumpy}, given{kinks(-0.5, 0.5), within(unit(numbers(1, 0.125)), 4, 20)}, given{kinks(-0.5, 0.5), within(unit(numbers(1, 0.125)), 4, 6)})
+	bumpy := cases.Within(cases.Unit(numbers(-1, 1)), 4, 20)
+	return append(all, given{cases.Bumps(1.5, numbers(-0.25, 0.75)), bumpy}, given{cases.Kinks(-0.5, 0.5), cases.Within(cases.Unit(numbers(1, 0.125)), 4, 20)}, given{cases.Kinks(-0.5, 0.5), cases.Within(cases.Unit(numbers(1, 0.125)), 4, 6)})
 }
 
 // roomy is one with more behind the end of each of its lists.
@@ -126,7 +127,7 @@ func TestBytesStay(t *testing.T) {
 
 // Rule 3: the ends of two answers share no memory, the room behind them neither.
 func TestEndsAreNew(t *testing.T) {
-	n, p := bumps(1.5, numbers(-0.25, 0.75)), within(unit(numbers(-1, 1)), 4, 20)
+	n, p := cases.Bumps(1.5, numbers(-0.25, 0.75)), cases.Within(cases.Unit(numbers(-1, 1)), 4, 20)
 	net, prop := encoded(t, n, p)
 	var all [][]int
 	for range 3 {
@@ -141,7 +142,7 @@ func TestEndsAreNew(t *testing.T) {
 
 // 19.8, rule 6: calls side by side, of the same network and question, disturb nothing.
 func TestCallsSideBySide(t *testing.T) {
-	n, p := bumps(1.5, numbers(-0.25, 0.75)), within(unit(numbers(-1, 1)), 4, 20)
+	n, p := cases.Bumps(1.5, numbers(-0.25, 0.75)), cases.Within(cases.Unit(numbers(-1, 1)), 4, 20)
 	want, _ := Judge(n, p, 1)
 	net, prop := encoded(t, n, p)
 	var busy sync.WaitGroup
@@ -157,12 +158,12 @@ func TestCallsSideBySide(t *testing.T) {
 // Rule 1: nil and empty lists mean the same.
 func TestEmptyListsAreAsNil(t *testing.T) {
 	n := api.Net{In: samples.Line(1), Layers: []api.Layer{}, Names: []string{}}
-	p := asked(lists(numbers(1, 0)), numbers(-1))
+	p := cases.Asked(lists(numbers(1, 0)), numbers(-1))
 	expectVerdict(t, n, p, falsifiedAt(0, 1, 1))
 	p.G = [][]float64{}
 	expectVerdict(t, n, p, falsifiedAt(0, 1, 1))
 	expectRadius(t, n, p, 1, -1, falsifiedAt(0, 1, 1))
-	n, p = netOf(2), asked(nil, numbers(1, 2))
+	n, p = netOf(2), cases.Asked(nil, numbers(1, 2))
 	p.Target = 1
 	expectVerdict(t, n, p, robust(1, 1))
 	p.Claims = [][]float64{}

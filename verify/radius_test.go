@@ -6,18 +6,19 @@ import (
 	"testing"
 
 	"ambit/api"
+	"ambit/cases"
 	"ambit/oracle"
 	"ambit/samples"
 )
 
 // 19.6: robust with all of the columns.
 func TestRadiusOfAll(t *testing.T) {
-	n, p := example(false)
+	n, p := cases.Example(false)
 	for bits := range api.MaxRadius + 1 {
 		expectRadius(t, n, p, bits, 1<<bits, robust(0.5, 1))
 	}
 	// Where there are no columns, all of them are nothing.
-	expectRadius(t, netOf(1), asked(lists(numbers(1, 0)), numbers(3)), 20, 1<<20, robust(3, 1))
+	expectRadius(t, netOf(1), cases.Asked(lists(numbers(1, 0)), numbers(3)), 20, 1<<20, robust(3, 1))
 }
 
 // 19.6: not robust with none of the columns: the verdict at 0 is told, not that at all of them.
@@ -25,10 +26,10 @@ func TestRadiusOfNone(t *testing.T) {
 	n := netOf(1)
 	for _, bits := range []int{0, 1, 2, 20} {
 		// At all of it the gap is 3, at 0 it is 2; the column is still a symbol.
-		expectRadius(t, n, within(unit(numbers(1, -2)), 3, 9), bits, -1, falsifiedAt(0, 2, 1, 0))
+		expectRadius(t, n, cases.Within(cases.Unit(numbers(1, -2)), 3, 9), bits, -1, falsifiedAt(0, 2, 1, 0))
 		// At all of it there are halves that stay open; at 0 there is nothing to be halved.
-		expectRadius(t, n, within(unit(numbers(0, 0)), 3, 9), bits, -1, unknown(1, -1, 1))
-		expectRadius(t, n, asked(lists(numbers(1, 0)), numbers(0)), bits, -1, unknown(1, -1, 1))
+		expectRadius(t, n, cases.Within(cases.Unit(numbers(0, 0)), 3, 9), bits, -1, unknown(1, -1, 1))
+		expectRadius(t, n, cases.Asked(lists(numbers(1, 0)), numbers(0)), bits, -1, unknown(1, -1, 1))
 	}
 }
 
@@ -43,7 +44,7 @@ func TestRadiusBetween(t *testing.T) {
 			}
 			// The claim's least sum is above 0 till half a part behind that one.
 			room := (float64(at) + 0.5) / float64(whole)
-			p := within(unit(numbers(1, room)), 0, 1)
+			p := cases.Within(cases.Unit(numbers(1, room)), 0, 1)
 			expectRadius(t, n, p, bits, at, robust(room-float64(at)/float64(whole), 1))
 			// A least sum of just 0 is not robust.
 			if at > 0 {
@@ -57,13 +58,13 @@ func TestRadiusBetween(t *testing.T) {
 // 19.6: the question at each part has the same budgets, claims and centre: regions are halved there, too.
 func TestRadiusWithHalves(t *testing.T) {
 	// With all of the columns the quarters are settled, with half of them the whole is.
-	n := kinks(-0.5, 0.5)
-	p := unit(numbers(1, 0.125))
+	n := cases.Kinks(-0.5, 0.5)
+	p := cases.Unit(numbers(1, 0.125))
 	expectRadius(t, n, p, 3, 8, robust(0.125, 7))
-	expectRadius(t, n, within(p, 1, 1024), 1, 1, robust(0.125, 1))
-	expectRadius(t, n, within(p, 8, 6), 1, 1, robust(0.125, 1))
+	expectRadius(t, n, cases.Within(p, 1, 1024), 1, 1, robust(0.125, 1))
+	expectRadius(t, n, cases.Within(p, 8, 6), 1, 1, robust(0.125, 1))
 	// A target, and another centre.
-	n, p = netOf(2), asked(nil, numbers(1, 3), numbers(8, 0))
+	n, p = netOf(2), cases.Asked(nil, numbers(1, 3), numbers(8, 0))
 	p.Target = 1
 	expectRadius(t, n, p, 3, 1, robust(1, 1))
 }
@@ -151,9 +152,9 @@ func TestPartsOfColumns(t *testing.T) {
 func TestRadiusOfExtremes(t *testing.T) {
 	n := netOf(1)
 	// Half of the least number is 0 (the even one), three quarters of it the least number: with it the least sum is 0.
-	p := within(asked(lists(numbers(1, least)), numbers(0), numbers(least)), 0, 1)
+	p := cases.Within(cases.Asked(lists(numbers(1, least)), numbers(0), numbers(least)), 0, 1)
 	expectRadius(t, n, p, 2, 2, robust(least, 1))
 	// A product with the part would go too far before it is divided.
-	p = within(asked(lists(numbers(1, 0x1.7p1022)), numbers(0), numbers(most)), 0, 1)
+	p = cases.Within(cases.Asked(lists(numbers(1, 0x1.7p1022)), numbers(0), numbers(most)), 0, 1)
 	expectRadius(t, n, p, 3, 2, robust(0x1.7p1022-most/4, 1))
 }

@@ -6,6 +6,7 @@ import (
 	"testing"
 
 	"ambit/api"
+	"ambit/cases"
 	"ambit/flow"
 	"ambit/margin"
 	"ambit/oracle"
@@ -95,7 +96,7 @@ func wantVerdict(n api.Net, p api.Prop) api.Verdict {
 			}
 			if way < p.Depth && s.symbol != -1 && looked+2*halved+2 <= p.Looks {
 				halved++
-				lower, upper := halvesOf(s.region, s.symbol)
+				lower, upper := samples.Halves(s.region, s.symbol)
 				wave = append(wave, lower, upper)
 			} else {
 				open = append(open, s)
@@ -107,89 +108,6 @@ func wantVerdict(n api.Net, p api.Prop) api.Verdict {
 	}
 	worst := slices.MinFunc(settled, func(a, b seenRegion) int { return oracle.Exact(a.margin).Cmp(oracle.Exact(b.margin)) })
 	return robust(worst.margin, looked)
-}
-
-// halvesOf are a region's halves by a symbol.
-func halvesOf(r api.Region, s int) (lower, upper api.Region) {
-	lower, upper = samples.WholeRegion(r), samples.WholeRegion(r)
-	lower.Level[s], upper.Level[s] = r.Level[s]+1, r.Level[s]+1
-	lower.At[s], upper.At[s] = 2*r.At[s], 2*r.At[s]+1
-	return lower, upper
-}
-
-// someCase is a network of some kinds, of at most so many layers, and a question to it; its numbers are any.
-func someCase(m *oracle.Mixer, kinds []int, layers int) (api.Net, api.Prop) {
-	n, p, _ := samples.AskedOfKinds(m, kinds, 1)
-	n.Layers = n.Layers[:min(len(n.Layers), layers)]
-	_, out := samples.Widths(n)
-	p.Target, p.Claims = m.Below(out+1)-1, samples.MixedLists(m, 1+m.Below(2), out+1)
-	p.Depth, p.Looks = m.Below(9), 1+m.Below(50)
-	return n, p
-}
-
-// undecided is one whose claims hold or fail by about as much as zonotopes lose: so regions are halved.
-func undecided(m *oracle.Mixer, kinds []int, layers int) (api.Net, api.Prop) {
-	n, p := someCase(m, kinds, layers)
-	_, out := samples.Widths(n)
-	trace, _ := flow.Push(n, p, samples.Cube(len(p.G)), 1)
-	z := trace.Z[len(n.Layers)]
-	if z.Bad {
-		return n, p
-	}
-	p.Target, p.Claims = -1, nil
-	for range 1 + m.Below(3) {
-		var a []float64
-		for range out {
-			a = append(a, m.Number(0))
-		}
-		a = append(a, 0)
-		p.Claims = append(p.Claims, steered(m, z, a))
-	}
-	return n, p
-}
-
-// steered is a claim with a constant that puts its least sum over a zonotope near 0.
-func steered(m *oracle.Mixer, z api.Zono, a []float64) []float64 {
-	low, ok := margin.Margin(z, a)
-	middle := 0.0
-	for i, c := range z.C {
-		middle += a[i] * c
-	}
-	constant := (middle-low)*float64(4+m.Below(9))/10 - middle
-	if ok && constant-constant == 0 {
-		a[len(a)-1] = constant
-	}
-	return a
-}
-
-// wavy is one of one coordinate, with places at which zonotopes lose something, and bumps here and there.
-func wavy(m *oracle.Mixer) (api.Net, api.Prop) {
-	var places []float64
-	for range 1 + m.Below(4) {
-		places = append(places, float64(m.Below(33)-16)/16)
-	}
-	n := kinks(places...)
-	p := unit(numbers(1, float64(1+m.Below(8))/32))
-	if m.Below(3) == 0 {
-		n, p.Claims = bumps(1.5, places), lists(numbers(-1, 1+float64(m.Below(16))/16))
-	}
-	if m.Below(3) == 0 {
-		p.G = lists(numbers(0.75), numbers(-0.25))
-	}
-	p.Depth, p.Looks = m.Below(9), 1+m.Below(100)
-	return n, p
-}
-
-// mixedCase is a network and a question of any sort.
-func mixedCase(m *oracle.Mixer) (api.Net, api.Prop) {
-	kinds := [][]int{samples.EveryKind(), samples.BentKinds(), samples.ExactKinds(), {api.KDense, api.KRelu}}[m.Below(4)]
-	switch m.Below(5) {
-	case 0:
-		return someCase(m, kinds, 4)
-	case 1:
-		return wavy(m)
-	}
-	return undecided(m, kinds, 4)
 }
 
 // noteVerdict notes what a verdict is among what came up.
@@ -211,7 +129,7 @@ func TestVerdictsByTheWords(t *testing.T) {
 	var m oracle.Mixer
 	seen := oracle.Tally{}
 	for i := range 1000 {
-		n, p := mixedCase(&m)
+		n, p := cases.Mixed(&m)
 		want := wantVerdict(n, p)
 		expectJudge(t, n, p, 1+m.Below(16), want)
 		if i%10 == 0 {
@@ -232,7 +150,7 @@ func TestRadiiByTheWords(t *testing.T) {
 	var m oracle.Mixer
 	seen := oracle.Tally{}
 	for range 150 {
-		n, p := undecided(&m, samples.EveryKind(), 3)
+		n, p := cases.Undecided(&m, samples.EveryKind(), 3)
 		p.Depth, p.Looks = m.Below(3), 1+m.Below(8)
 		bits := m.Below(5)
 		at := func(i int) api.Verdict { return wantVerdict(n, shrunk(p, float64(i)/float64(int(1)<<bits))) }
